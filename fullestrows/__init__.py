@@ -1,0 +1,1 @@
+"""Questions with parts that may be missing, decided for all stores."""

@@ -1,0 +1,75 @@
+"""Maps: how the variables of a lot can stand for constants, so that its patterns are facts."""
+
+from fullestrows.facts import variables_of
+from fullestrows.joins import ways_to
+from fullestrows.search import each_row, first_solution, is_tree
+from fullestrows.tables import ready, tables_for
+
+
+def agree(one, other):
+    """Whether two maps have the same constants for all variables that are keys of both."""
+    return all([one[name] == other[name] for name in one if name in other])
+
+
+def joined(one, other):
+    """The map with the keys of both maps, which agree."""
+    both = {**one, **other}
+    return {name: both[name] for name in sorted(both)}
+
+
+def is_above(one, other):
+    """Whether the one map has all keys of the other one, with the same constants."""
+    return all([name in one and one[name] == other[name] for name in other])
+
+
+def only_keys(known, variables):
+    """The map with those keys of a map that are in a list of variables."""
+    return {name: known[name] for name in sorted(known) if name in variables}
+
+
+def in_order(several):
+    """The ascending list of some maps, each once."""
+    return [dict(pairs) for pairs in sorted({tuple(sorted(known.items())) for known in several})]
+
+
+def each_map(lot, store, known=None):
+    """A generator of all maps above known that fit a lot in a store, in ascending order."""
+    start = {} if known is None else dict(known)
+    names = [name for name in variables_of(lot) if name not in start]
+    tables = ready(tables_for(lot, store.facts, start))
+    if tables is not None:
+        sure = is_tree(tables)
+        for row in each_row(tables, names, (), sure):
+            yield joined(start, dict(zip(names, row)))
+
+
+def maps(lot, store, known=None):
+    """The list of all maps above known that fit a lot in a store, in ascending order."""
+    return list(each_map(lot, store, known))
+
+
+def first_match(lot, facts, known):
+    """The first dict above known that leads a lot to some facts or patterns, or None."""
+    start = {} if known is None else dict(known)
+    tables = ready(tables_for(lot, facts, start))
+    found = None if tables is None else first_solution(tables)
+    return None if found is None else joined(start, found)
+
+
+def first_map(lot, store, known=None):
+    """The first map above known that fits a lot in a store, or None if there is none."""
+    return first_match(lot, store.facts, known)
+
+
+def count_maps(lot, store, known=None):
+    """The number of the maps above known that fit a lot in a store."""
+    start = {} if known is None else known
+    tables = ready(tables_for(lot, store.facts, start))
+    if tables is None:
+        return 0
+    return ways_to(tables, []).get((), 0)
+
+
+def map_between(lot, others, known=None):
+    """The first dict above known that leads a lot to patterns of another one, or None."""
+    return first_match(lot, sorted(set(others)), known)

@@ -1,0 +1,204 @@
+import itertools
+import unittest
+
+from fullestrows.errors import Clash
+from fullestrows.facts import Store, filled, variables_of
+from fullestrows.matching import is_above, maps
+from fullestrows.rules import Key, Rule, closed, keeps, store_of
+from values import dice, given, names_in, slow_maps, some_lot
+
+WAY = Rule([("e", "?x", "?y"), ("e", "?y", "?z")], ("e", "?x", "?z"))
+
+
+def exchanges(lot, key):
+    """The pairs of terms that a key makes equal in a lot."""
+    rows = [pattern for pattern in lot if pattern[0] == key.table and len(pattern) == key.size + 1]
+    for one, other in itertools.combinations(rows, 2):
+        if all(one[place + 1] == other[place + 1] for place in key.places):
+            yield from [(low, high) for low, high in zip(one, other) if low != high]
+
+
+def one_step(lot, terms, step):
+    """The lot and the terms after one step of point 32."""
+    if step[0] == "head":
+        return lot | {step[1]}, terms
+    low, high = sorted(step[1])
+    if low[0] != "?":
+        raise Clash()
+    kept, gone = (low, high) if high[0] == "?" else (high, low)
+    return ({given(pattern, {gone: kept}) for pattern in lot},
+            {name: kept if term == gone else term for name, term in terms.items()})
+
+
+def slow_closed(lot, rules, numbers):
+    """Point 32 to the letter, one step at a time, in any order."""
+    lot, terms = set(lot), {name: name for name in names_in(lot)}
+    while True:
+        steps = []
+        for rule in rules:
+            if isinstance(rule, Key):
+                steps += [("same", pair) for pair in exchanges(sorted(lot), rule)]
+            else:
+                heads = [given(rule.head, found) for found in slow_maps(rule.body, lot)]
+                steps += [("head", head) for head in heads if head not in lot]
+        if not steps:
+            return sorted(lot), terms
+        lot, terms = one_step(lot, terms, numbers.choice(steps))
+
+
+def some_rules(numbers):
+    """Up to three keys and implications."""
+    rules = []
+    for _ in range(numbers.randint(0, 3)):
+        if numbers.random() < 0.5:
+            size = numbers.randint(1, 3)
+            rules.append(Key(numbers.choice("ab"), size, numbers.sample(range(size), numbers.randint(0, size))))
+        else:
+            body = some_lot(numbers, numbers.randint(0, 2), ["?x", "?y", "?p", "k"])
+            held = names_in(body) + ["k"]
+            rules.append(Rule(body, (numbers.choice("abc"), *numbers.choices(held, k=numbers.randint(0, 3)))))
+    return rules
+
+
+class Closing(unittest.TestCase):
+    """Point 32."""
+
+    def check(self, lot, rules, patterns, terms):
+        found = closed(lot, rules)
+        self.assertIsInstance(found, tuple)
+        self.assertEqual(found[0], patterns)
+        self.assertEqual(list(found[1].items()), sorted(terms.items()))
+
+    def test_nothing_to_do(self):
+        self.check([], [], [], {})
+        self.check([("b", "?y"), ("a", "?x"), ("b", "?y")], [], [("a", "?x"), ("b", "?y")], {"?x": "?x", "?y": "?y"})
+        self.check([("a", "?x", "k")], [Key("a", 2, [0]), WAY], [("a", "?x", "k")], {"?x": "?x"})
+
+    def test_variable_by_constant(self):
+        self.check([("a", "k", "?x"), ("a", "k", "z"), ("b", "?x")], [Key("a", 2, [0])],
+                   [("a", "k", "z"), ("b", "z")], {"?x": "z"})
+        self.check([("a", "k", "?x"), ("a", "k", "a"), ("b", "?x")], [Key("a", 2, [0])],
+                   [("a", "k", "a"), ("b", "a")], {"?x": "a"})
+
+    def test_greater_variable_by_lesser_one(self):
+        self.check([("a", "k", "?y"), ("a", "k", "?x"), ("b", "?y", "?x")], [Key("a", 2, [0])],
+                   [("a", "k", "?x"), ("b", "?x", "?x")], {"?x": "?x", "?y": "?x"})
+
+    def test_several_in_a_row(self):
+        self.check([("a", "?p", "?q"), ("a", "?p", "?r"), ("a", "?q", "?s"), ("a", "?r", "m")], [Key("a", 2, [0])],
+                   [("a", "?p", "?q"), ("a", "?q", "m")], {"?p": "?p", "?q": "?q", "?r": "?q", "?s": "m"})
+
+    def test_several_places(self):
+        self.check([("a", "k", "?x", "?y"), ("a", "k", "m", "?z")], [Key("a", 3, [0])],
+                   [("a", "k", "m", "?y")], {"?x": "m", "?y": "?y", "?z": "?y"})
+        self.check([("a", "k", "?x", "?x"), ("a", "k", "?y", "m")], [Key("a", 3, [0])],
+                   [("a", "k", "m", "m")], {"?x": "m", "?y": "m"})
+
+    def test_clash(self):
+        for lot in [[("a", "?x", "k"), ("a", "?x", "l")], [("a", "k", "?x"), ("a", "k", "l"), ("a", "l", "m"),
+                                                          ("a", "?x", "n")],
+                    [("a", "?x", "?y"), ("a", "?x", "k"), ("a", "m", "l"), ("b", "?y")]]:
+            rules = [Key("a", 2, [0]), Rule([("b", "k")], ("a", "m", "k"))]
+            with self.subTest(lot), self.assertRaises(Clash):
+                closed(lot, rules)
+
+    def test_key_without_places(self):
+        self.check([("a", "?x", "?y"), ("a", "?y", "?z")], [Key("a", 2, [])], [("a", "?x", "?x")],
+                   {"?x": "?x", "?y": "?x", "?z": "?x"})
+
+    def test_size_counts(self):
+        self.check([("a", "?x"), ("a", "?x", "k"), ("a", "?x", "l")], [Key("a", 1, [])],
+                   [("a", "?x"), ("a", "?x", "k"), ("a", "?x", "l")], {"?x": "?x"})
+
+    def test_implications(self):
+        self.check([("e", "?a", "?b"), ("e", "?b", "?c"), ("e", "?c", "d")], [WAY],
+                   [("e", "?a", "?b"), ("e", "?a", "?c"), ("e", "?a", "d"), ("e", "?b", "?c"), ("e", "?b", "d"),
+                    ("e", "?c", "d")], {"?a": "?a", "?b": "?b", "?c": "?c"})
+
+    def test_equal_names_in_rules_and_lots(self):
+        self.check([("e", "?z", "?x"), ("e", "?x", "?y")], [WAY],
+                   [("e", "?x", "?y"), ("e", "?z", "?x"), ("e", "?z", "?y")], {"?x": "?x", "?y": "?y", "?z": "?z"})
+        self.check([("a", "?y", "?x")], [Rule([("a", "?x", "?y")], ("b", "?y", "?x"))],
+                   [("a", "?y", "?x"), ("b", "?x", "?y")], {"?x": "?x", "?y": "?y"})
+
+    def test_variables_of_the_lot_are_no_constants_of_a_rule(self):
+        rule = Rule([("a", "?x", "k")], ("b", "?x"))
+        self.check([("a", "?x", "?y")], [rule], [("a", "?x", "?y")], {"?x": "?x", "?y": "?y"})
+        self.check([("a", "?y", "k")], [rule], [("a", "?y", "k"), ("b", "?y")], {"?y": "?y"})
+
+    def test_implication_without_body(self):
+        self.check([], [Rule([], ("a", "k"))], [("a", "k")], {})
+        self.check([("a", "?x")], [Rule([], ("a", "k")), Key("a", 1, [])], [("a", "k")], {"?x": "k"})
+
+    def test_keys_and_implications_together(self):
+        rules = [Rule([("m", "?x", "?y")], ("n", "?x", "?y")), Key("n", 2, [0]), Rule([("m", "?x", "?x")], ("o", "?x"))]
+        self.check([("m", "?a", "?b"), ("n", "?a", "?a")], rules,
+                   [("m", "?a", "?a"), ("n", "?a", "?a"), ("o", "?a")], {"?a": "?a", "?b": "?a"})
+        with self.assertRaises(Clash):
+            closed([("m", "?a", "k"), ("n", "?a", "l")], rules)
+
+    def test_key_holds_again_behind_an_implication(self):
+        rules = [Key("n", 2, [0]), Rule([("m", "?x", "?y")], ("n", "k", "?y"))]
+        self.check([("m", "?a", "?b"), ("m", "?c", "l")], rules,
+                   [("m", "?a", "l"), ("m", "?c", "l"), ("n", "k", "l")], {"?a": "?a", "?b": "l", "?c": "?c"})
+
+    def test_order_means_nothing(self):
+        ended = 0
+        for seed in range(500):
+            numbers = dice(seed)
+            lot = some_lot(numbers, numbers.randint(0, 5), ["?x", "?y", "?z", "?u", "k", "l"])
+            rules = some_rules(numbers)
+            with self.subTest(seed):
+                try:
+                    wanted = slow_closed(lot, rules, numbers)
+                except Clash:
+                    self.assertRaises(Clash, closed, lot, rules)
+                    continue
+                ended += 1
+                self.check(lot, rules, *wanted)
+                self.check(tuple(reversed(lot)), tuple(reversed(rules)), *wanted)
+        self.assertGreater(ended, 200)
+
+    def test_long_way(self):
+        lot = [("e", f"?v{at}", f"?v{at + 1}") for at in range(18)]
+        self.assertEqual(len(closed(lot, [WAY])[0]), 19 * 18 // 2)
+
+
+class MainStatement(unittest.TestCase):
+    """Point 33."""
+
+    def test_end_is_a_store_that_keeps_the_rules(self):
+        for seed in range(300):
+            numbers = dice(seed)
+            lot = some_lot(numbers, numbers.randint(0, 5), ["?x", "?y", "?z", "?u", "k", "l"])
+            rules = some_rules(numbers)
+            try:
+                patterns, terms = closed(lot, rules)
+            except Clash:
+                continue
+            with self.subTest(seed):
+                store, names = store_of(patterns)
+                self.assertTrue(keeps(store, rules))
+                found = {name: names.get(term, term) for name, term in terms.items()}
+                self.assertTrue(all(filled(pattern, found) in store for pattern in lot))
+                self.assertEqual(closed(patterns, rules), (patterns, {name: name for name in variables_of(patterns)}))
+
+    def test_maps_fit_the_end(self):
+        met = 0
+        for seed in range(600):
+            numbers = dice(seed)
+            store = Store(some_lot(numbers, numbers.randint(2, 12), ["k", "l", "m"]))
+            lot = some_lot(numbers, numbers.randint(1, 3), ["?x", "?y", "?z", "k"])
+            rules = some_rules(numbers)
+            fitting = maps(lot, store)
+            if fitting and keeps(store, rules):
+                patterns, terms = closed(lot, rules)
+                for found in fitting:
+                    met += 1
+                    self.assertTrue(all(filled(pattern, found) in store for pattern in patterns))
+                    self.assertTrue(is_above(found, {name: found.get(term, term) for name, term in terms.items()}))
+        self.assertGreater(met, 100)
+
+
+if __name__ == "__main__":
+    unittest.main()

@@ -1,0 +1,184 @@
+"""Points 8 and 9: arguments by name, nothing passed is changed, what is returned is new each time."""
+
+import copy
+import unittest
+
+from fullestrows import facts, matching, rules
+from fullestrows.facts import Store
+from fullestrows.rules import Key, Rule
+
+ROWS = (("e", "a", "b"), ("e", "b", "c"), ("n", "b"))
+
+
+def store():
+    return Store(list(ROWS))
+
+
+def lot():
+    return [("e", "?x", "?y"), ("n", "?y"), ("e", "?x", "?y")]
+
+
+def some_rules():
+    return [Key("e", 2, [0]), Rule([("e", "?p", "?q")], ("n", "?q"))]
+
+
+# Each function with its arguments by the names that the interface gives them, in its order.
+CALLS = [
+    (facts.is_name, {"value": ["a"]}),
+    (facts.is_variable, {"value": {"?a": []}}),
+    (facts.is_pattern, {"value": ["a", ["?x"]]}),
+    (facts.is_fact, {"value": ("a", ["b"])}),
+    (facts.variables_of, {"lot": lot()}),
+    (facts.filled, {"pattern": ("e", "?x", "?y"), "known": {"?y": "b", "?x": "?q"}}),
+    (facts.pattern_text, {"pattern": ("e", "?x")}),
+    (facts.read_pattern, {"text": "e(?x)"}),
+    (facts.Store, {"facts": [("b",), ("a",), ("b",)]}),
+    (Store.read, {"text": "a()\nb()"}),
+    (store().within, {"other": store()}),
+    (store().only, {"tables": ["n", "e", "n"]}),
+    (matching.each_map, {"lot": lot(), "store": store(), "known": {"?z": "q", "?x": "a"}}),
+    (matching.maps, {"lot": lot(), "store": store(), "known": {"?z": "q", "?x": "a"}}),
+    (matching.first_map, {"lot": lot(), "store": store(), "known": {"?z": "q", "?x": "a"}}),
+    (matching.count_maps, {"lot": lot(), "store": store(), "known": {"?z": "q", "?x": "a"}}),
+    (matching.map_between, {"lot": lot(), "others": [("n", "?b"), ("e", "?a", "?b"), ("n", "?b")],
+                            "known": {"?z": "?q", "?x": "?a"}}),
+    (matching.agree, {"one": {"?y": "b", "?x": "a"}, "other": {"?x": "a"}}),
+    (matching.joined, {"one": {"?y": "b", "?x": "a"}, "other": {"?w": "c"}}),
+    (matching.is_above, {"one": {"?y": "b", "?x": "a"}, "other": {"?x": "a"}}),
+    (matching.only_keys, {"known": {"?y": "b", "?x": "a"}, "variables": ["?y", "?x"]}),
+    (matching.in_order, {"several": [{"?y": "b", "?x": "a"}, {"?x": "a"}]}),
+    (rules.Key, {"table": "a", "size": 2, "places": [1, 0]}),
+    (rules.Rule, {"body": lot(), "head": ("m", "?x")}),
+    (rules.broken, {"store": store(), "rules": some_rules()}),
+    (rules.keeps, {"store": store(), "rules": some_rules()}),
+    (rules.closed, {"lot": lot(), "rules": some_rules()}),
+    (rules.store_of, {"lot": lot(), "taken": ["new2", "new1"]}),
+]
+
+
+def outcome(function, *by_position, **by_name):
+    """What a call returns; of a generator, what it yields."""
+    result = function(*by_position, **by_name)
+    return list(result) if function is matching.each_map else result
+
+
+def as_tuples(value):
+    """A list as a tuple."""
+    return tuple(value) if isinstance(value, list) else value
+
+
+def spoil(value):
+    """Empties all lists and dicts in a value."""
+    if isinstance(value, (list, tuple, dict)):
+        for item in list(value.values()) if isinstance(value, dict) else value:
+            spoil(item)
+    if isinstance(value, (list, dict)):
+        value.clear()
+
+
+def plain(value):
+    """Values with the order of the keys of dicts, and objects by what they tell."""
+    if isinstance(value, Store):
+        return "store", value.facts
+    if isinstance(value, Key):
+        return "key", value.table, value.size, value.places
+    if isinstance(value, Rule):
+        return "rule", value.body, value.head
+    if isinstance(value, dict):
+        return "dict", [(key, plain(item)) for key, item in value.items()]
+    if isinstance(value, (list, tuple)):
+        return value.__class__.__name__, [plain(item) for item in value]
+    return value
+
+
+class Calls(unittest.TestCase):
+    def test_every_function_is_called(self):
+        listed = {
+            facts: "is_name is_variable is_pattern is_fact variables_of filled pattern_text read_pattern Store",
+            matching: "each_map maps first_map count_maps map_between agree joined is_above only_keys in_order",
+            rules: "Key Rule broken keeps closed store_of"}
+        called = {function for function, _ in CALLS}
+        for module, names in listed.items():
+            for name in names.split():
+                self.assertIn(getattr(module, name), called)
+
+    def test_by_name_as_by_position(self):
+        for function, arguments in CALLS:
+            with self.subTest(function.__name__):
+                names = dict(reversed(list(arguments.items())))
+                self.assertEqual(plain(outcome(function, **names)), plain(outcome(function, *arguments.values())))
+
+    def test_nothing_passed_is_changed(self):
+        for function, arguments in CALLS:
+            with self.subTest(function.__name__):
+                before = plain(copy.deepcopy(arguments))
+                outcome(function, **arguments)
+                self.assertEqual(plain(arguments), before)
+
+    def test_what_is_returned_is_new(self):
+        for function, arguments in CALLS:
+            with self.subTest(function.__name__):
+                result = outcome(function, **arguments)
+                before = plain(copy.deepcopy(result))
+                spoil(result)
+                self.assertEqual(plain(outcome(function, **arguments)), before)
+
+    def test_what_is_returned_is_not_what_was_passed(self):
+        for function, arguments in CALLS:
+            with self.subTest(function.__name__):
+                before = plain(copy.deepcopy(arguments))
+                spoil(outcome(function, **arguments))
+                self.assertEqual(plain(arguments), before)
+
+    def test_tuples_for_lists(self):
+        any_values = (facts.is_name, facts.is_variable, facts.is_pattern, facts.is_fact)
+        for function, arguments in CALLS:
+            with self.subTest(function.__name__):
+                if function not in any_values:
+                    others = {name: as_tuples(value) for name, value in arguments.items()}
+                    self.assertEqual(plain(outcome(function, **others)), plain(outcome(function, **arguments)))
+
+    def test_defaults(self):
+        self.assertEqual(Store().facts, ())
+        self.assertEqual(list(matching.each_map([("n", "?x")], store())), [{"?x": "b"}])
+        self.assertEqual(matching.maps([("n", "?x")], store(), None), [{"?x": "b"}])
+        self.assertEqual(matching.first_map([("n", "?x")], store()), {"?x": "b"})
+        self.assertEqual(matching.count_maps([("n", "?x")], store()), 1)
+        self.assertEqual(matching.map_between([("n", "?x")], [("n", "?x")]), {"?x": "?x"})
+        self.assertEqual(rules.store_of([("n", "?x")])[1], {"?x": "new1"})
+
+    def test_each_map_goes_on_with_what_was_passed(self):
+        wanted, known = [("e", "?x", "?y")], {"?z": "q"}
+        steps = matching.each_map(wanted, store(), known)
+        first = next(steps)
+        wanted.clear()
+        known.clear()
+        first.clear()
+        self.assertEqual(list(steps), [{"?x": "b", "?y": "c", "?z": "q"}])
+
+    def test_stores_stay_as_they_are(self):
+        held = store()
+        for other in [held + Store([("x",)]), held - held, held.only(["n"])]:
+            self.assertIsNot(other, held)
+        held.constants().append("z")
+        self.assertEqual((held.facts, held.constants(), held.text()), (ROWS, ["a", "b", "c"], "e(a,b)\ne(b,c)\nn(b)"))
+
+    def test_breaches_are_new(self):
+        held = Store([("e", "a", "b"), ("e", "a", "c")])
+        for rule in some_rules():
+            found = rules.broken(held, [rule])
+            found[1].clear()
+            self.assertEqual(len(rules.broken(held, [rule])[1]), 2 if isinstance(rule, Key) else 1)
+
+    def test_limits_do_not_hold_for_what_was_returned(self):
+        wide = [("n", f"?x{at}") for at in range(70)]
+        patterns, _ = rules.closed(wide, [Rule([("n", "?p"), ("n", "?q")], ("e", "?p", "?q"))])
+        self.assertEqual(len(patterns), 70 + 70 * 70)
+        held, names = rules.store_of(patterns)
+        self.assertEqual(len(held), len(patterns))
+        self.assertEqual(matching.first_map(patterns[-70:], held), {name: "new1" for name in names})
+        self.assertEqual(matching.map_between(wide[:20], patterns), {f"?x{at}": "?x0" for at in range(20)})
+
+
+if __name__ == "__main__":
+    unittest.main()
