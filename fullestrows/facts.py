@@ -95,6 +95,10 @@ class Store:
         # A value that is no fact need not be fit to be a key.
         return is_fact(value) and value in self._held
 
+    def has(self, pattern):
+        """Whether a pattern is a fact of the store; for patterns only, so no look at its form is needed."""
+        return pattern in self._held
+
     def __eq__(self, other):
         return isinstance(other, Store) and self._facts == other._facts
 

@@ -1,49 +1,12 @@
-import itertools
 import unittest
 
 from fullestrows.errors import Clash
 from fullestrows.facts import Store, filled, variables_of
 from fullestrows.matching import is_above, maps
 from fullestrows.rules import Key, Rule, closed, keeps, store_of
-from values import dice, given, names_in, slow_maps, some_lot
+from values import dice, given, names_in, slow_closed, slow_maps, some_lot
 
 WAY = Rule([("e", "?x", "?y"), ("e", "?y", "?z")], ("e", "?x", "?z"))
-
-
-def exchanges(lot, key):
-    """The pairs of terms that a key makes equal in a lot."""
-    rows = [pattern for pattern in lot if pattern[0] == key.table and len(pattern) == key.size + 1]
-    for one, other in itertools.combinations(rows, 2):
-        if all(one[place + 1] == other[place + 1] for place in key.places):
-            yield from [(low, high) for low, high in zip(one, other) if low != high]
-
-
-def one_step(lot, terms, step):
-    """The lot and the terms after one step of point 32."""
-    if step[0] == "head":
-        return lot | {step[1]}, terms
-    low, high = sorted(step[1])
-    if low[0] != "?":
-        raise Clash()
-    kept, gone = (low, high) if high[0] == "?" else (high, low)
-    return ({given(pattern, {gone: kept}) for pattern in lot},
-            {name: kept if term == gone else term for name, term in terms.items()})
-
-
-def slow_closed(lot, rules, numbers):
-    """Point 32 to the letter, one step at a time, in any order."""
-    lot, terms = set(lot), {name: name for name in names_in(lot)}
-    while True:
-        steps = []
-        for rule in rules:
-            if isinstance(rule, Key):
-                steps += [("same", pair) for pair in exchanges(sorted(lot), rule)]
-            else:
-                heads = [given(rule.head, found) for found in slow_maps(rule.body, lot)]
-                steps += [("head", head) for head in heads if head not in lot]
-        if not steps:
-            return sorted(lot), terms
-        lot, terms = one_step(lot, terms, numbers.choice(steps))
 
 
 def some_rules(numbers):

@@ -1,10 +1,14 @@
 import unittest
 
-from fullestrows.errors import BadLine, Clash
+from fullestrows.answers import answers, by_part, changes, fullest, is_answer, lost, tellers
+from fullestrows.errors import BadLine, Clash, Loose, NoPart, OrBelow
 from fullestrows.facts import Store, filled, is_fact, is_pattern, pattern_text, read_pattern, variables_of
+from fullestrows.forms import Form, arms, form_of, loose, meaning, shrunk, wood_of
+from fullestrows.games import candidates, goes_on, is_lost, spoil
 from fullestrows.matching import (
     agree, count_maps, first_map, in_order, is_above, joined, map_between, maps, only_keys,
 )
+from fullestrows.questions import Question
 from fullestrows.rules import Key, Rule, broken, closed, keeps, store_of
 
 
@@ -73,6 +77,74 @@ class Examples(unittest.TestCase):
             [(('mayor', 'rome', 'new3'), ('town', 'new2', 'new1')), {'?x': 'new2', '?z': 'new3'}])
         with self.assertRaises(Clash):
             closed([("town", "?x", "oslo"), ("town", "?x", "rome")], [one_town])
+
+    def test_questions(self):
+        question = Question([(None, [("a", "?x")]), (0, [("b", "?x", "?y"), ("a", "?x")]), (1, [("c", "?y", "?z")]),
+                             (0, [("d", "?x", "?u")])])
+        self.check(
+            [question.parts()[2], question.next_nodes((0, 1)), question.new_variables(1),
+             question.part_with(["?y", "?x", "?u"])],
+            [(0, 1, 2), [2, 3], ['?y'], (0, 1, 3)])
+        self.check(question.text().split("\n"), ['a(?x)', ' a(?x) b(?x,?y)', '  c(?y,?z)', ' d(?x,?u)'])
+        self.check(question.renamed({"?x": "?z", "?z": "?x"}).variables((0, 1)), ['?y', '?z'])
+        with self.assertRaises(Loose) as caught:
+            Question([(None, [("a", "?x")]), (0, [("b", "?y")]), (1, [("c", "?x", "?z")])])
+        self.assertEqual(caught.exception.variable, '?x')
+
+    def test_answers(self):
+        question = Question([(None, [("person", "?x")]), (0, [("town", "?x", "?y")]), (1, [("mayor", "?y", "?z")])])
+        store = Store([("person", "ann"), ("person", "bob"), ("town", "bob", "oslo"), ("town", "eve", "rome")])
+        self.check(answers([question], store), [{'?x': 'ann'}, {'?x': 'bob', '?y': 'oslo'}])
+        self.check(
+            [by_part(question, store)[(0, 1)], tellers([question], store, {"?x": "ann"}),
+             is_answer([question], store, {"?x": "bob"})],
+            [[{'?x': 'bob', '?y': 'oslo'}], [(0, (0,))], False])
+        later = store + Store([("mayor", "oslo", "eve")])
+        self.check(
+            [lost([question], store, later), lost([question], later, store)],
+            [[], [{'?x': 'bob', '?y': 'oslo', '?z': 'eve'}]])
+        self.check(
+            [changes([question], store, later)[0], fullest(question, later, {"?x": "bob"})],
+            [[{'?x': 'bob', '?y': 'oslo'}], {'?x': 'bob', '?y': 'oslo', '?z': 'eve'}])
+        with self.assertRaises(NoPart) as caught:
+            fullest(Question([(None, [("person", "?x")])]), Store([("person", "ann")]), {"?x": "eve"})
+        self.assertEqual(caught.exception.known, {'?x': 'eve'})
+
+    def test_forms(self):
+        form = (Form.lot([("a", "?x")]) | Form.lot([("b", "?x")])).opt(Form.read("({c(?x,?y)} opt {d(?y,?z)})"))
+        store = Store([("a", "m"), ("b", "n"), ("c", "n", "k")])
+        self.check(
+            [form.text(), meaning(form, store), len(arms(form)), loose(form)],
+            ['(({a(?x)} | {b(?x)}) opt ({c(?x,?y)} opt {d(?y,?z)}))', [{'?x': 'm'}, {'?x': 'n', '?y': 'k'}], 2, None])
+        wood = wood_of(form)
+        self.check(
+            [answers(wood, store) == meaning(form, store), meaning(form_of(wood), store) == meaning(form, store),
+             form.variables()],
+            [True, True, ['?x', '?y', '?z']])
+        odd = Form.read("(({a(?x)} opt {b(?y)}) & {c(?x,?y)})")
+        few = Store([("a", "m"), ("c", "m", "k")])
+        self.check(
+            [loose(odd), meaning(odd, few), shrunk(odd, few, few + Store([("b", "n")]))],
+            ['?y', [{'?x': 'm', '?y': 'k'}], [{'?x': 'm', '?y': 'k'}]])
+        with self.assertRaises(OrBelow):
+            wood_of(Form.read("({a(?x)} opt ({b(?x)} | {c(?x,?y)}))"))
+
+    def test_games(self):
+        towns = Question([(None, [("person", "?x")]), (0, [("town", "?x", "?y")])])
+        people = Question([(None, [("person", "?x")])])
+        lot = [("person", "?a")]
+        self.check(
+            [candidates(lot, [people, towns], {"?x": "?a"}), goes_on(lot, [towns], {"?x": "?a"}, 0, (0,)),
+             spoil(lot, [people], {"?x": "?a"})],
+            [[(0, (0,)), (1, (0,))], False, ('lost', ('stuck', 0, (0,)))])
+        self.check(spoil(lot, [towns], {"?x": "?a"}),
+                   ('won', [('person', '?a'), ('town', '?a', '?new1')], {'?x': '?a'}))
+        paper = spoil(lot, [towns], {"?x": "?a"}, goals=[[("town", "?x", "?z")]])[1]
+        self.check(paper, ('put', 0, (0,), [(1, ('had', 0, {'?x': '?a', '?z': '?new1'}))]))
+        self.check(
+            [is_lost(paper, lot, [towns], {"?x": "?a"}, goals=[[("town", "?x", "?z")]]),
+             is_lost(paper, lot, [towns], {"?x": "?a"})],
+            [True, False])
 
 
 if __name__ == "__main__":

@@ -3,8 +3,10 @@
 import copy
 import unittest
 
-from fullestrows import facts, matching, rules
+from fullestrows import answers, facts, forms, games, matching, questions, rules
 from fullestrows.facts import Store
+from fullestrows.forms import Form
+from fullestrows.questions import Question
 from fullestrows.rules import Key, Rule
 
 ROWS = (("e", "a", "b"), ("e", "b", "c"), ("n", "b"))
@@ -21,6 +23,29 @@ def lot():
 def some_rules():
     return [Key("e", 2, [0]), Rule([("e", "?p", "?q")], ("n", "?q"))]
 
+
+def nodes():
+    return [(None, [("n", "?y"), ("n", "?x")]), (0, [("m", "?x", "?z")]), (1, [("e", "?z", "?w"), ("n", "?w")])]
+
+
+def wood():
+    return [Question(nodes()), Question([(None, [("n", "?x")]), (0, [("e", "?x", "?y")])])]
+
+
+def form():
+    return (Form.lot([("n", "?x"), ("e", "?y", "?x")]) | Form.lot([("m", "?x")])).opt(Form.lot([("e", "?x", "?z")]))
+
+
+def later():
+    return Store([("e", "b", "c"), ("m", "b", "e"), ("n", "b"), ("n", "c")])
+
+
+TOLD = {"?y": "b", "?x": "b"}
+QUESTION = Question(nodes())
+FORM = form()
+PLAY = {"lot": [("n", "?b"), ("n", "?a"), ("n", "?b")], "wood": wood(), "known": {"?y": "?b", "?x": "?a"}}
+GOALS = {"goals": [[("f", "?x")], [("e", "?q", "?r")]], "rules": [Rule([("m", "?p", "?q")], ("e", "?q", "?q"))]}
+PAPER = games.spoil(**PLAY, **GOALS)[1]
 
 # Each function with its arguments by the names that the interface gives them, in its order.
 CALLS = [
@@ -53,18 +78,61 @@ CALLS = [
     (rules.keeps, {"store": store(), "rules": some_rules()}),
     (rules.closed, {"lot": lot(), "rules": some_rules()}),
     (rules.store_of, {"lot": lot(), "taken": ["new2", "new1"]}),
+    (questions.Question, {"nodes": nodes()}),
+    (Question.read, {"text": QUESTION.text()}),
+    (QUESTION.new_variables, {"index": 0}),
+    (QUESTION.is_part, {"value": [0]}),
+    (QUESTION.parts, {}),
+    (QUESTION.next_nodes, {"part": (0,)}),
+    (QUESTION.variables, {"part": (0, 1)}),
+    (QUESTION.patterns, {"part": (0, 1)}),
+    (QUESTION.part_with, {"variables": ["?z", "?y", "?x", "?y"]}),
+    (QUESTION.text, {}),
+    (QUESTION.renamed, {"names": {"?y": "?x", "?x": "?y"}}),
+    (answers.answers, {"wood": wood(), "store": later()}),
+    (answers.each_answer, {"wood": wood(), "store": later()}),
+    (answers.by_part, {"question": QUESTION, "store": later()}),
+    (answers.tellers, {"wood": wood(), "store": store(), "known": TOLD}),
+    (answers.is_answer, {"wood": wood(), "store": store(), "known": TOLD}),
+    (answers.fullest, {"question": QUESTION, "store": later(), "known": TOLD}),
+    (answers.lost, {"wood": wood(), "store": store(), "later": later()}),
+    (answers.changes, {"wood": wood(), "store": store(), "later": later()}),
+    (Form.lot, {"patterns": lot()}),
+    (Form.read, {"text": FORM.text()}),
+    (FORM.opt, {"other": form()}),
+    (FORM.variables, {}),
+    (FORM.text, {}),
+    (forms.meaning, {"form": form(), "store": store()}),
+    (forms.arms, {"form": form()}),
+    (forms.loose, {"form": Form.lot([("a",)]).opt(FORM.halves[1]) & FORM}),
+    (forms.wood_of, {"form": form()}),
+    (forms.form_of, {"wood": wood()}),
+    (forms.shrunk, {"form": form(), "store": store(), "later": Store([("m", "b")])}),
+    (games.candidates, PLAY),
+    (games.goes_on, {**PLAY, "tree": 0, "part": (0,)}),
+    (games.spoil, PLAY),
+    (games.is_lost, {"paper": PAPER, **PLAY}),
+]
+
+# Calls with arguments behind a *, which are passed by name only.
+FURTHER = [
+    (games.spoil, PLAY, GOALS),
+    (games.spoil, PLAY, {"rules": [Key("n", 1, [])], "goals": [[("e", "?q", "?r")]]}),
+    (games.is_lost, {"paper": PAPER, **PLAY}, GOALS),
 ]
 
 
 def outcome(function, *by_position, **by_name):
     """What a call returns; of a generator, what it yields."""
     result = function(*by_position, **by_name)
-    return list(result) if function is matching.each_map else result
+    return list(result) if function in (matching.each_map, answers.each_answer) else result
 
 
 def as_tuples(value):
-    """A list as a tuple."""
-    return tuple(value) if isinstance(value, list) else value
+    """All lists in a value as tuples."""
+    if isinstance(value, (list, tuple)):
+        return tuple(as_tuples(item) for item in value)
+    return value
 
 
 def spoil(value):
@@ -84,6 +152,10 @@ def plain(value):
         return "key", value.table, value.size, value.places
     if isinstance(value, Rule):
         return "rule", value.body, value.head
+    if isinstance(value, Question):
+        return "question", value.nodes
+    if isinstance(value, Form):
+        return "form", value.text()
     if isinstance(value, dict):
         return "dict", [(key, plain(item)) for key, item in value.items()]
     if isinstance(value, (list, tuple)):
@@ -96,7 +168,11 @@ class Calls(unittest.TestCase):
         listed = {
             facts: "is_name is_variable is_pattern is_fact variables_of filled pattern_text read_pattern Store",
             matching: "each_map maps first_map count_maps map_between agree joined is_above only_keys in_order",
-            rules: "Key Rule broken keeps closed store_of"}
+            rules: "Key Rule broken keeps closed store_of",
+            questions: "Question",
+            answers: "answers each_answer by_part tellers is_answer fullest lost changes",
+            forms: "meaning arms loose wood_of form_of shrunk",
+            games: "candidates goes_on spoil is_lost"}
         called = {function for function, _ in CALLS}
         for module, names in listed.items():
             for name in names.split():
@@ -131,12 +207,33 @@ class Calls(unittest.TestCase):
                 self.assertEqual(plain(arguments), before)
 
     def test_tuples_for_lists(self):
-        any_values = (facts.is_name, facts.is_variable, facts.is_pattern, facts.is_fact)
+        any_values = (facts.is_name, facts.is_variable, facts.is_pattern, facts.is_fact, QUESTION.is_part)
         for function, arguments in CALLS:
             with self.subTest(function.__name__):
                 if function not in any_values:
                     others = {name: as_tuples(value) for name, value in arguments.items()}
                     self.assertEqual(plain(outcome(function, **others)), plain(outcome(function, **arguments)))
+
+    def test_behind_the_star(self):
+        for function, arguments, named in FURTHER:
+            with self.subTest(function.__name__):
+                before = plain(copy.deepcopy([arguments, named]))
+                result = function(**arguments, **named)
+                told = plain(copy.deepcopy(result))
+                self.assertEqual(plain(function(*arguments.values(), **named)), told)
+                self.assertEqual(plain(function(**{name: as_tuples(value) for name, value in arguments.items()},
+                                                **{name: as_tuples(value) for name, value in named.items()})), told)
+                spoil(result)
+                self.assertEqual(plain(function(**arguments, **named)), told)
+                self.assertEqual(plain([arguments, named]), before)
+                with self.assertRaises(TypeError):
+                    function(*arguments.values(), *named.values())
+
+    def test_defaults_of_plays(self):
+        self.assertEqual(games.spoil(**PLAY), games.spoil(**PLAY, goals=(), rules=()))
+        self.assertEqual(games.is_lost(PAPER, **PLAY), games.is_lost(PAPER, **PLAY, goals=[], rules=[]))
+        self.assertEqual(QUESTION.variables(), ["?w", "?x", "?y", "?z"])
+        self.assertEqual(QUESTION.patterns(), QUESTION.patterns(part=None))
 
     def test_defaults(self):
         self.assertEqual(Store().facts, ())

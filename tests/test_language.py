@@ -9,11 +9,17 @@ LISTED = {
     "facts.py": "is_name is_variable is_pattern is_fact variables_of filled pattern_text read_pattern Store",
     "matching.py": "each_map maps first_map count_maps map_between agree joined is_above only_keys in_order",
     "rules.py": "Key Rule broken keeps closed store_of",
+    "questions.py": "Question",
+    "answers.py": "answers each_answer by_part tellers is_answer fullest lost changes",
+    "forms.py": "Form meaning arms loose wood_of form_of shrunk",
+    "games.py": "candidates goes_on spoil is_lost",
 }
 METHODS = {
     "Store": "__len__ __iter__ __contains__ __eq__ __add__ __sub__ facts within constants only text read",
     "Key": "__eq__ table size places",
     "Rule": "__eq__ body head",
+    "Question": "__len__ __eq__ nodes read new_variables is_part parts next_nodes variables patterns part_with text renamed",
+    "Form": "__and__ __or__ __eq__ lot read sign halves wanted opt variables text",
 }
 
 
