@@ -18,7 +18,8 @@ METHODS = {
     "Store": "__len__ __iter__ __contains__ __eq__ __add__ __sub__ facts within constants only text read",
     "Key": "__eq__ table size places",
     "Rule": "__eq__ body head",
-    "Question": "__len__ __eq__ nodes read new_variables is_part parts next_nodes variables patterns part_with text renamed",
+    "Question": "__len__ __eq__ nodes new_variables is_part parts next_nodes variables patterns part_with text renamed"
+                " read",
     "Form": "__and__ __or__ __eq__ lot read sign halves wanted opt variables text",
 }
 
