@@ -2,12 +2,13 @@
 
 from fullestrows.errors import NoPart
 from fullestrows.facts import filled
-from fullestrows.matching import each_map, first_map, in_order, joined
+from fullestrows.matching import each_map, first_map, has_match, in_order, joined
 
 
 def all_there(lot, store, known):
     """Whether all patterns of a lot, filled by a map that has all their variables, are facts of a store."""
-    return all([store.has(filled(pattern, known)) for pattern in lot])
+    held = store.held()
+    return all([filled(pattern, known) in held for pattern in lot])
 
 
 def each_fuller(question, store, waiting, known):
@@ -35,7 +36,8 @@ def told(question, part, store, known):
     """Whether a map with just the variables of a part is an answer of a question."""
     if not all_there(question.patterns(part), store, known):
         return False
-    return all([first_map(question.lot_at(node), store, known) is None for node in question.next_nodes(part)])
+    groups = store.groups()
+    return not any([has_match(question.lot_at(node), groups, known) for node in question.next_nodes(part)])
 
 
 def tellers(wood, store, known):
@@ -98,7 +100,7 @@ def is_below(question, store, known):
     It is enough that the least part with the keys of the map fits above it, for fullest does the rest.
     """
     part = question.least_part(list(known))
-    return part is not None and first_map(question.patterns(part), store, known) is not None
+    return part is not None and has_match(question.patterns(part), store.groups(), known)
 
 
 def lost(wood, store, later):

@@ -2,8 +2,6 @@
 
 from fullestrows.errors import BadFact, BadLine
 
-LETTERS = "abcdefghijklmnopqrstuvwxyz"
-SIGNS = "abcdefghijklmnopqrstuvwxyz0123456789"
 LONGEST_NAME = 12
 MOST_TERMS = 3
 
@@ -15,9 +13,8 @@ def is_whole(value):
 
 def is_name(value):
     """Whether a value is a name."""
-    if not isinstance(value, str) or not 1 <= len(value) <= LONGEST_NAME:
-        return False
-    return value[0] in LETTERS and all([sign in SIGNS for sign in value])
+    return (isinstance(value, str) and value.isascii() and value.isalnum() and value.islower()
+            and value[0].isalpha() and len(value) <= LONGEST_NAME)
 
 
 def is_variable(value):
@@ -29,12 +26,20 @@ def is_pattern(value):
     """Whether a value is a pattern."""
     if not isinstance(value, tuple) or not 1 <= len(value) <= 1 + MOST_TERMS:
         return False
-    return is_name(value[0]) and all([is_name(term) or is_variable(term) for term in value[1:]])
+    for term in value[1:]:
+        if not is_name(term) and not is_variable(term):
+            return False
+    return is_name(value[0])
 
 
 def is_fact(value):
     """Whether a value is a fact, which is a pattern without variables."""
-    return is_pattern(value) and all([is_name(term) for term in value])
+    if not isinstance(value, tuple) or not 1 <= len(value) <= 1 + MOST_TERMS:
+        return False
+    for term in value:
+        if not is_name(term):
+            return False
+    return True
 
 
 def is_free(term):
@@ -44,12 +49,20 @@ def is_free(term):
 
 def variables_of(lot):
     """The ascending list of the variables in a lot, each once."""
-    return sorted({term for pattern in lot for term in pattern[1:] if is_free(term)})
+    return sorted({term for pattern in lot for term in pattern[1:] if term[0] == "?"})
 
 
 def filled(pattern, known):
     """The pattern with each variable that is a key of known replaced by its value."""
     return tuple([known.get(term, term) for term in pattern])
+
+
+def by_shape(facts):
+    """A dict from the shapes (table, length) of some facts or patterns to the list of those that have it."""
+    groups = {}
+    for fact in facts:
+        groups.setdefault((fact[0], len(fact)), []).append(fact)
+    return groups
 
 
 def pattern_text(pattern):
@@ -79,6 +92,7 @@ class Store:
                 raise BadFact(value)
         self._facts = tuple(sorted(set(facts)))
         self._held = {fact: True for fact in self._facts}
+        self._groups = by_shape(self._facts)
 
     @property
     def facts(self):
@@ -95,9 +109,13 @@ class Store:
         # A value that is no fact need not be fit to be a key.
         return is_fact(value) and value in self._held
 
-    def has(self, pattern):
-        """Whether a pattern is a fact of the store; for patterns only, so no look at its form is needed."""
-        return pattern in self._held
+    def groups(self):
+        """The facts by their shapes, as by_shape tells them; the package itself only looks at them."""
+        return self._groups
+
+    def held(self):
+        """A dict whose keys are the facts; the package itself only looks at it, with patterns."""
+        return self._held
 
     def __eq__(self, other):
         return isinstance(other, Store) and self._facts == other._facts

@@ -1,62 +1,80 @@
-"""The spoiler's play: can each candidate of a wood be made to go on, and no goal come true."""
+"""The spoiler's play: can each candidate of a wood be made to go on while no goal comes true."""
 
 from fullestrows.errors import Clash
-from fullestrows.facts import filled, is_whole, variables_of
-from fullestrows.matching import map_between
+from fullestrows.facts import by_shape, filled, is_whole, variables_of
+from fullestrows.matching import first_match, has_match
 from fullestrows.questions import is_list
 from fullestrows.rules import closed
 
 
-def seats(wood, known):
-    """The ascending list of the tuples (tree, part) whose variables are just the keys of a dict."""
-    found = [(tree, question.part_with(list(known))) for tree, question in enumerate(wood)]
-    return [(tree, part) for tree, part in found if part is not None]
+class Seat:
+    """A part of a question of a wood that has just the keys of a dict as its variables."""
+
+    def __init__(self, tree, part, question):
+        self.tree = tree
+        self.part = part
+        self.needs = question.patterns(part)
+        self.next_lots = [(node, question.lot_at(node)) for node in question.next_nodes(part)]
 
 
-def is_there(question, part, lot, known):
-    """Whether all patterns of a part, filled by a dict, are in a lot."""
-    return all([filled(pattern, known) in lot for pattern in question.patterns(part)])
+class Position:
+    """A lot and a dict to its terms, between two choices of the spoiler."""
 
-
-def can_go_on(question, part, lot, known):
-    """Whether some next node of a part can be led to a lot above a dict."""
-    nodes = question.next_nodes(part)
-    return any([map_between(question.lot_at(node), lot, known) is not None for node in nodes])
-
-
-def candidates(lot, wood, known):
-    """The ascending list of the tuples (tree, part) that could tell a dict as an answer in a lot."""
-    return [(tree, part) for tree, part in seats(wood, known) if is_there(wood[tree], part, lot, known)]
-
-
-def goes_on(lot, wood, known, tree, part):
-    """Whether a candidate goes on: some next node of its part can be led to the lot."""
-    return can_go_on(wood[tree], part, lot, known)
+    def __init__(self, lot, known):
+        self.known = known
+        self.present = {pattern: True for pattern in lot}
+        self.shapes = by_shape(self.present)
 
 
 class Play:
-    """What stays the same in a play: the wood, the goals and the rules."""
+    """What stays the same in a play."""
 
     def __init__(self, wood, known, goals, rules):
-        self.wood = wood
         self.goals = goals
         self.rules = rules
         self.seats = seats(wood, known)
-        self.names = {name: True for question in wood for name in question.variables()}
+        self.used = [name for question in wood for name in question.variables()]
 
 
-def waiting_candidate(play, lot, known):
-    """The first candidate (tree, part) that does not go on, or None."""
-    for tree, part in play.seats:
-        question = play.wood[tree]
-        if is_there(question, part, lot, known) and not can_go_on(question, part, lot, known):
-            return tree, part
+def seats(wood, known):
+    """The seats of a wood for the keys of a dict, in ascending order; there is one for a question at most."""
+    parts = [(tree, question.part_with(list(known)), question) for tree, question in enumerate(wood)]
+    return [Seat(tree, part, question) for tree, part, question in parts if part is not None]
+
+
+def is_candidate(seat, position):
+    """Whether all patterns of a seat, filled by the dict, are in the lot."""
+    return all([filled(pattern, position.known) in position.present for pattern in seat.needs])
+
+
+def moves_on(seat, position):
+    """Whether the patterns of some next node of a seat can be led to the lot above the dict."""
+    return any([has_match(lot, position.shapes, position.known) for _, lot in seat.next_lots])
+
+
+def candidates(lot, wood, known):
+    """The ascending list of the tuples (tree, part) whose patterns, filled by a dict, are all in a lot."""
+    position = Position(lot, known)
+    return [(seat.tree, seat.part) for seat in seats(wood, known) if is_candidate(seat, position)]
+
+
+def goes_on(lot, wood, known, tree, part):
+    """Whether a candidate goes on: the patterns of some next node of its part can be led to the lot."""
+    return moves_on(Seat(tree, part, wood[tree]), Position(lot, known))
+
+
+def at_rest(play, lot, known):
+    """The position after the lot has been closed; it raises Clash as closing does."""
+    patterns, terms = closed(lot, play.rules)
+    return Position(patterns, {name: terms.get(known[name], known[name]) for name in sorted(known)})
+
+
+def waiting_seat(play, position):
+    """The seat of the first candidate that does not go on, or None."""
+    for seat in play.seats:
+        if is_candidate(seat, position) and not moves_on(seat, position):
+            return seat
     return None
-
-
-def replaced(known, terms):
-    """The dict known, with its keys in ascending order, after closing has replaced some terms."""
-    return {name: terms.get(known[name], known[name]) for name in sorted(known)}
 
 
 def fresh_for(names, taken):
@@ -71,107 +89,110 @@ def fresh_for(names, taken):
     return found
 
 
-def with_node(play, lot, known, wanted):
-    """The lot to which the patterns of a node are put, with fresh variables for its new ones."""
-    taken = {name: True for name in [*variables_of(lot), *play.names]}
-    fresh = fresh_for([name for name in variables_of(wanted) if name not in known], taken)
-    return [*lot, *[filled(pattern, {**fresh, **known}) for pattern in wanted]]
+def with_node(play, position, wanted):
+    """The lot into which the patterns of a node are put, with fresh variables for those that are new in it."""
+    taken = {name: True for name in [*variables_of(position.present), *play.used]}
+    names = fresh_for([name for name in variables_of(wanted) if name not in position.known], taken)
+    known = {**names, **position.known}
+    return [*position.present, *[filled(pattern, known) for pattern in wanted]]
 
 
-def first_goal(play, lot, known):
+def first_had(play, position):
     """The paper for the first goal that is had, or None."""
     for index, goal in enumerate(play.goals):
-        found = map_between(goal, lot, known)
+        found = first_match(goal, position.shapes, position.known)
         if found is not None:
             return "had", index, found
     return None
 
 
-def played(play, lot, known):
-    """What spoil returns for a play that goes on with a lot."""
-    try:
-        patterns, terms = closed(lot, play.rules)
-    except Clash:
-        return "lost", ("clash",)
-    now = replaced(known, terms)
-    had = first_goal(play, patterns, now)
-    if had is not None:
-        return "lost", had
-    waiting = waiting_candidate(play, patterns, now)
-    if waiting is None:
-        return "won", patterns, now
-    return with_choices(play, patterns, now, waiting)
-
-
-def with_choices(play, lot, known, waiting):
-    """What spoil returns if a candidate does not go on; all its next nodes are tried."""
-    tree, part = waiting
-    question = play.wood[tree]
+def after_choices(play, position, seat):
+    """How a play ends in which a seat is waiting, after whatever the spoiler chooses."""
+    if not seat.next_lots:
+        return "lost", ("stuck", seat.tree, seat.part)
     rows = []
-    for node in question.next_nodes(part):
-        end = played(play, with_node(play, lot, known, question.lot_at(node)), known)
+    for node, lot in seat.next_lots:
+        end = ending(play, with_node(play, position, lot), position.known)
         if end[0] == "won":
             return end
         rows.append((node, end[1]))
-    return "lost", (("put", tree, part, rows) if rows else ("stuck", tree, part))
+    return "lost", ("put", seat.tree, seat.part, rows)
+
+
+def ending(play, lot, known):
+    """How a play ends that goes on with a lot and a dict: what spoil returns."""
+    try:
+        position = at_rest(play, lot, known)
+    except Clash:
+        return "lost", ("clash",)
+    had = first_had(play, position)
+    if had is not None:
+        return "lost", had
+    seat = waiting_seat(play, position)
+    if seat is None:
+        return "won", list(position.present), position.known
+    return after_choices(play, position, seat)
 
 
 def spoil(lot, wood, known, *, goals=(), rules=()):
     """Whether the spoiler can win: a tuple won with the lot and the dict at the end, or lost with a paper."""
-    return played(Play(wood, known, goals, rules), lot, known)
+    return ending(Play(wood, known, goals, rules), lot, known)
 
 
-def is_had(paper, play, lot, known):
+def shows_goal(paper, play, position):
     """Whether a paper that begins with had tells how a goal is had."""
-    if len(paper) != 3 or not isinstance(paper[2], dict):
+    if len(paper) != 3:
         return False
     _, index, found = paper
-    if not is_whole(index) or not 0 <= index < len(play.goals):
+    if not is_whole(index) or not 0 <= index < len(play.goals) or not isinstance(found, dict):
         return False
     goal = play.goals[index]
+    known = position.known
     wanted = sorted(set([*known, *variables_of(goal)]))
-    return (len(found) == len(wanted) and all([name in found for name in wanted])
-            and all([found[name] == known[name] for name in known])
+    if len(found) != len(wanted) or not all([name in found for name in wanted]):
+        return False
+    # A value may be of any kind, and then it is not fit to be looked up among the keys of a dict.
+    lot = list(position.present)
+    return (all([found[name] == known[name] for name in known])
             and all([filled(pattern, found) in lot for pattern in goal]))
 
 
-def is_seat(question, value, waiting):
-    """Whether two items of a paper tell the candidate that is waiting."""
-    return value == waiting and is_whole(value[0]) and question.is_part(value[1])
-
-
-def are_rows(rows, play, lot, known, waiting):
-    """Whether the rows of a paper tell a paper for each choice."""
-    tree, part = waiting
-    question = play.wood[tree]
-    nodes = question.next_nodes(part)
-    if not is_list(rows) or len(rows) != len(nodes):
+def is_seat(value, seat):
+    """Whether two items of a paper tell a seat."""
+    if value != (seat.tree, seat.part):
         return False
-    for node, row in zip(nodes, rows):
+    # True and False equal 1 and 0, but are no integers here.
+    return is_whole(value[0]) and all([is_whole(node) for node in value[1]])
+
+
+def shows_choices(rows, play, position, seat):
+    """Whether the rows of a paper tell a paper for each choice."""
+    if not is_list(rows) or len(rows) != len(seat.next_lots):
+        return False
+    for row, (node, lot) in zip(rows, seat.next_lots):
         if not isinstance(row, tuple) or len(row) != 2 or not is_whole(row[0]) or row[0] != node:
             return False
-        if not is_paper(row[1], play, with_node(play, lot, known, question.lot_at(node)), known):
+        if not is_paper(row[1], play, with_node(play, position, lot), position.known):
             return False
     return True
 
 
 def is_paper(paper, play, lot, known):
-    """Whether any value is a paper for a play that goes on with a lot."""
+    """Whether any value is a paper for a play that goes on with a lot and a dict."""
     if not isinstance(paper, tuple):
         return False
     try:
-        patterns, terms = closed(lot, play.rules)
+        position = at_rest(play, lot, known)
     except Clash:
         return paper == ("clash",)
-    now = replaced(known, terms)
     if paper[:1] == ("had",):
-        return is_had(paper, play, patterns, now)
-    waiting = waiting_candidate(play, patterns, now)
-    if waiting is None or not is_seat(play.wood[waiting[0]], paper[1:3], waiting):
+        return shows_goal(paper, play, position)
+    seat = waiting_seat(play, position)
+    if seat is None or not is_seat(paper[1:3], seat):
         return False
-    if not play.wood[waiting[0]].next_nodes(waiting[1]):
-        return paper[:1] == ("stuck",) and len(paper) == 3
-    return paper[:1] == ("put",) and len(paper) == 4 and are_rows(paper[3], play, patterns, now, waiting)
+    if not seat.next_lots:
+        return paper[0] == "stuck" and len(paper) == 3
+    return paper[0] == "put" and len(paper) == 4 and shows_choices(paper[3], play, position, seat)
 
 
 def is_lost(paper, lot, wood, known, *, goals=(), rules=()):

@@ -150,9 +150,10 @@ class Question:
         """The part whose variables are just those of a list, or None if there is none."""
         wanted = set(variables)
         part = (0, *[node for node, names in enumerate(self._new) if node > 0 and names[0] in wanted])
-        if not self.is_part(part) or self.variables(part) != sorted(wanted):
+        names = [name for node in part for name in self._new[node]]
+        if len(names) != len(wanted) or not all([name in wanted for name in names]):
             return None
-        return part
+        return part if all([self._parents[node] in part for node in part[1:]]) else None
 
     def least_part(self, variables):
         """The least part in which all variables of a list occur, or None if some occur nowhere."""

@@ -1,10 +1,13 @@
 """Keys and implications: which stores keep them, and what follows from a lot by them."""
 
 from fullestrows.errors import BadKey, BadPattern, BadRule, Clash
-from fullestrows.facts import MOST_TERMS, Store, filled, is_free, is_name, is_pattern, is_whole, variables_of
+from fullestrows.facts import (
+    MOST_TERMS, Store, by_shape, filled, is_free, is_name, is_pattern, is_whole, variables_of,
+)
 from fullestrows.joins import ways_to
+from fullestrows.rows import small_rows
 from fullestrows.search import first_solution
-from fullestrows.tables import ready, tables_for
+from fullestrows.tables import picked, ready, tables_for
 
 
 def are_places(places, size):
@@ -73,53 +76,75 @@ class Rule:
         return isinstance(other, Rule) and self._body == other._body and self._head == other._head
 
 
-def first_pair(patterns, key):
+def first_pair(groups, key):
     """The first pair of different patterns that a key does not allow beside each other, or None.
 
-    The patterns are in ascending order, each once.
+    The patterns are in groups by shape, in ascending order.
     """
+    patterns = groups.get((key.table, 1 + key.size), [])
+    if len(patterns) < 2:
+        return None
+    spots = [1 + place for place in key.places]
     alike = {}
     for pattern in patterns:
-        if pattern[0] == key.table and len(pattern) == 1 + key.size:
-            terms = tuple([pattern[1 + place] for place in key.places])
-            alike.setdefault(terms, []).append(pattern)
-    pairs = [(group[0], group[1]) for group in alike.values() if len(group) > 1]
-    return min(pairs, default=None)
-
-
-def missing(rule, patterns):
-    """The table (see tables.py) of the variables of a head for which the body is there, but not the head.
-
-    The patterns are in ascending order, each once.
-    """
-    names = tuple(variables_of([rule.head]))
-    there = set(patterns)
-    ways = ways_to(tables_for(rule.body, patterns, {}), names)
-    return names, [row for row in ways if filled(rule.head, dict(zip(names, row))) not in there]
-
-
-def first_breach(rule, facts):
-    """The body of an implication, filled by the first map that breaks it, or None."""
-    wrong = missing(rule, facts)
-    tables = ready([*tables_for(rule.body, facts, {}), wrong])
-    if tables is None:
+        alike.setdefault(picked(pattern, spots), []).append(pattern)
+    if len(alike) == len(patterns):
         return None
-    found = first_solution(tables)
-    return [filled(pattern, found) for pattern in rule.body]
+    return min([(group[0], group[1]) for group in alike.values() if len(group) > 1])
 
 
-def breach(rule, facts):
+def head_at(rule, places):
+    """For each item of the head of a rule, a tuple of it and its place in the rows, or -1."""
+    return [(term, places.get(term, -1)) for term in rule.head]
+
+
+def lacking(rule, groups, held):
+    """The places and rows (see rows.py) with which the body is there, but not the head, or None for too many."""
+    small = small_rows(rule.body, groups, {})
+    if small is None or not small[1]:
+        return small
+    places, rows = small
+    spots = head_at(rule, places)
+    return places, [row for row in rows
+                    if tuple([term if at < 0 else row[at] for term, at in spots]) not in held]
+
+
+def missing(rule, groups, held):
+    """The table (see tables.py) of the variables of a head for which the body is there, but not the head."""
+    names = tuple(variables_of([rule.head]))
+    ways = ways_to(tables_for(rule.body, groups, {}), names)
+    return names, [row for row in ways if filled(rule.head, dict(zip(names, row))) not in held]
+
+
+def first_breach(rule, groups, held):
+    """The body of an implication, filled by the first map that breaks it, or None."""
+    small = lacking(rule, groups, held)
+    if small is None:
+        tables = ready([*tables_for(rule.body, groups, {}), missing(rule, groups, held)])
+        found = None if tables is None else first_solution(tables)
+    elif small[1]:
+        places, rows = small
+        names = sorted(places)
+        spots = [places[name] for name in names]
+        found = dict(zip(names, min([picked(row, spots) for row in rows])))
+    else:
+        found = None
+    return None if found is None else [filled(pattern, found) for pattern in rule.body]
+
+
+def breach(rule, groups, held):
     """A list of facts that shows that a rule is broken, or None if it is kept."""
     if isinstance(rule, Rule):
-        return first_breach(rule, facts)
-    pair = first_pair(facts, rule)
+        return first_breach(rule, groups, held)
+    pair = first_pair(groups, rule)
     return None if pair is None else list(pair)
 
 
 def broken(store, rules):
     """The index of the first broken rule and a list of facts that shows it, or None."""
+    groups = store.groups()
     for index, rule in enumerate(rules):
-        shown = breach(rule, store.facts)
+        shown = breach(rule, groups, store.held())
         if shown is not None:
             return index, shown
     return None
@@ -139,23 +164,24 @@ def exchange_for(one, other):
     return (high, low) if is_free(high) else (low, high)
 
 
-def next_exchange(patterns, rules):
+def next_exchange(groups, rules):
     """The terms (gone, kept) that the first key asks for that does not hold, or None."""
     for rule in rules:
-        pair = first_pair(patterns, rule) if isinstance(rule, Key) else None
+        pair = first_pair(groups, rule) if isinstance(rule, Key) else None
         if pair is not None:
             return exchange_for(pair[0], pair[1])
     return None
 
 
-def heads_missing(patterns, rules):
-    """The heads that the implications ask for and that are not there."""
-    heads = []
-    for rule in rules:
-        if isinstance(rule, Rule):
-            names, rows = missing(rule, patterns)
-            heads.extend([filled(rule.head, dict(zip(names, row))) for row in rows])
-    return heads
+def heads_of(rule, groups, held):
+    """The heads that an implication asks for and that are not there."""
+    small = lacking(rule, groups, held)
+    if small is None:
+        names, rows = missing(rule, groups, held)
+        return [filled(rule.head, dict(zip(names, row))) for row in rows]
+    places, rows = small
+    spots = head_at(rule, places)
+    return [tuple([term if at < 0 else row[at] for term, at in spots]) for row in rows]
 
 
 def closed(lot, rules):
@@ -163,13 +189,15 @@ def closed(lot, rules):
     patterns = sorted(set(lot))
     terms = {name: name for name in variables_of(lot)}
     while True:
-        change = next_exchange(patterns, rules)
+        groups = by_shape(patterns)
+        change = next_exchange(groups, rules)
         if change is not None:
             gone, kept = change
             patterns = sorted({filled(pattern, {gone: kept}) for pattern in patterns})
             terms = {name: kept if term == gone else term for name, term in terms.items()}
             continue
-        heads = heads_missing(patterns, rules)
+        held = {pattern: True for pattern in patterns}
+        heads = [head for rule in rules if isinstance(rule, Rule) for head in heads_of(rule, groups, held)]
         if not heads:
             return patterns, terms
         patterns = sorted(set([*patterns, *heads]))

@@ -6,40 +6,20 @@ the patterns stand only among the names and terms of the facts only in the rows,
 so the two never mix, even if the terms of the facts are variables themselves.
 """
 
-from fullestrows.facts import is_free, variables_of
+from fullestrows.facts import variables_of
+from fullestrows.rows import fitting
 
 
-def terms_given(pattern, fact, known):
-    """The terms that a fact gives to the free variables of a pattern, or None if it does not fit."""
-    if pattern[0] != fact[0] or len(pattern) != len(fact):
-        return None
-    found = {}
-    for wanted, term in zip(pattern[1:], fact[1:]):
-        if not is_free(wanted):
-            given = wanted
-        elif wanted in known:
-            given = known[wanted]
-        else:
-            given = found.setdefault(wanted, term)
-        if given != term:
-            return None
-    return found
-
-
-def table_of(pattern, facts, known):
-    """The table of a pattern, with known values for some of its variables."""
+def table_of(pattern, groups, known):
+    """The table of a pattern, with known values for some of its variables; the facts are in groups by shape."""
     names = tuple([name for name in variables_of([pattern]) if name not in known])
-    rows = []
-    for fact in facts:
-        found = terms_given(pattern, fact, known)
-        if found is not None:
-            rows.append(tuple([found[name] for name in names]))
-    return names, rows
+    spots = [pattern.index(name) for name in names]
+    return names, [picked(fact, spots) for fact in fitting(pattern, groups, known)]
 
 
-def tables_for(lot, facts, known):
-    """The tables of the patterns of a lot; the facts are in ascending order, each once."""
-    return [table_of(pattern, facts, known) for pattern in sorted(set(lot))]
+def tables_for(lot, groups, known):
+    """The tables of the patterns of a lot; each fact is in its group once."""
+    return [table_of(pattern, groups, known) for pattern in sorted(set(lot))]
 
 
 def picked(row, places):

@@ -133,12 +133,14 @@ class Candidates(unittest.TestCase):
 
     def test_candidates(self):
         self.assertEqual(candidates(LOT, [PEOPLE, TOWNS], KNOWN), [(0, (0,)), (1, (0,))])
-        self.assertEqual(candidates([("town", "?a", "?b"), ("person", "?a")], [PEOPLE, TOWNS], {"?y": "?b", "?x": "?a"}),
+        self.assertEqual(candidates([("town", "?a", "?b"), ("person", "?a")], [PEOPLE, TOWNS],
+                                    {"?y": "?b", "?x": "?a"}),
                          [(1, (0, 1))])
         self.assertEqual(candidates([("person", "ann")], [TOWNS], {"?x": "ann"}), [(0, (0,))])
 
     def test_no_candidates(self):
-        for lot, known in [(LOT, {}), (LOT, {"?x": "?b"}), (LOT, {"?x": "ann"}), (LOT, {"?x": "?a", "?y": "?a"}), ([], KNOWN),
+        for lot, known in [(LOT, {}), (LOT, {"?x": "?b"}), (LOT, {"?x": "ann"}), (LOT, {"?x": "?a", "?y": "?a"}),
+                           ([], KNOWN),
                            (LOT, {"?y": "?a"}), ([("person", "?x")], KNOWN), (LOT, {"?w": "?a"})]:
             self.assertEqual(candidates(lot, [TOWNS, PEOPLE], known), [])
         self.assertEqual(candidates(LOT, [], KNOWN), [])
@@ -295,7 +297,8 @@ class Plays(unittest.TestCase):
         wood = [Question.read("a(?x)\n b(?x,?y)")]
         self.assertEqual(spoil(lot, wood, {"?x": "?y"}), ("won", sorted(lot), {"?x": "?y"}))
         swap = Rule([("b", "?x", "?y")], ("b", "?y", "?x"))
-        self.assertEqual(spoil(lot, [], {"?x": "?y"}, rules=[swap])[1], [("a", "?y"), ("b", "?x", "?y"), ("b", "?y", "?x")])
+        self.assertEqual(spoil(lot, [], {"?x": "?y"}, rules=[swap])[1],
+                         [("a", "?y"), ("b", "?x", "?y"), ("b", "?y", "?x")])
         self.assertEqual(spoil(lot, [], {"?x": "?y"}, goals=[[("b", "?x", "?y")]]),
                          ("lost", ("had", 0, {"?x": "?y", "?y": "?x"})))
         self.assertEqual(spoil(lot, [], {"?x": "?y"}, goals=[[("b", "?y", "?x")]])[0], "won")
@@ -385,10 +388,13 @@ class Papers(unittest.TestCase):
         self.assertIs(is_lost(paper, lot, wood, known, goals=goals, rules=rules), wanted, paper)
 
     def test_any_value(self):
-        several = [*ANY_VALUES, ("clash",), ["clash"], ("stuck",), ("put",), ("had",), ("stuck", 0), ("put", 0, (0,)), ("had", 0),
-                   ("lost", ("stuck", 0, (0,))), ("put", 0, (0,), None), ("put", 0, (0,), [None]), ("put", 0, (0,), [[]]),
+        several = [*ANY_VALUES, ("clash",), ["clash"], ("stuck",), ("put",), ("had",), ("stuck", 0), ("put", 0, (0,)),
+                   ("had", 0),
+                   ("lost", ("stuck", 0, (0,))), ("put", 0, (0,), None), ("put", 0, (0,), [None]),
+                   ("put", 0, (0,), [[]]),
                    ("put", 0, (0,), [()]), ("put", 0, (0,), [(1,)]), ("put", 0, (0,), {1: ("stuck", 1, (0,))}), "clash",
-                   ("had", None, {}), ("had", 0, {}), ("had", 0, KNOWN), ("had", -1, KNOWN), ([],), ({},), (None,), ((),)]
+                   ("had", None, {}), ("had", 0, {}), ("had", 0, KNOWN), ("had", -1, KNOWN), ([],), ({},), (None,),
+                   ((),)]
         for value in several:
             self.check(value, False)
 
@@ -405,7 +411,8 @@ class Papers(unittest.TestCase):
             (("stuck", 0, (0,)), True), (["stuck", 0, (0,)], False), (("stuck", False, (0,)), False),
             (("stuck", 0, (False,)), False), (("stuck", 0, [0]), False), (("stuck", 0, (0,), []), False),
             (("stuck", 1, (0,)), False), (("stuck", 0, (0, 1)), False), (("put", 0, (0,), []), False),
-            (("stuck", 0), False), (("Stuck", 0, (0,)), False), (("stuck", "0", (0,)), False), (("stuck", 0, None), False),
+            (("stuck", 0), False), (("Stuck", 0, (0,)), False), (("stuck", "0", (0,)), False),
+            (("stuck", 0, None), False),
         ]:
             self.check(paper, wanted, wood=[PEOPLE, TOWNS])
         # Only the first candidate that does not go on counts.
@@ -424,7 +431,8 @@ class Papers(unittest.TestCase):
             ("put", 0, (0,), [(2, ("stuck", 1, (0,)))]), ("put", 0, (0,), [(1, ["stuck", 1, (0,)])]),
             ("put", 0, (0,), [(1, ("stuck", 0, (0,)))]), ("put", 0, (0,), [(1, ("stuck", True, (0,)))]),
             ("put", 0, (0,), [(1, ("stuck", 1, (0,)), None)]), ("put", 0, (0,), "a"), ("stuck", 0, (0,), good[3]),
-            ("put", 0, (0,), [(1, ("clash",))]), ("put", 0, (0,), [(0, ("stuck", 1, (0,)))]), ("put", 0, (0,), [(1, good)]),
+            ("put", 0, (0,), [(1, ("clash",))]), ("put", 0, (0,), [(0, ("stuck", 1, (0,)))]),
+            ("put", 0, (0,), [(1, good)]),
         ]:
             self.check(paper, False)
 

@@ -1,7 +1,9 @@
 """What can be seen at once of the rules in LANGUAGE.md, and that the interface is defined where it is listed."""
 
 import ast
+import builtins
 import pathlib
+import re
 import unittest
 
 PACKAGE = pathlib.Path(__file__).resolve().parent.parent / "fullestrows"
@@ -22,6 +24,24 @@ METHODS = {
                 " read",
     "Form": "__and__ __or__ __eq__ lot read sign halves wanted opt variables text",
 }
+
+# The builtins that may be used, and the methods of builtin values.
+BUILTINS = """len range enumerate zip min max sum abs sorted reversed int str bool list tuple dict set frozenset
+isinstance ord repr any all divmod Exception ValueError TypeError KeyError IndexError LookupError RuntimeError True False None
+NotImplemented property classmethod staticmethod iter next map super""".split()
+BARRED = """register mro elements open input law version_info with_traceback add_note attrgetter breakpoint builtins
+compile copyright credits delattr dir eval exec exit gc getattr globals hasattr help id importlib license locals methodcaller os
+quit setattr type vars sys hash chr float bytes object format""".split()
+WORDS = """typing typing_extensions enum Enum IntEnum StrEnum Flag IntFlag Generic Protocol ABC ABCMeta namedtuple
+NamedTuple TypedDict TYPE_CHECKING abstractmethod dataclass overload contextmanager""".split()
+
+
+def nodes_of(kind, tree=None):
+    """All nodes of a kind in the files of the package, each with the name of its file."""
+    for name, text in sources():
+        for node in ast.walk(ast.parse(text) if tree is None else tree):
+            if isinstance(node, kind):
+                yield name, node
 
 
 def sources():
@@ -66,6 +86,82 @@ class Language(unittest.TestCase):
                 self.assertNotIsInstance(node, barred, name)
                 if isinstance(node, ast.Constant):
                     self.assertNotIsInstance(node.value, (float, complex), name)
+
+    def test_names_that_are_barred(self):
+        for name, node in nodes_of((ast.Name, ast.FunctionDef, ast.ClassDef, ast.arg, ast.Attribute, ast.keyword)):
+            told = [getattr(node, field, None) for field in ("id", "name", "arg", "attr")]
+            self.assertFalse(set(told) & set(BARRED), name)
+        for name, node in nodes_of(ast.Name):
+            if node.id in dir(builtins):
+                self.assertIn(node.id, BUILTINS, name)
+        for name, text in sources():
+            self.assertFalse([word for word in WORDS if word in re.findall(r"\w+", text)], name)
+
+    def test_no_name_of_a_builtin_or_an_import_is_bound(self):
+        for name, text in sources():
+            tree = ast.parse(text)
+            taken = {one.name for node in tree.body if isinstance(node, ast.ImportFrom) for one in node.names}
+            taken |= {node.name for node in tree.body if isinstance(node, ast.ClassDef)} | set(dir(builtins))
+            for node in ast.walk(tree):
+                if isinstance(node, ast.arg):
+                    self.assertNotIn(node.arg, taken, name)
+                if isinstance(node, ast.Name) and isinstance(node.ctx, ast.Store):
+                    self.assertNotIn(node.id, taken, name)
+
+    def test_no_generator_expressions_and_lambdas_on_one_line(self):
+        self.assertEqual(list(nodes_of(ast.GeneratorExp)), [])
+        lines = [(name, node.lineno) for name, node in nodes_of(ast.Lambda)]
+        self.assertEqual(len(lines), len(set(lines)))
+
+    def test_names_of_generators_are_their_own(self):
+        functions = [node for _, node in nodes_of(ast.FunctionDef)]
+        names = [node.name for node in functions]
+        for node in functions:
+            if any(isinstance(part, (ast.Yield, ast.YieldFrom)) for part in ast.walk(node)):
+                self.assertEqual(names.count(node.name), 1, node.name)
+        calls = [node.func.id for _, node in nodes_of(ast.Call) if isinstance(node.func, ast.Name)]
+        self.assertIn("each_map", calls)
+
+    def test_class_methods_and_properties_have_names_of_their_own(self):
+        plain, decorated = set(), {"property": set(), "classmethod": set(), "staticmethod": set()}
+        for _, holder in nodes_of(ast.ClassDef):
+            for node in holder.body:
+                if isinstance(node, ast.FunctionDef):
+                    marks = [mark.id for mark in node.decorator_list]
+                    (decorated[marks[0]] if marks else plain).add(node.name)
+        stored = {node.attr for _, node in nodes_of(ast.Attribute) if isinstance(node.ctx, ast.Store)}
+        for kind, names in decorated.items():
+            self.assertFalse(names & (plain | stored), kind)
+            for other, more in decorated.items():
+                self.assertTrue(other == kind or not names & more)
+        self.assertFalse(plain & stored)
+        builtin = {name for kind in (str, int, list, dict, set, tuple, bytes) for name in dir(kind)}
+        # These may be attributes all the same.
+        builtin -= set("count index title find get join lower upper split strip copy add".split())
+        self.assertFalse((stored | decorated["property"]) & builtin)
+
+    def test_sets_are_used_on_the_spot(self):
+        for name, text in sources():
+            tree = ast.parse(text)
+            fine = set()
+            for node in ast.walk(tree):
+                if isinstance(node, ast.Call) and isinstance(node.func, ast.Name) and node.func.id in ("sorted", "len"):
+                    fine |= {id(node.args[0])}
+                if isinstance(node, ast.Assign) and isinstance(node.targets[0], ast.Name):
+                    fine |= {id(node.value)}
+                if isinstance(node, ast.Compare) and isinstance(node.ops[0], (ast.In, ast.NotIn)):
+                    fine |= {id(node.comparators[0])}
+            for node in ast.walk(tree):
+                called = isinstance(node, ast.Call) and isinstance(node.func, ast.Name) and node.func.id == "set"
+                if called or isinstance(node, (ast.Set, ast.SetComp)):
+                    self.assertIn(id(node), fine, (name, node.lineno))
+
+    def test_strings(self):
+        for name, node in nodes_of(ast.Constant):
+            if isinstance(node.value, str):
+                self.assertNotIn("%", node.value, name)
+        for name, text in sources():
+            self.assertNotIn("\t", text, name)
 
     def test_interface_is_defined_where_it_is_listed(self):
         for name, listed in LISTED.items():

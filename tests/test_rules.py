@@ -165,6 +165,34 @@ class Keeping(unittest.TestCase):
         self.assertIsInstance(found, tuple)
         self.assertIsInstance(found[1], list)
 
+    def test_facts_with_names_of_tables(self):
+        facts = [("j9k2e3", "iyx5ex", "iyx5ex", "lj"), ("j9k2e3", "lj", "p", "p"), ("s1", "iyx5ex"), ("s1", "lj"),
+                 ("s1", "p")]
+        rules = [
+            Rule([("l", "?t"), ("j9k2e3", "iyx5ex", "iyx5ex", "?s"), ("s1", "?t"), ("l", "?r")], ("s1", "iyx5ex")),
+            Rule([("u", "?s", "?s"), ("s1", "lj"), ("l", "?t"), ("s1", "?r")], ("l", "iyx5ex")),
+            Rule([("j9k2e3", "?s", "lj", "?s"), ("l", "?r"), ("u", "?t", "?s"), ("s1", "?s")], ("u", "?t", "?t")),
+            Rule([("s1", "?r")], ("j9k2e3", "?r", "iyx5ex", "?r"))]
+        self.check(facts, rules, (3, [("s1", "iyx5ex")]))
+
+    def test_first_map_of_several_rules(self):
+        facts = [("z", "v", "v"), ("z", "w", "v"), ("ziln", "b9iu", "v"), ("ziln", "b9iu", "w"), ("ziln", "v", "b9iu"),
+                 ("ziln", "v", "w"), ("ziln", "w", "v")]
+        rules = [
+            Rule([("ziln", "?t", "?s"), ("z", "?t", "?t")], ("ziln", "?t", "?s")),
+            Rule([("z", "?t", "?r"), ("ziln", "?s", "?r"), ("ziln", "w", "?r")], ("ziln", "?r", "?t")),
+            Key("z", 2, [1]), Rule([], ("ziln", "w", "b9iu"))]
+        self.check(facts, rules, (1, [("z", "v", "v"), ("ziln", "b9iu", "v"), ("ziln", "w", "v")]))
+
+    def test_at_the_limits(self):
+        # Bodies of four patterns, of which 60 ** 4 maps fit.
+        pairs = [("e", f"a{at}", f"b{at}") for at in range(60)]
+        body = [("e", f"?{one}", f"?{other}") for one, other in ["xy", "zw", "uv", "st"]]
+        self.check(pairs, [Rule(body, ("f", "?x", "?t"))], (0, [pairs[0]] * 4))
+        self.check(pairs[:59] + [("f", "k")], [Rule(body, ("f", "k"))], None)
+        self.check(pairs, [Rule(body, ("e", "?x", "?y")), Key("e", 2, [0]), Key("e", 2, [1])], None)
+        self.check(pairs, [Rule(body, ("e", "?s", "?y"))], (0, [pairs[1]] + [pairs[0]] * 3))
+
     def slow_breach(self, facts, rule):
         if isinstance(rule, Key):
             rows = [fact for fact in sorted(facts) if fact[0] == rule.table and len(fact) == rule.size + 1]

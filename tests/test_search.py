@@ -2,6 +2,7 @@
 
 import unittest
 
+from fullestrows.facts import by_shape
 from fullestrows.joins import cheapest, ways_to
 from fullestrows.search import groups, is_tree
 from fullestrows.tables import fixed, ready, settled, tables_for
@@ -15,7 +16,7 @@ def scopes(*several):
 class Tables(unittest.TestCase):
     def test_tables_for(self):
         lot = [("e", "?y", "?x"), ("e", "?x", "?x"), ("e", "?y", "?x"), ("n", "k")]
-        facts = [("e", "a", "a"), ("e", "a", "b"), ("n", "k")]
+        facts = by_shape([("e", "a", "a"), ("e", "a", "b"), ("n", "k")])
         self.assertEqual(tables_for(lot, facts, {}), [
             (("?x",), [("a",)]), (("?x", "?y"), [("a", "a"), ("b", "a")]), ((), [()])])
         self.assertEqual(tables_for(lot, facts, {"?x": "b"}), [((), []), (("?y",), [("a",)]), ((), [()])])

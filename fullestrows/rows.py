@@ -1,0 +1,93 @@
+"""Rows of facts: all ways in which a lot fits some facts, found at once if there are not too many.
+
+A row is a tuple of the facts for the patterns, one behind the other, each with its table and terms; a
+dict of places tells where in the rows a variable has its constant. The variables of the lot stand only
+in the patterns and the terms of the facts only in the rows, so the two never mix, even if the terms of
+the facts are variables themselves.
+"""
+
+# Beyond these numbers the ways of search.py and joins.py are better: they never list what is not asked for.
+MOST_ROWS = 1000
+MOST_PAIRS = 100
+
+
+def fitting(pattern, groups, known):
+    """The facts, out of groups by shape, that fit a pattern alone, with known values for some variables."""
+    facts = groups.get((pattern[0], len(pattern)), [])
+    for at in range(1, len(pattern)):
+        term = pattern[at]
+        if term[0] != "?":
+            facts = [fact for fact in facts if fact[at] == term]
+        elif term in known:
+            value = known[term]
+            facts = [fact for fact in facts if fact[at] == value]
+        else:
+            first = pattern.index(term)
+            if first < at:
+                facts = [fact for fact in facts if fact[at] == fact[first]]
+    return facts
+
+
+def nearest(waiting, places):
+    """The index of the first waiting pattern with a variable that has a place already, or 0."""
+    for index, entry in enumerate(waiting):
+        if any([term in places for term in entry[1]]):
+            return index
+    return 0
+
+
+def indexed(rows, facts, at, place):
+    """The rows, each followed by the facts that have at one spot what the row has at a place."""
+    ends = {}
+    for fact in facts:
+        ends.setdefault(fact[at], []).append(fact)
+    if sum([len(ends.get(row[place], [])) for row in rows]) > MOST_ROWS:
+        return None
+    return [row + fact for row in rows for fact in ends.get(row[place], [])]
+
+
+def extended(rows, facts, links):
+    """The rows, each followed by each fact that has at the first spots of links what the row has at the places.
+
+    It returns None if there are too many of them; the first link need not be all.
+    """
+    many = len(rows) * len(facts)
+    if not links:
+        return None if many > MOST_ROWS else [row + fact for row in rows for fact in facts]
+    at, place = links[0]
+    if many > MOST_PAIRS:
+        return indexed(rows, facts, at, place)
+    return [row + fact for row in rows for fact in facts if fact[at] == row[place]]
+
+
+def small_rows(lot, groups, known):
+    """A tuple (places, rows) of all ways in which a lot fits, or None if there are too many on the way to them.
+
+    No way comes twice. Without rows, the places mean nothing.
+    """
+    waiting = []
+    for pattern in lot:
+        facts = fitting(pattern, groups, known)
+        if not facts:
+            return {}, []
+        waiting.append((len(facts), pattern, facts))
+    places = {}
+    rows = [()]
+    width = 0
+    waiting = sorted(waiting)
+    while waiting and rows:
+        _, pattern, facts = waiting.pop(nearest(waiting, places) if width else 0)
+        links = []
+        for at in range(1, len(pattern)):
+            term = pattern[at]
+            if term[0] == "?" and term not in known:
+                place = places.setdefault(term, width + at)
+                if place < width:
+                    links.append((at, place))
+        rows = extended(rows, facts, links) if width else facts
+        if rows is None:
+            return None
+        for at, place in links[1:]:
+            rows = [row for row in rows if row[width + at] == row[place]]
+        width += len(pattern)
+    return places, rows
