@@ -109,7 +109,7 @@ def lot_from(text, at):
     form = Form.lot(patterns)
     whole = form.text()
     # The order of the patterns and the closing brace are as they should be only if the way back says so.
-    if text[at:at + len(whole)] != whole or len(whole) != len(inner) + 2:
+    if text[at:at + len(whole)] != whole:
         raise BadText()
     return form, at + len(whole)
 

@@ -54,7 +54,7 @@ def nodes_told(text):
         # All lines but the first one stand beneath the first one.
         if depth > len(above) or (nodes and not depth):
             raise BadText()
-        lot = [] if rest == "-" and not nodes else [read_pattern(word) for word in rest.split(" ")]
+        lot = [] if rest == "-" else [read_pattern(word) for word in rest.split(" ")]
         nodes.append((above[depth - 1] if nodes else None, lot))
         above = [*above[:depth], len(nodes) - 1]
     return nodes

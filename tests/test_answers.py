@@ -207,6 +207,8 @@ class Telling(unittest.TestCase):
             with self.subTest(known), self.assertRaises(NoPart) as caught:
                 fullest(TOWNS, STORE, known)
             self.assertEqual(caught.exception.known, known)
+        with self.assertRaises(NoPart):
+            fullest(Question.read("person(?x)"), STORE, {**ANN, "?w": "ann"})
 
 
 class Later(unittest.TestCase):
@@ -223,6 +225,17 @@ class Later(unittest.TestCase):
         wide = Question.read("town(?x,?y)\n far(?x,?z)")
         self.assertEqual(lost([Question.read("person(?x)"), wide], STORE, Store([("town", "ann", "rome")])),
                          [{"?x": "bob"}, BOB, {"?x": "eve", "?y": "rome"}])
+
+    def test_above_by_a_node_far_down(self):
+        deep = Question.read("a(?t)\n b(?t,?u)\n  b(?u,?v)\n   b(?v,?w)\n    b(?w,?x)\n  a(?y)")
+        wood = [Question.read("c(?w)"), deep]
+        way = [("a", "k"), ("b", "k", "l"), ("b", "l", "m"), ("b", "m", "n")]
+        self.assertEqual(lost(wood, Store([("c", "n")]), Store(way)), [])
+        self.assertEqual(lost(wood, Store([("c", "m")]), Store(way)), [{"?w": "m"}])
+        self.assertEqual(lost(wood, Store([("c", "n")]), Store([*way[:2], way[3]])), [{"?w": "n"}])
+        self.assertEqual(lost([Question.read("c(?w,?y)"), deep], Store([("c", "n", "k")]), Store(way)), [])
+        self.assertEqual(lost([Question.read("c(?w,?y)"), deep], Store([("c", "n", "l")]), Store(way)),
+                         [{"?w": "n", "?y": "l"}])
 
     def test_changes(self):
         later = Store([("mayor", "oslo", "eve"), ("person", "bob"), ("person", "eve"), ("town", "bob", "oslo")])

@@ -415,6 +415,9 @@ class Papers(unittest.TestCase):
             (("stuck", 0, None), False),
         ]:
             self.check(paper, wanted, wood=[PEOPLE, TOWNS])
+        lot = [*LOT, ("town", "?a", "?b")]
+        for part, wanted in [((0, 1), True), ((0, True), False), ((False, 1), False), ([0, 1], False), ((0,), False)]:
+            self.check(("stuck", 0, part), wanted, lot=lot, known={"?x": "?a", "?y": "?b"})
         # Only the first candidate that does not go on counts.
         self.check(("stuck", 1, (0,)), True, lot=[*LOT, ("town", "?a", "?b")])
         self.check(("stuck", 1, (0,)), False)
@@ -461,6 +464,15 @@ class Papers(unittest.TestCase):
             (("had", 2, {"?x": "?a", "?y": ("?b",)}), False), (("had", (0,), {"?z": "?a", "?x": "?a"}), False),
         ]:
             self.check(paper, wanted, lot=lot, goals=goals)
+        for found in [None, "?x?z", ["?x", "?z"], ("?x", "?z"), [], 2, {"?x": {}, "?z": "?a"}, {"?x": "?a", "?z": {}}]:
+            self.check(("had", 0, found), False, lot=lot, goals=goals)
+
+    def test_had_with_variables_of_the_same_name(self):
+        lot = [*LOT, ("town", "?a", "?y"), ("town", "?a", "?a")]
+        goals = [[("town", "?x", "?y")]]
+        for found, wanted in [({"?x": "?a", "?y": "?y"}, True), ({"?x": "?a", "?y": "?a"}, True), ({"?x": "?a"}, False),
+                              ({"?x": "?a", "?w": "?y"}, False), ({"?y": "?y", "?w": "?a"}, False)]:
+            self.check(("had", 0, found), wanted, lot=lot, goals=goals)
 
     def test_others_count_where_a_goal_is_had(self):
         goals = [[("person", "?x")]]

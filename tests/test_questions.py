@@ -137,6 +137,8 @@ class Questions(unittest.TestCase):
         self.assertTrue(Question(TREE) == Question([(parent, lot[::-1]) for parent, lot in TREE]))
         self.assertTrue(Question(TREE) != Question(TREE[:3]))
         self.assertTrue(Question(WIDE) != Question([*WIDE[:5], (0, [("d", "?a", "?g", "?f")])]))
+        self.assertTrue(Question(TREE) != Question([*TREE[:3], (0, [("d", "?x", "?w")])]))
+        self.assertTrue(Question([(None, [])]) != Question([(None, [("a",)])]))
         # The same patterns beneath another parent.
         one = [(None, [("a", "?x")]), (0, [("b", "?x", "?y")]), (0, [("c", "?x", "?z")])]
         self.assertTrue(Question(one) != Question([*one[:1], one[1], (1, [("c", "?x", "?z")])]))
