@@ -34,10 +34,10 @@ def each_fuller(question, store, waiting, known):
 
 def told(question, part, store, known):
     """Whether a map with just the variables of a part is an answer of a question."""
-    if not all_there(question.patterns(part), store, known):
+    if not all_there(question.lot_of(part), store, known):
         return False
     groups = store.groups()
-    return not any([has_match(question.lot_at(node), groups, known) for node in question.next_nodes(part)])
+    return not any([has_match(question.lot_at(node), groups, known) for node in question.beneath(part)])
 
 
 def tellers(wood, store, known):
@@ -81,10 +81,10 @@ def by_part(question, store):
 def fullest(question, store, known):
     """An answer of a question above a map that fits one of its parts."""
     part = question.part_with(list(known))
-    if part is None or not all_there(question.patterns(part), store, known):
+    if part is None or not all_there(question.lot_of(part), store, known):
         raise NoPart(dict(known))
     found = joined(known, {})
-    waiting = question.next_nodes(part)
+    waiting = question.beneath(part)
     while waiting:
         node = waiting.pop()
         more = first_map(question.lot_at(node), store, found)
@@ -100,7 +100,7 @@ def is_below(question, store, known):
     It is enough that the least part with the keys of the map fits above it, for fullest does the rest.
     """
     part = question.least_part(list(known))
-    return part is not None and has_match(question.patterns(part), store.groups(), known)
+    return part is not None and has_match(question.lot_of(part), store.groups(), known)
 
 
 def lost(wood, store, later):

@@ -3,7 +3,7 @@
 from fullestrows.errors import BadPattern, BadText, Loose, OrBelow
 from fullestrows.facts import is_pattern, pattern_text, read_pattern, variables_of
 from fullestrows.joins import joint, summed
-from fullestrows.matching import in_order, maps
+from fullestrows.matching import each_map, few_maps, in_order
 from fullestrows.questions import Question
 from fullestrows.tables import partners, picked
 
@@ -122,11 +122,27 @@ def add_rows(found, names, rows):
             held[row] = True
 
 
-def told_by_lot(lot, store):
+def starts_for(lot, near):
+    """Maps such that each map for a lot that agrees with a map that is near is above one of them."""
+    found = {}
+    for names, rows in near.items():
+        shared = [name for name in variables_of(lot) if name in names]
+        if not shared:
+            return [{}]
+        places = [names.index(name) for name in shared]
+        add_rows(found, tuple(shared), [picked(row, places) for row in rows])
+    return as_maps(found)
+
+
+def told_by_lot(lot, store, near):
     """The maps that fit a lot, as told_by gives them."""
     names = tuple(variables_of(lot))
-    rows = {tuple([known[name] for name in names]): True for known in maps(lot, store)}
-    return {names: rows} if rows else {}
+    several = few_maps(lot, store.groups(), {})
+    if several is None:
+        several = [known for start in starts_for(lot, near) for known in each_map(lot, store, start)]
+    found = {}
+    add_rows(found, names, [tuple([known[name] for name in names]) for known in several])
+    return found
 
 
 def unions(one, other):
@@ -165,28 +181,37 @@ def spread(form):
     return [part for half in form.halves for part in spread(half)]
 
 
-def told_together(form, store):
+def told_together(form, store, near):
     """The maps of forms that are joined by and, as told_by gives them."""
     parts = spread(form)
     # One lot of all patterns means the same as the lots joined, and no way that fits one lot only is gone.
-    found = told_by_lot([pattern for part in parts for pattern in part.wanted], store)
+    lot = [pattern for part in parts for pattern in part.wanted]
+    found = told_by_lot(lot, store, near)
     for part in parts:
         if part.sign != "lot":
-            found = unions(found, told_by(part, store))
+            found = unions(found, told_by(part, store, found if lot else near))
     return found
 
 
-def told_by(form, store):
+def told_by(form, store, near):
     """The meaning of a form: a dict from ascending tuples of variables to the rows of their constants.
 
-    The rows are the keys of a dict, and no tuple of variables is there without rows.
+    The rows are the keys of a dict, and no tuple of variables is there without rows. Maps that agree with
+    no map of near, which is such a dict, may be left out, for a lot alone can have far more maps than are asked for.
     """
     if form.sign in ("lot", "&"):
-        return told_together(form, store)
-    one, other = [told_by(half, store) for half in form.halves]
+        return told_together(form, store, near)
+    one, other = form.halves
+    first = told_by(one, store, near)
     if form.sign == "|":
-        return merged(one, other)
-    return merged(unions(one, other), alone(one, other))
+        return merged(first, told_by(other, store, near))
+    second = told_by(other, store, first)
+    return merged(unions(first, second), alone(first, second))
+
+
+def told_in(form, store):
+    """The whole meaning of a form, as told_by gives it; the map without keys agrees with all maps."""
+    return told_by(form, store, {(): {(): True}})
 
 
 def as_maps(told):
@@ -196,7 +221,7 @@ def as_maps(told):
 
 def meaning(form, store):
     """The ascending list of the maps of the meaning of a form in a store, each once."""
-    return as_maps(told_by(form, store))
+    return as_maps(told_in(form, store))
 
 
 def has_or(form):
@@ -326,9 +351,9 @@ def below_some(names, later):
 
 def shrunk(form, store, later):
     """The ascending list of the maps of a form in one store above which there is none in another store."""
-    others = told_by(form, later)
+    others = told_in(form, later)
     left = {}
-    for names, rows in told_by(form, store).items():
+    for names, rows in told_in(form, store).items():
         held = below_some(names, others)
         left[names] = [row for row in rows if row not in held]
     return as_maps(left)

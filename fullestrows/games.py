@@ -13,8 +13,8 @@ class Seat:
     def __init__(self, tree, part, question):
         self.tree = tree
         self.part = part
-        self.needs = question.patterns(part)
-        self.next_lots = [(node, question.lot_at(node)) for node in question.next_nodes(part)]
+        self.needs = question.lot_of(part)
+        self.next_lots = [(node, question.lot_at(node)) for node in question.beneath(part)]
 
 
 class Position:

@@ -2,7 +2,7 @@
 
 from fullestrows.facts import by_shape, variables_of
 from fullestrows.joins import ways_to
-from fullestrows.rows import small_rows
+from fullestrows.rows import FEW_ROWS, MOST_ROWS, small_rows
 from fullestrows.search import each_row, first_solution, is_tree
 from fullestrows.tables import picked, ready, tables_for
 
@@ -35,7 +35,7 @@ def in_order(several):
 
 def few_maps(lot, groups, start):
     """The ascending list of all maps above a dict that lead a lot to facts, or None if they may be many."""
-    small = small_rows(lot, groups, start)
+    small = small_rows(lot, groups, start, MOST_ROWS)
     if small is None:
         return None
     places, rows = small
@@ -76,7 +76,7 @@ def maps(lot, store, known=None):
 def first_match(lot, groups, known):
     """The first dict above known that leads a lot to facts or patterns, which are in groups by shape, or None."""
     start = {} if known is None else known
-    small = small_rows(lot, groups, start)
+    small = small_rows(lot, groups, start, FEW_ROWS)
     if small is None:
         tables = ready(tables_for(lot, groups, start))
         found = None if tables is None else first_solution(tables)
@@ -91,7 +91,7 @@ def first_match(lot, groups, known):
 
 def has_match(lot, groups, known):
     """Whether some dict above known leads a lot to facts or patterns, which are in groups by shape."""
-    small = small_rows(lot, groups, known)
+    small = small_rows(lot, groups, known, FEW_ROWS)
     return first_match(lot, groups, known) is not None if small is None else len(small[1]) > 0
 
 
@@ -103,7 +103,7 @@ def first_map(lot, store, known=None):
 def count_maps(lot, store, known=None):
     """The number of the maps above known that fit a lot in a store."""
     start = {} if known is None else known
-    small = small_rows(lot, store.groups(), start)
+    small = small_rows(lot, store.groups(), start, MOST_ROWS)
     if small is not None:
         return len(small[1])
     tables = ready(tables_for(lot, store.groups(), start))

@@ -32,6 +32,15 @@ def new_names(parents, lots):
     return found
 
 
+def children_of(parents):
+    """For each node the ascending tuple of the nodes whose parent it is."""
+    found = [[] for _ in parents]
+    for node, parent in enumerate(parents):
+        if parent is not None:
+            found[parent].append(node)
+    return [tuple(nodes) for nodes in found]
+
+
 def first_twice(names):
     """The first of some names that stands among them twice, or None."""
     ordered = sorted(names)
@@ -73,6 +82,7 @@ class Question:
         self._parents = tuple([parent for parent, _ in nodes])
         self._lots = tuple([tuple(sorted(set(patterns))) for _, patterns in nodes])
         self._new = tuple(new_names(self._parents, self._lots))
+        self._children = tuple(children_of(self._parents))
         # A variable that is new in two nodes does not hang together.
         twice = first_twice([name for names in self._new for name in names])
         if twice is not None:
@@ -107,8 +117,8 @@ class Question:
         return self._lots[node]
 
     def children(self, node):
-        """The ascending list of the nodes whose parent a node is."""
-        return [other for other, parent in enumerate(self._parents) if parent == node]
+        """The ascending tuple of the nodes whose parent a node is."""
+        return self._children[node]
 
     def is_part(self, value):
         """Whether any value is a part: with each node but the first one, its parent, in an ascending tuple."""
@@ -124,27 +134,33 @@ class Question:
             found = [*found, *[(*part, node) for part in found if parent in part]]
         return sorted(found)
 
-    def next_nodes(self, part):
-        """The ascending list of the nodes that are not in a part, but whose parent is."""
+    def checked(self, part):
+        """A part as it is; what is no part raises BadPart."""
         if not self.is_part(part):
             raise BadPart(part)
+        return part
+
+    def beneath(self, part):
+        """The ascending list of the nodes that are not in a part, but whose parent is; it takes parts only."""
         return [node for node, parent in enumerate(self._parents) if parent in part and node not in part]
 
-    def taken(self, part):
-        """The nodes of a part, or all nodes for None."""
-        if part is None:
-            return list(range(len(self._parents)))
-        if not self.is_part(part):
-            raise BadPart(part)
-        return list(part)
+    def lot_of(self, nodes):
+        """The ascending list of the patterns of some nodes, each once."""
+        return sorted({pattern for node in nodes for pattern in self._lots[node]})
+
+    def next_nodes(self, part):
+        """The ascending list of the next nodes of a part."""
+        return self.beneath(self.checked(part))
 
     def variables(self, part=None):
         """The ascending list of the variables of the nodes of a part, or of all nodes."""
-        return sorted([name for node in self.taken(part) for name in self._new[node]])
+        nodes = list(range(len(self._parents))) if part is None else self.checked(part)
+        return sorted([name for node in nodes for name in self._new[node]])
 
     def patterns(self, part=None):
         """The ascending list of the patterns of the nodes of a part, or of all nodes, each once."""
-        return sorted({pattern for node in self.taken(part) for pattern in self._lots[node]})
+        nodes = list(range(len(self._parents))) if part is None else self.checked(part)
+        return self.lot_of(nodes)
 
     def part_with(self, variables):
         """The part whose variables are just those of a list, or None if there is none."""

@@ -6,8 +6,11 @@ in the patterns and the terms of the facts only in the rows, so the two never mi
 the facts are variables themselves.
 """
 
-# Beyond these numbers the ways of search.py and joins.py are better: they never list what is not asked for.
+# Beyond these numbers of rows the ways of search.py and joins.py are better, for they never list what is not
+# asked for: the first number is for what is to be listed, the second one if not all of it is asked for.
 MOST_ROWS = 1000
+FEW_ROWS = 200
+# Beyond this number of pairs an index is worth its making.
 MOST_PAIRS = 100
 
 
@@ -36,32 +39,32 @@ def nearest(waiting, places):
     return 0
 
 
-def indexed(rows, facts, at, place):
-    """The rows, each followed by the facts that have at one spot what the row has at a place."""
+def indexed(rows, facts, at, place, most):
+    """The rows, each followed by the facts that have at one spot what the row has at a place, or None."""
     ends = {}
     for fact in facts:
         ends.setdefault(fact[at], []).append(fact)
-    if sum([len(ends.get(row[place], [])) for row in rows]) > MOST_ROWS:
+    if sum([len(ends.get(row[place], [])) for row in rows]) > most:
         return None
     return [row + fact for row in rows for fact in ends.get(row[place], [])]
 
 
-def extended(rows, facts, links):
-    """The rows, each followed by each fact that has at the first spots of links what the row has at the places.
+def extended(rows, facts, links, most):
+    """The rows, each followed by each fact that goes with it by the first link, or None for more than the most.
 
-    It returns None if there are too many of them; the first link need not be all.
+    A link is a tuple of a spot in the facts and a place in the rows that must have the same.
     """
     many = len(rows) * len(facts)
     if not links:
-        return None if many > MOST_ROWS else [row + fact for row in rows for fact in facts]
+        return None if many > most else [row + fact for row in rows for fact in facts]
     at, place = links[0]
     if many > MOST_PAIRS:
-        return indexed(rows, facts, at, place)
+        return indexed(rows, facts, at, place, most)
     return [row + fact for row in rows for fact in facts if fact[at] == row[place]]
 
 
-def small_rows(lot, groups, known):
-    """A tuple (places, rows) of all ways in which a lot fits, or None if there are too many on the way to them.
+def small_rows(lot, groups, known, most):
+    """A tuple (places, rows) of all ways in which a lot fits, or None if there may be more than most on the way.
 
     No way comes twice. Without rows, the places mean nothing.
     """
@@ -84,7 +87,7 @@ def small_rows(lot, groups, known):
                 place = places.setdefault(term, width + at)
                 if place < width:
                     links.append((at, place))
-        rows = extended(rows, facts, links) if width else facts
+        rows = extended(rows, facts, links, most) if width else facts
         if rows is None:
             return None
         for at, place in links[1:]:

@@ -5,7 +5,7 @@ from fullestrows.facts import (
     MOST_TERMS, Store, by_shape, filled, is_free, is_name, is_pattern, is_whole, variables_of,
 )
 from fullestrows.joins import ways_to
-from fullestrows.rows import small_rows
+from fullestrows.rows import FEW_ROWS, small_rows
 from fullestrows.search import first_solution
 from fullestrows.tables import picked, ready, tables_for
 
@@ -100,7 +100,7 @@ def head_at(rule, places):
 
 def lacking(rule, groups, held):
     """The places and rows (see rows.py) with which the body is there, but not the head, or None for too many."""
-    small = small_rows(rule.body, groups, {})
+    small = small_rows(rule.body, groups, {}, FEW_ROWS)
     if small is None or not small[1]:
         return small
     places, rows = small

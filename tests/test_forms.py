@@ -1,5 +1,7 @@
 import unittest
+from unittest import mock
 
+from fullestrows import forms
 from fullestrows.answers import answers
 from fullestrows.errors import BadPattern, BadText, Loose, OrBelow
 from fullestrows.facts import Store
@@ -214,6 +216,28 @@ class Meaning(unittest.TestCase):
         store = Store([*loops, ("a", "k3")])
         self.assertEqual(meaning(one & other, store), [{f"?{side}{at}": f"{value}3" for side, value in
                                                         [("x", "k"), ("y", "l")] for at in range(4)}])
+
+    def test_second_form_with_many_maps(self):
+        # Alone, the second form has 50 ** 5 maps, but only one of them agrees with each map of the first form.
+        store = Store([*[("b", f"k{at}", f"l{at}") for at in range(50)], ("b", "l7", "m"), ("a", "k7"), ("a", "k8")])
+        names = "uvwxy"
+        first = Form.lot([("a", f"?{name}") for name in names[:3]])
+        second = Form.lot([("b", f"?{name}", f"?{name}1") for name in names])
+        wanted = meaning(first, store)
+        for form in [first.opt(second & Form.lot([("a", f"?{name}") for name in names[3:]])),
+                     first.opt(Form.lot([("a", "?x"), ("a", "?y")]) & second),
+                     (first & Form.lot([("a", "?x"), ("a", "?y")])).opt(second).opt(second),
+                     (first & Form.lot([("a", "?x"), ("a", "?y")])).opt(second.opt(second))]:
+            found = meaning(form, store)
+            self.assertEqual([len(wanted), len(found)], [8, 32])
+            self.assertTrue(all(value == known[name[:2]].replace("k", "l") for known in found
+                                for name, value in known.items() if len(name) == 3))
+
+    def test_by_definition_without_listing_lots(self):
+        with mock.patch.object(forms, "few_maps", lambda *_: None):
+            self.test_by_definition()
+            self.test_opt()
+            self.test_and()
 
     def test_twelve_lots(self):
         store = Store([("b", f"k{at}", f"k{at + 1}") for at in range(12)])

@@ -7,7 +7,7 @@ import test_closing
 import test_games
 import test_matching
 import test_rules
-from fullestrows import rows
+from fullestrows import matching, rows, rules
 from fullestrows.facts import by_shape
 from fullestrows.rows import fitting, small_rows
 from values import dice, names_in, slow_maps, some_lot, told
@@ -15,16 +15,11 @@ from values import dice, names_in, slow_maps, some_lot, told
 FACTS = [("e", "a", "a"), ("e", "a", "b"), ("e", "b", "c"), ("n", "b"), ("n", "c"), ("e", "a")]
 
 
-def limits(**numbers):
-    """Other limits for a while."""
-    return mock.patch.multiple(rows, **numbers)
-
-
 class Rows(unittest.TestCase):
-    def found(self, lot, facts, known=None):
+    def found(self, lot, facts, known=None, most=1000):
         """The maps that the rows tell, or None."""
         start = known or {}
-        small = small_rows(lot, by_shape(facts), start)
+        small = small_rows(lot, by_shape(facts), start, most)
         if small is None:
             return None
         places, several = small
@@ -49,7 +44,7 @@ class Rows(unittest.TestCase):
 
     def test_groups_stay_as_they_are(self):
         groups = by_shape(FACTS)
-        small_rows([("e", "?x", "?y"), ("n", "?y"), ("e", "a", "?z")], groups, {})
+        small_rows([("e", "?x", "?y"), ("n", "?y"), ("e", "a", "?z")], groups, {}, 100)
         self.assertEqual(groups, by_shape(FACTS))
 
     def test_small_rows(self):
@@ -62,16 +57,22 @@ class Rows(unittest.TestCase):
 
     def test_too_many_rows(self):
         lot = [("n", "?x"), ("n", "?y"), ("n", "?z")]
-        with limits(MOST_ROWS=8):
-            self.assertEqual(len(self.found(lot, FACTS)), 8)
-        with limits(MOST_ROWS=7):
-            self.assertIsNone(self.found(lot, FACTS))
-            self.assertEqual(len(self.found(lot[:2], FACTS)), 4)
+        self.assertEqual(len(self.found(lot, FACTS, most=8)), 8)
+        self.assertIsNone(self.found(lot, FACTS, most=7))
+        self.assertEqual(len(self.found(lot[:2], FACTS, most=7)), 4)
         way = [("e", "?x", "?y"), ("e", "?y", "?z")]
-        for most, wanted in [(3, 3), (2, None)]:
-            with limits(MOST_ROWS=most, MOST_PAIRS=0):
-                found = self.found(way, FACTS)
-                self.assertEqual(found if found is None else len(found), wanted)
+        with mock.patch.object(rows, "MOST_PAIRS", 0):
+            self.assertEqual(len(self.found(way, FACTS, most=3)), 3)
+            self.assertIsNone(self.found(way, FACTS, most=2))
+
+    def test_near_patterns_come_first(self):
+        # The lots with the fewest facts have no variable in common, so they must not be joined ahead of the third.
+        facts = [*[("a", f"k{at}") for at in range(9)], *[("c", f"l{at}") for at in range(9)],
+                 *[("b", f"k{at}", f"l{at}") for at in range(10)]]
+        lot = [("a", "?x"), ("c", "?z"), ("b", "?x", "?z"), ("c", "?y")]
+        self.assertEqual(len(self.found(lot[:3], facts, most=9)), 9)
+        self.assertEqual(len(self.found(lot, facts, most=81)), 81)
+        self.assertIsNone(self.found(lot, facts, most=80))
 
     def test_by_definition(self):
         terms = ["?a", "?b", "?c", "?d", "k", "l"]
@@ -82,8 +83,8 @@ class Rows(unittest.TestCase):
             known = {name: numbers.choice(["k", "l", "m"]) for name in ["?a", "?b"] if numbers.random() < 0.2}
             wanted = slow_maps(lot, set(facts), known)
             for pairs in [0, 5, 100]:
-                with limits(MOST_PAIRS=pairs, MOST_ROWS=10 ** 9):
-                    found = [dict(sorted(one.items())) for one in self.found(lot, facts, known)]
+                with mock.patch.object(rows, "MOST_PAIRS", pairs):
+                    found = [dict(sorted(one.items())) for one in self.found(lot, facts, known, 10 ** 9)]
                     self.assertEqual(sorted(told(found)), [list(one.items()) for one in wanted
                                                            if set(one) == set(known) | set(names_in(lot))])
 
@@ -92,9 +93,10 @@ class WithoutRows:
     """The tests of the quick way again, so that the slow one must do."""
 
     def setUp(self):
-        limit = limits(MOST_ROWS=0, MOST_PAIRS=0)
-        limit.start()
-        self.addCleanup(limit.stop)
+        for module in [matching, rules]:
+            without = mock.patch.object(module, "small_rows", lambda *_: None)
+            without.start()
+            self.addCleanup(without.stop)
 
 
 class MapsWithoutRows(WithoutRows, test_matching.Maps):
