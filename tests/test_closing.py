@@ -4,7 +4,7 @@ from fullestrows.errors import Clash
 from fullestrows.facts import Store, filled, variables_of
 from fullestrows.matching import is_above, maps
 from fullestrows.rules import Key, Rule, closed, keeps, store_of
-from values import dice, given, names_in, slow_closed, slow_maps, some_lot
+from values import dice, names_in, slow_closed, some_lot
 
 WAY = Rule([("e", "?x", "?y"), ("e", "?y", "?z")], ("e", "?x", "?z"))
 
