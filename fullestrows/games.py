@@ -4,7 +4,7 @@ from fullestrows.errors import Clash
 from fullestrows.facts import by_shape, filled, is_whole, variables_of
 from fullestrows.matching import first_match, has_match
 from fullestrows.questions import is_list
-from fullestrows.rules import closed
+from fullestrows.rules import closed_on
 
 
 class Seat:
@@ -63,9 +63,12 @@ def goes_on(lot, wood, known, tree, part):
     return moves_on(Seat(tree, part, wood[tree]), Position(lot, known))
 
 
-def at_rest(play, lot, known):
-    """The position after the lot has been closed; it raises Clash as closing does."""
-    patterns, terms = closed(lot, play.rules)
+def at_rest(play, done, added, known):
+    """The position after a lot has been closed; it raises Clash as closing does.
+
+    The lot has two parts, the first of which is closed already.
+    """
+    patterns, terms = closed_on(done, added, play.rules)
     return Position(patterns, {name: terms.get(known[name], known[name]) for name in sorted(known)})
 
 
@@ -89,12 +92,12 @@ def fresh_for(names, taken):
     return found
 
 
-def with_node(play, position, wanted):
-    """The lot into which the patterns of a node are put, with fresh variables for those that are new in it."""
+def put_in(play, position, wanted):
+    """The patterns of a node as they are put into the lot, with fresh variables for those that are new in it."""
     taken = {name: True for name in [*variables_of(position.present), *play.used]}
     names = fresh_for([name for name in variables_of(wanted) if name not in position.known], taken)
     known = {**names, **position.known}
-    return [*position.present, *[filled(pattern, known) for pattern in wanted]]
+    return [filled(pattern, known) for pattern in wanted]
 
 
 def first_had(play, position):
@@ -112,17 +115,17 @@ def after_choices(play, position, seat):
         return "lost", ("stuck", seat.tree, seat.part)
     rows = []
     for node, lot in seat.next_lots:
-        end = ending(play, with_node(play, position, lot), position.known)
+        end = ending(play, position.present, put_in(play, position, lot), position.known)
         if end[0] == "won":
             return end
         rows.append((node, end[1]))
     return "lost", ("put", seat.tree, seat.part, rows)
 
 
-def ending(play, lot, known):
-    """How a play ends that goes on with a lot and a dict: what spoil returns."""
+def ending(play, done, added, known):
+    """How a play ends that goes on with a lot of two parts and a dict: what spoil returns."""
     try:
-        position = at_rest(play, lot, known)
+        position = at_rest(play, done, added, known)
     except Clash:
         return "lost", ("clash",)
     had = first_had(play, position)
@@ -136,7 +139,7 @@ def ending(play, lot, known):
 
 def spoil(lot, wood, known, *, goals=(), rules=()):
     """Whether the spoiler can win: a tuple won with the lot and the dict at the end, or lost with a paper."""
-    return ending(Play(wood, known, goals, rules), lot, known)
+    return ending(Play(wood, known, goals, rules), [], lot, known)
 
 
 def shows_goal(paper, play, position):
@@ -172,17 +175,17 @@ def shows_choices(rows, play, position, seat):
     for row, (node, lot) in zip(rows, seat.next_lots):
         if not isinstance(row, tuple) or len(row) != 2 or not is_whole(row[0]) or row[0] != node:
             return False
-        if not is_paper(row[1], play, with_node(play, position, lot), position.known):
+        if not is_paper(row[1], play, position.present, put_in(play, position, lot), position.known):
             return False
     return True
 
 
-def is_paper(paper, play, lot, known):
-    """Whether any value is a paper for a play that goes on with a lot and a dict."""
+def is_paper(paper, play, done, added, known):
+    """Whether any value is a paper for a play that goes on with a lot of two parts and a dict."""
     if not isinstance(paper, tuple):
         return False
     try:
-        position = at_rest(play, lot, known)
+        position = at_rest(play, done, added, known)
     except Clash:
         return paper == ("clash",)
     if paper[:1] == ("had",):
@@ -197,4 +200,4 @@ def is_paper(paper, play, lot, known):
 
 def is_lost(paper, lot, wood, known, *, goals=(), rules=()):
     """Whether any value is a paper that shows that the spoiler loses a play."""
-    return is_paper(paper, Play(wood, known, goals, rules), lot, known)
+    return is_paper(paper, Play(wood, known, goals, rules), [], lot, known)

@@ -63,21 +63,27 @@ def extended(rows, facts, links, most):
     return [row + fact for row in rows for fact in facts if fact[at] == row[place]]
 
 
-def small_rows(lot, groups, known, most):
-    """A tuple (places, rows) of all ways in which a lot fits, or None if there may be more than most on the way.
-
-    No way comes twice. Without rows, the places mean nothing.
-    """
-    waiting = []
+def all_fitting(lot, groups, known):
+    """The list of tuples (pattern, facts) with the facts that fit each pattern alone, or None if one has none."""
+    found = []
     for pattern in lot:
         facts = fitting(pattern, groups, known)
         if not facts:
-            return {}, []
-        waiting.append((len(facts), pattern, facts))
+            return None
+        found.append((pattern, facts))
+    return found
+
+
+def joined_rows(fits, known, most):
+    """A tuple (places, rows) of all ways in which patterns fit together, or None if there may be more than most.
+
+    For each pattern, fits has the facts that it may be led to, one at least. No way comes twice. Without rows,
+    the places mean nothing.
+    """
     places = {}
     rows = [()]
     width = 0
-    waiting = sorted(waiting)
+    waiting = sorted([(len(facts), pattern, facts) for pattern, facts in fits])
     while waiting and rows:
         _, pattern, facts = waiting.pop(nearest(waiting, places) if width else 0)
         links = []
@@ -94,3 +100,9 @@ def small_rows(lot, groups, known, most):
             rows = [row for row in rows if row[width + at] == row[place]]
         width += len(pattern)
     return places, rows
+
+
+def small_rows(lot, groups, known, most):
+    """A tuple (places, rows) of all ways in which a lot fits, as joined_rows gives it."""
+    fits = all_fitting(lot, groups, known)
+    return ({}, []) if fits is None else joined_rows(fits, known, most)

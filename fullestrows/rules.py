@@ -1,13 +1,8 @@
 """Keys and implications: which stores keep them, and what follows from a lot by them."""
 
-from fullestrows.errors import BadKey, BadPattern, BadRule, Clash
-from fullestrows.facts import (
-    MOST_TERMS, Store, by_shape, filled, is_free, is_name, is_pattern, is_whole, variables_of,
-)
-from fullestrows.joins import ways_to
-from fullestrows.rows import FEW_ROWS, small_rows
-from fullestrows.search import first_solution
-from fullestrows.tables import picked, ready, tables_for
+from fullestrows.closing import end_of, first_breach, first_pair
+from fullestrows.errors import BadKey, BadPattern, BadRule
+from fullestrows.facts import MOST_TERMS, Store, filled, is_name, is_pattern, is_whole, variables_of
 
 
 def are_places(places, size):
@@ -76,62 +71,6 @@ class Rule:
         return isinstance(other, Rule) and self._body == other._body and self._head == other._head
 
 
-def first_pair(groups, key):
-    """The first pair of different patterns that a key does not allow beside each other, or None.
-
-    The patterns are in groups by shape, in ascending order.
-    """
-    patterns = groups.get((key.table, 1 + key.size), [])
-    if len(patterns) < 2:
-        return None
-    spots = [1 + place for place in key.places]
-    alike = {}
-    for pattern in patterns:
-        alike.setdefault(picked(pattern, spots), []).append(pattern)
-    if len(alike) == len(patterns):
-        return None
-    return min([(group[0], group[1]) for group in alike.values() if len(group) > 1])
-
-
-def head_at(rule, places):
-    """For each item of the head of a rule, a tuple of it and its place in the rows, or -1."""
-    return [(term, places.get(term, -1)) for term in rule.head]
-
-
-def lacking(rule, groups, held):
-    """The places and rows (see rows.py) with which the body is there, but not the head, or None for too many."""
-    small = small_rows(rule.body, groups, {}, FEW_ROWS)
-    if small is None or not small[1]:
-        return small
-    places, rows = small
-    spots = head_at(rule, places)
-    return places, [row for row in rows
-                    if tuple([term if at < 0 else row[at] for term, at in spots]) not in held]
-
-
-def missing(rule, groups, held):
-    """The table (see tables.py) of the variables of a head for which the body is there, but not the head."""
-    names = tuple(variables_of([rule.head]))
-    ways = ways_to(tables_for(rule.body, groups, {}), names)
-    return names, [row for row in ways if filled(rule.head, dict(zip(names, row))) not in held]
-
-
-def first_breach(rule, groups, held):
-    """The body of an implication, filled by the first map that breaks it, or None."""
-    small = lacking(rule, groups, held)
-    if small is None:
-        tables = ready([*tables_for(rule.body, groups, {}), missing(rule, groups, held)])
-        found = None if tables is None else first_solution(tables)
-    elif small[1]:
-        places, rows = small
-        names = sorted(places)
-        spots = [places[name] for name in names]
-        found = dict(zip(names, min([picked(row, spots) for row in rows])))
-    else:
-        found = None
-    return None if found is None else [filled(pattern, found) for pattern in rule.body]
-
-
 def breach(rule, groups, held):
     """A list of facts that shows that a rule is broken, or None if it is kept."""
     if isinstance(rule, Rule):
@@ -155,52 +94,16 @@ def keeps(store, rules):
     return broken(store, rules) is None
 
 
-def exchange_for(one, other):
-    """The terms (gone, kept) of the first place at which a pattern and a greater one differ."""
-    low, high = [pair for pair in zip(one, other) if pair[0] != pair[1]][0]
-    # The lesser pattern has the lesser term there, and variables are less than constants.
-    if not is_free(low):
-        raise Clash()
-    return (high, low) if is_free(high) else (low, high)
-
-
-def next_exchange(groups, rules):
-    """The terms (gone, kept) that the first key asks for that does not hold, or None."""
-    for rule in rules:
-        pair = first_pair(groups, rule) if isinstance(rule, Key) else None
-        if pair is not None:
-            return exchange_for(pair[0], pair[1])
-    return None
-
-
-def heads_of(rule, groups, held):
-    """The heads that an implication asks for and that are not there."""
-    small = lacking(rule, groups, held)
-    if small is None:
-        names, rows = missing(rule, groups, held)
-        return [filled(rule.head, dict(zip(names, row))) for row in rows]
-    places, rows = small
-    spots = head_at(rule, places)
-    return [tuple([term if at < 0 else row[at] for term, at in spots]) for row in rows]
+def closed_on(done, added, rules):
+    """What closed returns for a lot of two parts, the first of which is closed by the rules already."""
+    keys = [rule for rule in rules if isinstance(rule, Key)]
+    implications = [rule for rule in rules if isinstance(rule, Rule)]
+    return end_of(done, added, keys, implications)
 
 
 def closed(lot, rules):
     """The ascending patterns of a lot with all that follows by rules, and what became of its variables."""
-    patterns = sorted(set(lot))
-    terms = {name: name for name in variables_of(lot)}
-    while True:
-        groups = by_shape(patterns)
-        change = next_exchange(groups, rules)
-        if change is not None:
-            gone, kept = change
-            patterns = sorted({filled(pattern, {gone: kept}) for pattern in patterns})
-            terms = {name: kept if term == gone else term for name, term in terms.items()}
-            continue
-        held = {pattern: True for pattern in patterns}
-        heads = [head for rule in rules if isinstance(rule, Rule) for head in heads_of(rule, groups, held)]
-        if not heads:
-            return patterns, terms
-        patterns = sorted(set([*patterns, *heads]))
+    return closed_on([], lot, rules)
 
 
 def store_of(lot, taken=()):

@@ -10,16 +10,16 @@ from fullestrows.facts import variables_of
 from fullestrows.rows import fitting
 
 
-def table_of(pattern, groups, known):
-    """The table of a pattern, with known values for some of its variables; the facts are in groups by shape."""
+def table_with(pattern, facts, known):
+    """The table of a pattern, with known values for some of its variables, and with facts that fit it alone."""
     names = tuple([name for name in variables_of([pattern]) if name not in known])
     spots = [pattern.index(name) for name in names]
-    return names, [picked(fact, spots) for fact in fitting(pattern, groups, known)]
+    return names, [picked(fact, spots) for fact in facts]
 
 
 def tables_for(lot, groups, known):
-    """The tables of the patterns of a lot; each fact is in its group once."""
-    return [table_of(pattern, groups, known) for pattern in sorted(set(lot))]
+    """The tables of the patterns of a lot; the facts are in groups by shape, each once."""
+    return [table_with(pattern, fitting(pattern, groups, known), known) for pattern in sorted(set(lot))]
 
 
 def picked(row, places):

@@ -3,8 +3,8 @@ import unittest
 from fullestrows.errors import Clash
 from fullestrows.facts import Store, filled, variables_of
 from fullestrows.matching import is_above, maps
-from fullestrows.rules import Key, Rule, closed, keeps, store_of
-from values import dice, names_in, slow_closed, some_lot
+from fullestrows.rules import Key, Rule, closed, closed_on, keeps, store_of
+from values import dice, names_in, shaped_lot, slow_closed, some_lot
 
 WAY = Rule([("e", "?x", "?y"), ("e", "?y", "?z")], ("e", "?x", "?z"))
 
@@ -125,6 +125,66 @@ class Closing(unittest.TestCase):
     def test_long_way(self):
         lot = [("e", f"?v{at}", f"?v{at + 1}") for at in range(18)]
         self.assertEqual(len(closed(lot, [WAY])[0]), 19 * 18 // 2)
+
+
+class GoingOn(unittest.TestCase):
+    """Point 32 for a lot, most of which is closed already, as it is in a play."""
+
+    def check(self, done, added, rules):
+        try:
+            wanted = slow_closed([*done, *added], rules, dice(0))
+        except Clash:
+            self.assertRaises(Clash, closed_on, done, added, rules)
+            return
+        patterns, terms = closed_on(done, added, rules)
+        self.assertEqual(patterns, wanted[0])
+        self.assertEqual(list(terms.items()), sorted(wanted[1].items()))
+
+    def test_nothing_added(self):
+        done = closed([("e", "?a", "?b"), ("e", "?b", "c")], [WAY])[0]
+        self.check(done, [], [WAY])
+        self.check(done, done, [WAY])
+        self.check([], [], [Rule([], ("a", "k"))])
+
+    def test_what_is_added_is_joined_with_what_was_there(self):
+        done = closed([("e", f"?v{at}", f"?v{at + 1}") for at in range(8)], [WAY])[0]
+        for more in [[("e", "?v8", "?w")], [("e", "?w", "?v0")], [("e", "?w", "?v3")], [("e", "?v4", "?v4")],
+                     [("e", "?v8", "?v0")], [("e", "?w", "?u")]]:
+            self.check(done, more, [WAY])
+            self.check(done, more, [WAY, Rule([("e", "?x", "?y"), ("e", "?y", "?x")], ("f", "?x"))])
+
+    def test_exchange_makes_old_patterns_fresh(self):
+        # Only when ?b and ?c have become the same, the old patterns fit the body.
+        rules = [Rule([("e", "?x", "?y"), ("f", "?y", "?z")], ("g", "?x", "?z")), Key("h", 2, [0])]
+        done = closed([("e", "?a", "?b"), ("f", "?c", "?d"), ("h", "k", "?c"), *[("n", f"?v{at}") for at in range(9)]],
+                      rules)[0]
+        self.check(done, [("h", "k", "?b")], rules)
+        self.assertIn(("g", "?a", "?d"), closed_on(done, [("h", "k", "?b")], rules)[0])
+        self.check(done, [("h", "k", "l")], rules)
+        # Nearly all patterns are changed, and the body fits one of these alone.
+        rules = [Rule([("p", "l")], ("g", "l")), Key("h", 2, [0])]
+        done = [("h", "k", "?c"), *[("n", "?c", f"?v{at}") for at in range(9)], ("p", "?c")]
+        self.check(done, [("h", "k", "l")], rules)
+        self.assertIn(("g", "l"), closed_on(done, [("h", "k", "l")], rules)[0])
+
+    def test_equal_to_closing_the_whole(self):
+        ended = 0
+        for seed in range(400):
+            numbers = dice(seed)
+            terms = ["?x", "?y", "?z", "?u", "?v", "k", "l"]
+            rules = some_rules(numbers) if seed % 2 else [
+                Rule(body, shaped_lot(numbers, 1, [*names_in(body), "k"])[0])
+                for body in [shaped_lot(numbers, numbers.randint(1, 3), ["?x", "?y", "?z"]) for _ in range(2)]]
+            rules += [Key("b", 2, [0])] if seed % 3 == 0 else []
+            lot = shaped_lot(numbers, numbers.randint(4, 12), terms)
+            try:
+                done = closed(lot, rules)[0]
+            except Clash:
+                continue
+            ended += 1
+            with self.subTest(seed):
+                self.check(done, shaped_lot(numbers, numbers.randint(1, 2), [*terms, "?new1"]), rules)
+        self.assertGreater(ended, 200)
 
 
 class MainStatement(unittest.TestCase):

@@ -7,7 +7,7 @@ import test_closing
 import test_games
 import test_matching
 import test_rules
-from fullestrows import matching, rows, rules
+from fullestrows import closing, matching, rows
 from fullestrows.facts import by_shape
 from fullestrows.rows import fitting, small_rows
 from values import dice, names_in, slow_maps, some_lot, told
@@ -93,8 +93,8 @@ class WithoutRows:
     """The tests of the quick way again, so that the slow one must do."""
 
     def setUp(self):
-        for module in [matching, rules]:
-            without = mock.patch.object(module, "small_rows", lambda *_: None)
+        for module, name in [(matching, "small_rows"), (closing, "joined_rows")]:
+            without = mock.patch.object(module, name, lambda *_: None)
             without.start()
             self.addCleanup(without.stop)
 
@@ -112,6 +112,10 @@ class KeepingWithoutRows(WithoutRows, test_rules.Keeping):
 
 
 class ClosingWithoutRows(WithoutRows, test_closing.Closing):
+    pass
+
+
+class GoingOnWithoutRows(WithoutRows, test_closing.GoingOn):
     pass
 
 
