@@ -112,7 +112,8 @@ def new_heads(implications, patterns, groups, fresh):
     for rule in implications:
         fits = all_fitting(rule.body, groups, {})
         if fits is not None:
-            for one in [fits] if whole else fresh_fits(rule, fits, shapes):
+            several = [fits] if whole else fresh_fits(rule, fits, shapes)
+            for one in several:
                 heads.extend(heads_from(rule.head, one, held))
     return sorted(set(heads))
 

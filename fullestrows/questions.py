@@ -165,7 +165,7 @@ class Question:
     def part_with(self, variables):
         """The part whose variables are just those of a list, or None if there is none."""
         wanted = set(variables)
-        part = (0, *[node for node, names in enumerate(self._new) if node > 0 and names[0] in wanted])
+        part = (0, *[node for node, new in enumerate(self._new) if node > 0 and new[0] in wanted])
         names = [name for node in part for name in self._new[node]]
         if len(names) != len(wanted) or not all([name in wanted for name in names]):
             return None
