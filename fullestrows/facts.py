@@ -92,7 +92,7 @@ class Store:
                 raise BadFact(value)
         self._facts = tuple(sorted(set(facts)))
         self._held = {fact: True for fact in self._facts}
-        self._groups = by_shape(self._facts)
+        self._groups = None
 
     @property
     def facts(self):
@@ -110,7 +110,12 @@ class Store:
         return is_fact(value) and value in self._held
 
     def groups(self):
-        """The facts by their shapes, as by_shape tells them; the package itself only looks at them."""
+        """The facts by their shapes, as by_shape tells them; the package itself only looks at them.
+
+        They are made when they are first asked for, as an operator, which makes a store, must not make them.
+        """
+        if self._groups is None:
+            self._groups = by_shape(self._facts)
         return self._groups
 
     def held(self):

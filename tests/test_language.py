@@ -49,6 +49,72 @@ def sources():
     return [(path.name, path.read_text(encoding="utf-8")) for path in sorted(PACKAGE.glob("*.py"))]
 
 
+MODIFYING = set("append clear extend insert pop remove reverse setdefault update sort add discard".split())
+OPERATORS = """__lt__ __le__ __gt__ __ge__ __ne__ __add__ __sub__ __mul__ __and__ __or__ __xor__ __bool__ __contains__
+__getitem__ __eq__ __len__ __repr__ __str__""".split()
+
+
+def is_own_list(value):
+    """Whether an expression makes a list or dict that may be changed where it is made."""
+    if isinstance(value, ast.Call) and isinstance(value.func, ast.Name):
+        return value.func.id in ("list", "dict", "sorted")
+    return isinstance(value, (ast.List, ast.Dict, ast.ListComp))
+
+
+def own_lists(function):
+    """The local names that hold nothing but lists and dicts that the function itself makes."""
+    good, bad = set(), set()
+    for node in ast.walk(function):
+        if isinstance(node, ast.Assign):
+            for target in node.targets:
+                if isinstance(target, ast.Name):
+                    (good if is_own_list(node.value) else bad).add(target.id)
+    return good - bad
+
+
+def changes_of(function):
+    """What a function changes that it did not make itself (L5 Operators)."""
+    own = own_lists(function)
+    found = []
+    for node in ast.walk(function):
+        if isinstance(node, ast.Attribute) and not isinstance(node.ctx, ast.Load):
+            held = isinstance(node.value, ast.Name) and node.value.id == "self" and function.name == "__init__"
+            found += [] if held else [node]
+        if isinstance(node, ast.Subscript) and not isinstance(node.ctx, ast.Load):
+            found += [] if isinstance(node.value, ast.Name) and node.value.id in own else [node]
+        if isinstance(node, ast.Call) and isinstance(node.func, ast.Attribute) and node.func.attr in MODIFYING:
+            mine = isinstance(node.func.value, ast.Name) and node.func.value.id in own and node.func.attr != "sort"
+            found += [] if mine else [node]
+        if isinstance(node, ast.AugAssign) and not isinstance(node.value, ast.Constant):
+            found.append(node)
+    return found
+
+
+def reached_by_operators():
+    """The operators, properties, __eq__ and __len__ of the package, and all that they may call, with their names."""
+    functions, made, waiting = {}, {}, []
+    for name, holder in nodes_of(ast.Module):
+        for node in ast.walk(holder):
+            if isinstance(node, ast.FunctionDef):
+                functions.setdefault(node.name, []).append(node)
+                marks = [getattr(mark, "id", None) for mark in node.decorator_list]
+                if node.name in OPERATORS or "property" in marks:
+                    waiting.append((node.name, node))
+            if isinstance(node, ast.ClassDef):
+                made[node.name] = [(part.name, part) for part in node.body
+                                   if isinstance(part, ast.FunctionDef) and part.name == "__init__"]
+    reached = []
+    while waiting:
+        one = waiting.pop()
+        if one not in reached:
+            reached.append(one)
+            for call in ast.walk(one[1]):
+                if isinstance(call, ast.Call):
+                    name = getattr(call.func, "id", getattr(call.func, "attr", None))
+                    waiting += made.get(name, [(name, node) for node in functions.get(name, [])])
+    return reached
+
+
 class Language(unittest.TestCase):
     def test_only_python_files(self):
         held = {path.name for path in PACKAGE.iterdir() if path.name != "__pycache__"}
@@ -155,6 +221,31 @@ class Language(unittest.TestCase):
                 called = isinstance(node, ast.Call) and isinstance(node.func, ast.Name) and node.func.id == "set"
                 if called or isinstance(node, (ast.Set, ast.SetComp)):
                     self.assertIn(id(node), fine, (name, node.lineno))
+
+    def test_operators_and_properties_change_nothing(self):
+        reached = reached_by_operators()
+        names = {name for name, _ in reached}
+        self.assertLessEqual({"__add__", "__sub__", "__and__", "__or__", "__eq__", "__len__", "__contains__", "facts",
+                              "nodes", "wanted", "is_fact", "is_name"}, names)
+        for name, node in reached:
+            with self.subTest(name):
+                self.assertEqual(changes_of(node), [])
+                passed = {part.arg for part in ast.walk(node) if isinstance(part, ast.arg)} - {"cls"}
+                for call in ast.walk(node):
+                    if isinstance(call, ast.Call):
+                        self.assertFalse(isinstance(call.func, ast.Name) and call.func.id in passed)
+                        self.assertIsInstance(call.func, (ast.Name, ast.Attribute))
+
+    def test_changes_are_seen(self):
+        for text, wanted in [
+                ("self.a = 1", 1), ("self.a += 1", 1), ("x.a = []", 1), ("xs = [1]\n xs.append(2)", 0),
+                ("x.append(2)", 1), ("x.setdefault(1, []).append(2)", 2), ("xs = {}\n xs.setdefault(1, []).append(2)", 1),
+                ("xs = {a: 1 for a in x}\n xs.update(x)", 1), ("xs = dict(x)\n xs[1] = 2", 0), ("x[1] = 2", 1),
+                ("xs = x\n xs[1] = 2", 1), ("xs = sorted(x)\n xs.sort()", 1), ("xs = [a for a in x]\n xs.pop()", 0),
+                ("del x[1]", 1), ("xs = []\n xs[1:] = x", 0), ("xs = []\n xs = x\n xs.append(1)", 1)]:
+            with self.subTest(text):
+                tree = ast.parse(f"def f(self, x):\n {text}")
+                self.assertEqual(len(changes_of(tree.body[0])), wanted)
 
     def test_strings(self):
         for name, node in nodes_of(ast.Constant):
