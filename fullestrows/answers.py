@@ -36,8 +36,10 @@ def told(question, part, store, known):
     """Whether a map with just the variables of a part is an answer of a question."""
     if not all_there(question.lot_of(part), store, known):
         return False
-    groups = store.groups()
-    return not any([has_match(question.lot_at(node), groups, known) for node in question.beneath(part)])
+    for node in question.beneath(part):
+        if has_match(question.lot_at(node), store.groups(), known):
+            return False
+    return True
 
 
 def tellers(wood, store, known):
@@ -94,19 +96,21 @@ def fullest(question, store, known):
     return found
 
 
-def is_below(question, store, known):
-    """Whether a question has an answer in a store above a map.
+def has_above(wood, store, known):
+    """Whether a wood has an answer in a store above a map.
 
-    It is enough that the least part with the keys of the map fits above it, for fullest does the rest.
+    It is enough that the least part of a question with the keys of the map fits above it, for fullest does the rest.
     """
-    part = question.least_part(list(known))
-    return part is not None and has_match(question.lot_of(part), store.groups(), known)
+    for question in wood:
+        part = question.least_part(list(known))
+        if part is not None and has_match(question.lot_of(part), store.groups(), known):
+            return True
+    return False
 
 
 def lost(wood, store, later):
     """The ascending list of the answers in one store above which there is no answer in another store."""
-    return [known for known in answers(wood, store)
-            if not any([is_below(question, later, known) for question in wood])]
+    return [known for known in answers(wood, store) if not has_above(wood, later, known)]
 
 
 def changes(wood, store, later):

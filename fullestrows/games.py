@@ -49,7 +49,15 @@ def is_candidate(seat, position):
 
 def moves_on(seat, position):
     """Whether the patterns of some next node of a seat can be led to the lot above the dict."""
-    return any([has_match(lot, position.shapes, position.known) for _, lot in seat.next_lots])
+    for _, lot in seat.next_lots:
+        if has_match(lot, position.shapes, position.known):
+            return True
+    return False
+
+
+def waits(seat, position):
+    """Whether a seat is that of a candidate which does not go on."""
+    return is_candidate(seat, position) and not moves_on(seat, position)
 
 
 def candidates(lot, wood, known):
@@ -75,9 +83,15 @@ def at_rest(play, done, added, known):
 def waiting_seat(play, position):
     """The seat of the first candidate that does not go on, or None."""
     for seat in play.seats:
-        if is_candidate(seat, position) and not moves_on(seat, position):
+        if waits(seat, position):
             return seat
     return None
+
+
+def narrowest_seat(play, position):
+    """Of the candidates that do not go on, the seat of one with the fewest next nodes, or None."""
+    waiting = [seat for seat in play.seats if waits(seat, position)]
+    return min(waiting, key=lambda seat: len(seat.next_lots), default=None)
 
 
 def fresh_for(names, taken):
@@ -92,12 +106,12 @@ def fresh_for(names, taken):
     return found
 
 
-def put_in(play, position, wanted):
-    """The patterns of a node as they are put into the lot, with fresh variables for those that are new in it."""
-    taken = {name: True for name in [*variables_of(position.present), *play.used]}
-    names = fresh_for([name for name in variables_of(wanted) if name not in position.known], taken)
-    known = {**names, **position.known}
-    return [filled(pattern, known) for pattern in wanted]
+def put_in(play, present, known, wanted):
+    """The patterns of a node as they are put into a lot, with fresh variables for those that no term is known for."""
+    taken = {name: True for name in [*variables_of(present), *play.used]}
+    names = fresh_for([name for name in variables_of(wanted) if name not in known], taken)
+    whole = {**names, **known}
+    return [filled(pattern, whole) for pattern in wanted]
 
 
 def first_had(play, position):
@@ -115,7 +129,8 @@ def after_choices(play, position, seat):
         return "lost", ("stuck", seat.tree, seat.part)
     rows = []
     for node, lot in seat.next_lots:
-        end = ending(play, position.present, put_in(play, position, lot), position.known)
+        added = put_in(play, position.present, position.known, lot)
+        end = ending(play, position.present, added, position.known)
         if end[0] == "won":
             return end
         rows.append((node, end[1]))
@@ -140,6 +155,42 @@ def ending(play, done, added, known):
 def spoil(lot, wood, known, *, goals=(), rules=()):
     """Whether the spoiler can win: a tuple won with the lot and the dict at the end, or lost with a paper."""
     return ending(Play(wood, known, goals, rules), [], lot, known)
+
+
+def is_had(play, position):
+    """Whether a goal is had."""
+    for goal in play.goals:
+        if has_match(goal, position.shapes, position.known):
+            return True
+    return False
+
+
+def win_from(play, done, added, known):
+    """The position in which the spoiler has won a play that goes on with a lot of two parts and a dict, or None.
+
+    All candidates must be made to go on at last, so it does not matter which one is taken first; it is the
+    one with the fewest choices, for one without any shows at once that the play is lost.
+    """
+    try:
+        position = at_rest(play, done, added, known)
+    except Clash:
+        return None
+    if is_had(play, position):
+        return None
+    seat = narrowest_seat(play, position)
+    if seat is None:
+        return position
+    for _, lot in seat.next_lots:
+        more = put_in(play, position.present, position.known, lot)
+        won = win_from(play, position.present, more, position.known)
+        if won is not None:
+            return won
+    return None
+
+
+def win_of(lot, wood, known, goals, rules):
+    """The position in which the spoiler has won a play, or None if the spoiler loses it."""
+    return win_from(Play(wood, known, goals, rules), [], lot, known)
 
 
 def shows_goal(paper, play, position):
@@ -175,7 +226,8 @@ def shows_choices(rows, play, position, seat):
     for row, (node, lot) in zip(rows, seat.next_lots):
         if not isinstance(row, tuple) or len(row) != 2 or not is_whole(row[0]) or row[0] != node:
             return False
-        if not is_paper(row[1], play, position.present, put_in(play, position, lot), position.known):
+        added = put_in(play, position.present, position.known, lot)
+        if not is_paper(row[1], play, position.present, added, position.known):
             return False
     return True
 

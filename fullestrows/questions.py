@@ -41,6 +41,12 @@ def children_of(parents):
     return [tuple(nodes) for nodes in found]
 
 
+def renumbered(nodes, kept):
+    """The nodes (parent, patterns) at some places, which are kept together with their parents, numbered anew."""
+    numbers = {node: at for at, node in enumerate(kept)}
+    return [(numbers.get(nodes[node][0]), nodes[node][1]) for node in kept]
+
+
 def first_twice(names):
     """The first of some names that stands among them twice, or None."""
     ordered = sorted(names)
@@ -116,6 +122,10 @@ class Question:
         """The ascending tuple of the patterns of a node."""
         return self._lots[node]
 
+    def parent(self, node):
+        """The parent of a node, which is None for the first one."""
+        return self._parents[node]
+
     def children(self, node):
         """The ascending tuple of the nodes whose parent a node is."""
         return self._children[node]
@@ -183,6 +193,17 @@ class Question:
                 kept[node] = True
                 kept[parent] = True
         return tuple(sorted(kept)) if seen == len(wanted) else None
+
+    def way(self, node):
+        """The ascending tuple of the nodes on the way from the first node to a node, both included."""
+        nodes = [node]
+        while nodes[-1] > 0:
+            nodes.append(self._parents[nodes[-1]])
+        return tuple(sorted(nodes))
+
+    def without(self, node):
+        """The question in which a node other than the first one and all that is beneath it are left out."""
+        return Question(renumbered(self.nodes, [at for at in range(len(self._parents)) if node not in self.way(at)]))
 
     def text(self):
         """The text of the question: a line for each node, all that is beneath a node directly behind it."""

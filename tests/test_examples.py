@@ -1,15 +1,23 @@
 import unittest
 
 from fullestrows.answers import answers, by_part, changes, fullest, is_answer, lost, tellers
-from fullestrows.errors import BadLine, Clash, Loose, NoPart, OrBelow
+from fullestrows.containment import (
+    always_alone, are_papers, contained, never_answers, papers, parting, parts_them, shared,
+)
+from fullestrows.errors import BadLine, BadStrike, Clash, Loose, NoPart, NotAnAnswer, OrBelow
 from fullestrows.facts import Store, filled, is_fact, is_pattern, pattern_text, read_pattern, variables_of
 from fullestrows.forms import Form, arms, form_of, loose, meaning, shrunk, wood_of
 from fullestrows.games import candidates, goes_on, is_lost, spoil
+from fullestrows.later import (
+    always_final, final_answers, final_paper, is_final, is_final_paper, undoes, undoing, unsettled,
+)
 from fullestrows.matching import (
     agree, count_maps, first_map, in_order, is_above, joined, map_between, maps, only_keys,
 )
 from fullestrows.questions import Question
 from fullestrows.rules import Key, Rule, broken, closed, keeps, store_of
+from fullestrows.shown import are_ways, is_unmet, needless_nodes, part_of, shown_answers, unmet, ways
+from fullestrows.thinning import alike, always_had, needless, strikes, struck, thinned, tightened, unlike
 
 
 class Examples(unittest.TestCase):
@@ -145,6 +153,92 @@ class Examples(unittest.TestCase):
             [is_lost(paper, lot, [towns], {"?x": "?a"}, goals=[[("town", "?x", "?z")]]),
              is_lost(paper, lot, [towns], {"?x": "?a"})],
             [True, False])
+
+    def test_containment(self):
+        people = Question([(None, [("person", "?x")])])
+        towns = Question([(None, [("person", "?x")]), (0, [("town", "?x", "?y")])])
+        store, answer = parting([people], [towns])
+        self.check(
+            [contained([people], [towns]), store.facts, answer, parts_them(store, answer, [people], [towns])],
+            [False, (('person', 'new2'), ('town', 'new2', 'new1')), {'?x': 'new2'}, True])
+        self.check(
+            [contained([people], [towns, people]), papers([people], [towns, people])],
+            [True, {(0, (0,)): ('put', 0, (0,), [(1, ('stuck', 1, (0,)))])}])
+        self.check(
+            [are_papers(papers([people], [towns, people]), [people], [towns, people]),
+             are_papers({}, [people], [towns, people])],
+            [True, False])
+        homeless = Rule([("person", "?p")], ("town", "?p", "rome"))
+        self.check(
+            [never_answers([towns], rules=[homeless]), always_alone([people, towns]), shared([people, towns])[1:],
+             always_alone([people, towns], rules=[homeless])],
+            [[(0, (0,))], False, ({'?x': 'new1'}, 0, 1), True])
+
+    def test_thinning(self):
+        towns = Question.read("person(?x)\n person(?x) town(?x,?y)")
+        self.check(strikes([towns]), [('tree', 0), ('node', 0, 1), ('pattern', 0, 0, ('person', '?x')),
+                                      ('pattern', 0, 1, ('person', '?x'))])
+        self.check(
+            [needless([towns]), thinned([towns])[0][0].text(), unlike([towns], struck([towns], ("node", 0, 1)))[0]],
+            [[('pattern', 0, 1, ('person', '?x'))], 'person(?x)\n town(?x,?y)', 0])
+        people = Question.read("person(?x)")
+        self.check(
+            [alike([towns, people], [people]), alike([towns], thinned([towns])[0]), needless([people, people])],
+            [False, True, [('tree', 0), ('tree', 1)]])
+        homeless = Rule([("person", "?p")], ("town", "?p", "rome"))
+        self.check(
+            [always_had(towns, rules=[homeless]), tightened(towns, rules=[homeless]).text(), always_had(towns)],
+            [[1], 'person(?x) town(?x,?y)', []])
+        with self.assertRaises(BadStrike) as caught:
+            struck([Question.read("person(?x)")], ("node", 0, 0))
+        self.assertEqual(caught.exception.value, ('node', 0, 0))
+
+    def test_shown(self):
+        towns = Question([(None, [("town", "?x", "?y")]), (0, [("mayor", "?y", "?z")])])
+        people = Question([(None, [("town", "?x", "?w")])])
+        store = Store([("town", "ann", "rome"), ("town", "ann", "oslo"), ("mayor", "oslo", "eve")])
+        self.check(
+            [shown_answers([towns], store, ["?x"]), shown_answers([towns], store, ["?x", "?z"])],
+            [[{'?x': 'ann'}], [{'?x': 'ann'}, {'?x': 'ann', '?z': 'eve'}]])
+        self.check(
+            [part_of([towns], [people], ["?x"]), part_of([towns], [people], ["?x", "?z"]),
+             part_of([people], [towns], ["?x", "?z"])],
+            [True, False, True])
+        self.check(
+            ways([towns], [people], ["?x"]),
+            {(0, (0,)): ('way', 0, (0,), {'?w': '?y', '?x': '?x'}),
+             (0, (0, 1)): ('way', 0, (0,), {'?w': '?y', '?x': '?x'})})
+        store, answer = unmet([towns], [people], ["?x", "?z"])
+        self.check(
+            [store.facts, answer, is_unmet(store, answer, [towns], [people], ["?x", "?z"]),
+             is_unmet(store, answer, [towns], [people], ["?x"])],
+            [(('mayor', 'new2', 'new3'), ('town', 'new1', 'new2')), {'?x': 'new1', '?y': 'new2', '?z': 'new3'}, True,
+             False])
+        self.check(
+            [are_ways({}, [towns], [people], ["?x"]), needless_nodes([towns], ["?x", "?y"]),
+             needless_nodes([towns], ["?z"])],
+            [False, [(0, 1)], []])
+
+    def test_later(self):
+        towns = Question.read("person(?x)\n town(?x,?y)")
+        store = Store([("person", "ann"), ("person", "bob"), ("town", "bob", "oslo")])
+        self.check(
+            [final_answers([towns], store), undoing([towns], store, {"?x": "ann"}),
+             undoes([("town", "ann", "rome")], [towns], store, {"?x": "ann"})],
+            [[{'?x': 'bob', '?y': 'oslo'}], [('town', 'ann', 'new1')], True])
+        people = Question.read("person(?x)")
+        paper = final_paper([towns, people], store, {"?x": "ann"})
+        self.check(
+            [paper, is_final_paper(paper, [towns, people], store, {"?x": "ann"}),
+             is_final([towns], store, {"?x": "ann"})],
+            [('put', 0, (0,), [(1, ('stuck', 1, (0,)))]), True, False])
+        self.check(
+            [always_final([people]), always_final([towns]), unsettled([towns])[1:]],
+            [True, False, ({'?x': 'new1'}, [('town', 'new1', 'new2')])])
+        self.check(always_final([towns], rules=[Rule([("person", "?p")], ("town", "?p", "rome"))]), True)
+        with self.assertRaises(NotAnAnswer) as caught:
+            is_final([Question.read("person(?x)")], Store([]), {"?x": "ann"})
+        self.assertEqual(caught.exception.known, {'?x': 'ann'})
 
 
 if __name__ == "__main__":

@@ -3,7 +3,9 @@
 import copy
 import unittest
 
-from fullestrows import answers, facts, forms, games, matching, questions, rules
+from fullestrows import (
+    answers, containment, facts, forms, games, later as laters, matching, questions, rules, shown, thinning,
+)
 from fullestrows.facts import Store
 from fullestrows.forms import Form
 from fullestrows.questions import Question
@@ -38,6 +40,15 @@ def form():
 
 def later():
     return Store([("e", "b", "c"), ("m", "b", "e"), ("n", "b"), ("n", "c")])
+
+
+def kept():
+    """A store that keeps the rules."""
+    return Store([*ROWS, ("n", "c")])
+
+
+def others():
+    return [Question([(None, [("n", "?x")])]), *wood(), Question([(None, [("n", "?x")]), (0, [("k", "?x", "?v")])])]
 
 
 TOLD = {"?y": "b", "?x": "b"}
@@ -114,8 +125,55 @@ CALLS = [
     (games.is_lost, {"paper": PAPER, **PLAY}),
 ]
 
+SHOWN = ["?z", "?x", "?x", "?q"]
+# Calls of functions that take rules by name.
+WITH_RULES = [
+    (containment.contained, {"wood": wood(), "others": others()}),
+    (containment.papers, {"wood": wood(), "others": others()}),
+    (containment.are_papers, {"value": containment.papers(wood(), others()), "wood": wood(), "others": others()}),
+    (containment.parting, {"wood": others(), "others": wood()}),
+    (containment.parts_them, {"store": kept(), "answer": {"?x": "c"}, "wood": others(), "others": wood()}),
+    (containment.never_answers, {"wood": others()}),
+    (containment.always_alone, {"wood": others()}),
+    (containment.shared, {"wood": others()}),
+    (thinning.alike, {"wood": wood(), "others": others()}),
+    (thinning.unlike, {"wood": wood(), "others": others()}),
+    (thinning.needless, {"wood": [*wood(), *wood()]}),
+    (thinning.thinned, {"wood": [*wood(), *wood()]}),
+    (thinning.always_had, {"question": wood()[1]}),
+    (thinning.tightened, {"question": wood()[1]}),
+    (shown.part_of, {"wood": wood(), "others": others(), "shown": SHOWN}),
+    (shown.ways, {"wood": wood(), "others": others(), "shown": SHOWN}),
+    (shown.are_ways, {"value": shown.ways(wood(), others(), SHOWN), "wood": wood(), "others": others(),
+                      "shown": SHOWN}),
+    (shown.unmet, {"wood": wood(), "others": others()[:1], "shown": SHOWN}),
+    (shown.is_unmet, {"store": kept(), "answer": TOLD, "wood": wood(), "others": others()[:1], "shown": SHOWN}),
+    (shown.needless_nodes, {"wood": others(), "shown": SHOWN}),
+    (laters.is_final, {"wood": wood(), "store": kept(), "known": TOLD}),
+    (laters.final_paper, {"wood": [*wood(), Question([(None, [("n", "?x"), ("n", "?y")])])], "store": kept(),
+                          "known": TOLD}),
+    (laters.is_final_paper, {"value": ("put", 0, (0,), [(1, ("clash",))]), "wood": wood(), "store": kept(),
+                             "known": TOLD}),
+    (laters.undoing, {"wood": wood(), "store": kept(), "known": TOLD}),
+    (laters.undoes, {"facts": [("m", "b", "a"), ("n", "b")], "wood": wood(), "store": kept(), "known": TOLD}),
+    (laters.final_answers, {"wood": wood(), "store": kept()}),
+    (laters.always_final, {"wood": wood()}),
+    (laters.unsettled, {"wood": wood()}),
+]
+CALLS += WITH_RULES
+CALLS += [
+    (thinning.strikes, {"wood": wood()}),
+    (thinning.struck, {"wood": wood(), "strike": ("pattern", 0, 0, ("n", "?y"))}),
+    (shown.shown_answers, {"wood": wood(), "store": later(), "shown": SHOWN}),
+    (shown.without_node, {"question": QUESTION, "node": 2}),
+]
+
 # Calls with arguments behind a *, which are passed by name only.
-FURTHER = [
+FURTHER = [(function, arguments, {"rules": [Rule([("e", "?p", "?q")], ("n", "?q"))]})
+           for function, arguments in WITH_RULES]
+FURTHER += [(function, arguments, {"rules": some_rules()}) for function, arguments in WITH_RULES
+            if function not in (laters.always_final, laters.unsettled)]
+FURTHER += [
     (games.spoil, PLAY, GOALS),
     (games.spoil, PLAY, {"rules": [Key("n", 1, [])], "goals": [[("e", "?q", "?r")]]}),
     (games.is_lost, {"paper": PAPER, **PLAY}, GOALS),
@@ -172,7 +230,11 @@ class Calls(unittest.TestCase):
             questions: "Question",
             answers: "answers each_answer by_part tellers is_answer fullest lost changes",
             forms: "meaning arms loose wood_of form_of shrunk",
-            games: "candidates goes_on spoil is_lost"}
+            games: "candidates goes_on spoil is_lost",
+            containment: "contained papers are_papers parting parts_them never_answers always_alone shared",
+            thinning: "alike unlike strikes struck needless thinned always_had tightened",
+            shown: "shown_answers part_of ways are_ways unmet is_unmet needless_nodes without_node",
+            laters: "is_final final_paper is_final_paper undoing undoes final_answers always_final unsettled"}
         called = {function for function, _ in CALLS}
         for module, names in listed.items():
             for name in names.split():
@@ -228,6 +290,14 @@ class Calls(unittest.TestCase):
                 self.assertEqual(plain([arguments, named]), before)
                 with self.assertRaises(TypeError):
                     function(*arguments.values(), *named.values())
+
+    def test_defaults_of_rules(self):
+        for function, arguments in WITH_RULES:
+            self.assertEqual(plain(function(**arguments)), plain(function(**arguments, rules=[])))
+
+    def test_every_call_with_rules_is_further(self):
+        named = {function for function, _, _ in FURTHER}
+        self.assertLessEqual({function for function, _ in WITH_RULES}, named)
 
     def test_defaults_of_plays(self):
         self.assertEqual(games.spoil(**PLAY), games.spoil(**PLAY, goals=(), rules=()))

@@ -15,6 +15,10 @@ LISTED = {
     "answers.py": "answers each_answer by_part tellers is_answer fullest lost changes",
     "forms.py": "Form meaning arms loose wood_of form_of shrunk",
     "games.py": "candidates goes_on spoil is_lost",
+    "containment.py": "contained papers are_papers parting parts_them never_answers always_alone shared",
+    "thinning.py": "alike unlike strikes struck needless thinned always_had tightened",
+    "shown.py": "shown_answers part_of ways are_ways unmet is_unmet needless_nodes without_node",
+    "later.py": "is_final final_paper is_final_paper undoing undoes final_answers always_final unsettled",
 }
 METHODS = {
     "Store": "__len__ __iter__ __contains__ __eq__ __add__ __sub__ facts within constants only text read",
