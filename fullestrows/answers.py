@@ -80,13 +80,18 @@ def by_part(question, store):
     return found
 
 
-def fullest(question, store, known):
-    """An answer of a question above a map that fits one of its parts."""
+def part_fitted(question, store, known):
+    """The part of a question that has just the keys of a map as its variables and is fitted by it."""
     part = question.part_with(list(known))
     if part is None or not all_there(question.lot_of(part), store, known):
         raise NoPart(dict(known))
+    return part
+
+
+def fullest(question, store, known):
+    """An answer of a question above a map that fits one of its parts."""
+    waiting = question.beneath(part_fitted(question, store, known))
     found = joined(known, {})
-    waiting = question.beneath(part)
     while waiting:
         node = waiting.pop()
         more = first_map(question.lot_at(node), store, found)

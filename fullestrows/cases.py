@@ -2,7 +2,8 @@
 
 from fullestrows.answers import is_answer
 from fullestrows.errors import Broken, NotAnAnswer
-from fullestrows.facts import is_free, is_whole
+from fullestrows.facts import by_shape, filled, is_free, is_whole
+from fullestrows.matching import first_match
 from fullestrows.rules import Rule, broken, store_of
 
 
@@ -17,12 +18,43 @@ def is_place(value):
             and isinstance(value[1], tuple) and all([is_whole(node) for node in value[1]]))
 
 
-def has_keys(value, places):
+def has_just(value, names):
+    """Whether any value is a dict with just some keys."""
+    return isinstance(value, dict) and len(value) == len(names) and all([name in value for name in names])
+
+
+def has_places(value, places):
     """Whether any value is a dict whose keys are just some tuples (tree, part)."""
-    if not isinstance(value, dict) or len(value) != len(places):
+    # True equals 1, so a key with it would be found, too.
+    return has_just(value, places) and all([is_place(key) for key in value])
+
+
+def way_into(lot, wood, known):
+    """A tuple (tree, part, found) of a part of a wood and a dict above a given one that leads it to a lot, or None.
+
+    No part is needed that is greater than the least one with the keys of the given dict.
+    """
+    shapes = by_shape(lot)
+    for tree, question in enumerate(wood):
+        part = question.least_part(list(known))
+        found = None if part is None else first_match(question.lot_of(part), shapes, known)
+        if found is not None:
+            return tree, part, found
+    return None
+
+
+def is_way_into(value, lot, wood, known):
+    """Whether any tuple is one of a part of a wood and a dict above a given one that leads it to a lot."""
+    if len(value) != 3 or not is_whole(value[0]) or not 0 <= value[0] < len(wood):
         return False
-    # True equals 1, so such a key would be found, too.
-    return all([is_place(key) for key in value]) and all([place in value for place in places])
+    tree, part, found = value
+    if not wood[tree].is_part(part) or not has_just(found, wood[tree].variables(part)):
+        return False
+    for name in known:
+        if name not in found or found[name] != known[name]:
+            return False
+    # A value may be of any kind, and then it is not fit to be looked up among the keys of a dict.
+    return all([filled(pattern, found) in lot for pattern in wood[tree].lot_of(part)])
 
 
 def constants_in(wood, rules):
@@ -49,3 +81,9 @@ def must_answer(wood, store, known):
     """Raises NotAnAnswer unless a map is an answer of a wood in a store."""
     if not is_answer(wood, store, known):
         raise NotAnAnswer(dict(known))
+
+
+def must_fit(wood, store, known, rules):
+    """Raises Broken unless a store keeps some rules, and then NotAnAnswer unless a map is an answer there."""
+    must_keep(store, rules)
+    must_answer(wood, store, known)

@@ -1,7 +1,7 @@
 """Whether each answer of one wood is an answer of another one in all stores that keep some rules."""
 
 from fullestrows.answers import is_answer
-from fullestrows.cases import constants_in, has_keys, places_in, shown_store
+from fullestrows.cases import constants_in, has_places, places_in, shown_store
 from fullestrows.games import is_lost, spoil, win_of
 from fullestrows.rules import keeps
 
@@ -54,7 +54,7 @@ def papers(wood, others, *, rules=()):
 def are_papers(value, wood, others, *, rules=()):
     """Whether any value is a dict of papers that show that a wood is contained in another one."""
     places = places_in(wood)
-    if not has_keys(value, places):
+    if not has_places(value, places):
         return False
     for tree, part in places:
         question = wood[tree]

@@ -83,6 +83,22 @@ def read_pattern(text):
     return None
 
 
+def lines_of(text):
+    """The lines of a text; the empty text has none."""
+    return text.split("\n") if text else []
+
+
+def facts_told(lines):
+    """The facts that the lines of the text of a store tell, in ascending order."""
+    facts = []
+    for number, line in enumerate(lines, start=1):
+        fact = read_pattern(line)
+        if not is_fact(fact) or (facts and fact <= facts[-1]):
+            raise BadLine(number)
+        facts.append(fact)
+    return facts
+
+
 class Store:
     """A set of facts that never changes."""
 
@@ -154,11 +170,4 @@ class Store:
     @classmethod
     def read(cls, text):
         """The store with a text."""
-        facts = []
-        lines = text.split("\n") if text else []
-        for number, line in enumerate(lines, start=1):
-            fact = read_pattern(line)
-            if not is_fact(fact) or (facts and fact <= facts[-1]):
-                raise BadLine(number)
-            facts.append(fact)
-        return cls(facts)
+        return cls(facts_told(lines_of(text)))

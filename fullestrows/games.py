@@ -1,5 +1,6 @@
 """The spoiler's play: can each candidate of a wood be made to go on while no goal comes true."""
 
+from fullestrows.cases import has_just
 from fullestrows.errors import Clash
 from fullestrows.facts import by_shape, filled, is_whole, variables_of
 from fullestrows.matching import first_match, has_match
@@ -88,10 +89,9 @@ def waiting_seat(play, position):
     return None
 
 
-def narrowest_seat(play, position):
-    """Of the candidates that do not go on, the seat of one with the fewest next nodes, or None."""
-    waiting = [seat for seat in play.seats if waits(seat, position)]
-    return min(waiting, key=lambda seat: len(seat.next_lots), default=None)
+def waiting_seats(play, position):
+    """The seats of all candidates that do not go on, those with the fewest next nodes ahead."""
+    return sorted([seat for seat in play.seats if waits(seat, position)], key=lambda seat: len(seat.next_lots))
 
 
 def fresh_for(names, taken):
@@ -177,10 +177,10 @@ def win_from(play, done, added, known):
         return None
     if is_had(play, position):
         return None
-    seat = narrowest_seat(play, position)
-    if seat is None:
+    waiting = waiting_seats(play, position)
+    if not waiting:
         return position
-    for _, lot in seat.next_lots:
+    for _, lot in waiting[0].next_lots:
         more = put_in(play, position.present, position.known, lot)
         won = win_from(play, position.present, more, position.known)
         if won is not None:
@@ -198,12 +198,11 @@ def shows_goal(paper, play, position):
     if len(paper) != 3:
         return False
     _, index, found = paper
-    if not is_whole(index) or not 0 <= index < len(play.goals) or not isinstance(found, dict):
+    if not is_whole(index) or not 0 <= index < len(play.goals):
         return False
     goal = play.goals[index]
     known = position.known
-    wanted = sorted(set([*known, *variables_of(goal)]))
-    if len(found) != len(wanted) or not all([name in found for name in wanted]):
+    if not has_just(found, sorted(set([*known, *variables_of(goal)]))):
         return False
     # A value may be of any kind, and then it is not fit to be looked up among the keys of a dict.
     lot = list(position.present)

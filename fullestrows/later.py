@@ -1,17 +1,11 @@
 """Which answers stay answers whatever facts are added, as long as the rules are kept."""
 
 from fullestrows.answers import answers, is_answer
-from fullestrows.cases import constants_in, must_answer, must_keep, places_in, shown_store
+from fullestrows.cases import constants_in, must_fit, must_keep, places_in, shown_store
 from fullestrows.containment import win_at
 from fullestrows.facts import Store
 from fullestrows.games import Play, is_lost, spoil, win_from
 from fullestrows.rules import keeps
-
-
-def must_fit(wood, store, known, rules):
-    """Raises Broken unless a store keeps some rules, and then NotAnAnswer unless a map is an answer there."""
-    must_keep(store, rules)
-    must_answer(wood, store, known)
 
 
 def undoing_win(wood, store, known, rules):

@@ -1,10 +1,9 @@
 """Whether each answer of one wood is part of an answer of another one, if only some variables are shown."""
 
 from fullestrows.answers import fullest, has_above, is_answer
-from fullestrows.cases import constants_in, has_keys, places_in, shown_store
+from fullestrows.cases import constants_in, has_places, is_way_into, places_in, shown_store, way_into
 from fullestrows.errors import BadNode, Clash
-from fullestrows.facts import by_shape, filled, is_whole
-from fullestrows.matching import first_match, only_keys
+from fullestrows.matching import only_keys
 from fullestrows.rules import closed, keeps
 from fullestrows.views import left_of_answers
 
@@ -30,19 +29,11 @@ class Ground:
 
 
 def way_in(ground, others):
-    """A way for a part of a question into another wood, or None.
-
-    No part is needed that is greater than the least one with the shown variables.
-    """
+    """A way for a part of a question into another wood, or None."""
     if ground.clash:
         return ("clash",)
-    shapes = by_shape(ground.present)
-    for tree, question in enumerate(others):
-        part = question.least_part(list(ground.visible))
-        found = None if part is None else first_match(question.lot_of(part), shapes, ground.visible)
-        if found is not None:
-            return "way", tree, part, found
-    return None
+    found = way_into(ground.present, others, ground.visible)
+    return None if found is None else ("way", *found)
 
 
 def first_unmet(wood, others, shown, rules):
@@ -73,33 +64,18 @@ def ways(wood, others, shown, *, rules=()):
     return found
 
 
-def has_just(found, names):
-    """Whether any value is a dict with just some keys."""
-    return isinstance(found, dict) and len(found) == len(names) and all([name in found for name in names])
-
-
 def is_way(value, ground, others):
     """Whether any value is a way for a part of a question into another wood."""
     if ground.clash:
         return value == ("clash",)
-    if not isinstance(value, tuple) or len(value) != 4:
-        return False
-    sign, tree, part, found = value
-    if sign != "way" or not is_whole(tree) or not 0 <= tree < len(others) or not others[tree].is_part(part):
-        return False
-    if not has_just(found, others[tree].variables(part)):
-        return False
-    for name in ground.visible:
-        if name not in found or found[name] != ground.visible[name]:
-            return False
-    # A value may be of any kind, and then it is not fit to be looked up among the keys of a dict.
-    return all([filled(pattern, found) in ground.present for pattern in others[tree].lot_of(part)])
+    return (isinstance(value, tuple) and value[:1] == ("way",)
+            and is_way_into(value[1:], ground.present, others, ground.visible))
 
 
 def are_ways(value, wood, others, shown, *, rules=()):
     """Whether any value is a dict of ways that show that a wood is part of another one."""
     places = places_in(wood)
-    if not has_keys(value, places):
+    if not has_places(value, places):
         return False
     for tree, part in places:
         if not is_way(value[(tree, part)], Ground(wood[tree], part, shown, rules), others):

@@ -1,10 +1,15 @@
 import unittest
 
 from fullestrows.answers import answers, by_part, changes, fullest, is_answer, lost, tellers
+from fullestrows.complete import (
+    enough_tables, is_later, is_settled, is_settled_paper, settled_answers, settled_paper, tables_of, unsettles,
+    unsettling,
+)
 from fullestrows.containment import (
     always_alone, are_papers, contained, never_answers, papers, parting, parts_them, shared,
 )
-from fullestrows.errors import BadLine, BadStrike, Clash, Loose, NoPart, NotAnAnswer, OrBelow
+from fullestrows.desk import Desk, read_desk, rehearsed
+from fullestrows.errors import BadLine, BadStrike, Broken, Clash, Loose, NoPart, NotAnAnswer, OrBelow
 from fullestrows.facts import Store, filled, is_fact, is_pattern, pattern_text, read_pattern, variables_of
 from fullestrows.forms import Form, arms, form_of, loose, meaning, shrunk, wood_of
 from fullestrows.games import candidates, goes_on, is_lost, spoil
@@ -15,9 +20,11 @@ from fullestrows.matching import (
     agree, count_maps, first_map, in_order, is_above, joined, map_between, maps, only_keys,
 )
 from fullestrows.questions import Question
+from fullestrows.reasons import clearing, in_the_way, lacking, needed, support, why_not
 from fullestrows.rules import Key, Rule, broken, closed, keeps, store_of
 from fullestrows.shown import are_ways, is_unmet, needless_nodes, part_of, shown_answers, unmet, ways
 from fullestrows.thinning import alike, always_had, needless, strikes, struck, thinned, tightened, unlike
+from fullestrows.unknowns import against, is_possible, is_sure, is_why, some_store, sure_maps, why_sure
 
 
 class Examples(unittest.TestCase):
@@ -239,6 +246,90 @@ class Examples(unittest.TestCase):
         with self.assertRaises(NotAnAnswer) as caught:
             is_final([Question.read("person(?x)")], Store([]), {"?x": "ann"})
         self.assertEqual(caught.exception.known, {'?x': 'ann'})
+
+    def test_reasons(self):
+        towns = Question.read("person(?x)\n mayor(?y,?z) town(?x,?y)")
+        store = Store([("mayor", "oslo", "eve"), ("person", "ann"), ("person", "bob"), ("town", "ann", "rome"),
+                       ("town", "bob", "oslo")])
+        self.check(
+            [support([towns], store, {"?x": "ann"}), why_not([towns], store, {"?x": "eve"}),
+             needed([towns], store, {"?x": "ann"})],
+            [[(0, (0,), [('person', 'ann')])], [('lacks', (0,), [('person', 'eve')])], [('person', 'ann')]])
+        self.check(why_not([towns], store, {"?x": "bob"}),
+                   [('fuller', (0,), 1, {'?x': 'bob', '?y': 'oslo', '?z': 'eve'})])
+        self.check(
+            [in_the_way([towns], store, {"?x": "bob"}), len(clearing([towns], store, {"?x": "bob"})),
+             clearing([towns], store, {"?x": "eve"})],
+            [[('mayor', 'oslo', 'eve'), ('town', 'bob', 'oslo')], 1, None])
+        found, facts = lacking(towns, store, {"?x": "ann"}, 1)
+        self.check([len(facts), lacking(towns, store, {"?x": "bob"}, 1)[1]], [1, []])
+
+    def test_unknowns(self):
+        towns = Question([(None, [("town", "?x", "?y")]), (0, [("mayor", "?y", "?z")])])
+        lot = [("town", "ann", "?u"), ("mayor", "?u", "eve"), ("town", "bob", "oslo")]
+        self.check(sure_maps([towns], lot), [{'?x': 'ann', '?z': 'eve'}, {'?x': 'bob', '?y': 'oslo'}])
+        self.check(sure_maps([towns], [*lot, ("town", "ann", "rome")], rules=[Key("town", 2, [0])]),
+                   [{'?x': 'ann', '?y': 'rome', '?z': 'eve'}, {'?x': 'bob', '?y': 'oslo'}])
+        self.check(
+            [is_sure({"?z": "eve"}, [towns], lot), why_sure({"?z": "eve"}, [towns], lot),
+             is_why((0, (0,), {"?x": "ann", "?y": "?u"}), {"?x": "ann"}, [towns], lot)],
+            [True, (0, (0, 1), {'?x': 'ann', '?y': '?u', '?z': 'eve'}), True])
+        self.check(
+            [against({"?x": "ann", "?y": "oslo"}, [towns], lot).facts, is_possible(Store([("town", "bob", "oslo")]), lot),
+             some_store([("a", "?b")]).facts],
+            [(('mayor', 'new1', 'eve'), ('town', 'ann', 'new1'), ('town', 'bob', 'oslo')), False, (('a', 'new1'),)])
+        with self.assertRaises(Clash):
+            sure_maps([towns], [("town", "ann", "rome"), ("town", "ann", "oslo")], rules=[Key("town", 2, [0])])
+
+    def test_desk(self):
+        desk = Desk([("person", "ann")], rules=[Key("town", 2, [0])])
+        desk.name("towns", [Question.read("person(?x)\n town(?x,?y)")])
+        desk.put([("town", "ann", "rome"), ("person", "bob")])
+        self.check(
+            [desk.answers("towns"), desk.news("towns", 1)[0],
+             desk.supposed([("town", "ann", "rome")], [("town", "ann", "oslo")], "towns")[0]],
+            [[{'?x': 'ann', '?y': 'rome'}, {'?x': 'bob'}], [{'?x': 'ann'}], {'?x': 'ann', '?y': 'oslo'}])
+        desk.undo()
+        self.check(
+            [len(desk), desk.names, desk.text().split("\n"), read_desk(desk.text()).answers("towns")],
+            [1, ['towns'], ['person(ann)', '= towns', 'person(?x)', ' town(?x,?y)', '.'], [{'?x': 'ann'}]])
+        desk = Desk([("town", "ann", "rome")], rules=[Key("town", 2, [0])])
+        with self.assertRaises(Broken) as caught:
+            desk.put([("town", "ann", "oslo")])
+        self.assertEqual((caught.exception.index, caught.exception.shown),
+                         (0, [('town', 'ann', 'oslo'), ('town', 'ann', 'rome')]))
+
+    def test_rehearsed(self):
+        desk = Desk([("person", "ann")])
+        desk.name("all", [Question.read("person(?x)")])
+        self.check(
+            [len(told) for told in rehearsed(desk, [([], [("person", "bob")]), [([("person", "ann")], [])],
+                                                    ([], [("person", "eve")])], "all")],
+            [2, 1, 3])
+        self.check([rehearsed(desk, [[([("person", "ann")], [])]], "all"), desk.answers("all")],
+                   [[[[]]], [{'?x': 'ann'}]])
+
+    def test_complete(self):
+        towns = Question([(None, [("person", "?x")]), (0, [("town", "?x", "?y"), ("mayor", "?y", "?z")])])
+        store = Store([("mayor", "oslo", "eve"), ("person", "ann")])
+        self.check(
+            [is_settled([towns], store, {"?x": "ann"}), is_settled([towns], store, {"?x": "ann"}, complete=["town"]),
+             tables_of([towns])],
+            [False, True, ['mayor', 'person', 'town']])
+        self.check(
+            [unsettling([towns], store, {"?x": "ann"}, complete=["mayor"]), enough_tables([towns], store, {"?x": "ann"})],
+            [[('town', 'ann', 'oslo')], [['town']]])
+        self.check(
+            [unsettles([("town", "ann", "rome")], [towns], store, {"?x": "ann"}),
+             settled_answers([towns], store, complete=["town"])],
+            [False, [{'?x': 'ann'}]])
+        bare = Question([(None, [("person", "?x")]), (0, [("age", "?x", "?y")])])
+        paper = settled_paper([bare], Store([("person", "ann")]), {"?x": "ann"}, complete=["age"])
+        self.check(paper, ('put', 0, (0,), [(1, {'?y': None}, ('barred',)), (1, {'?y': 'ann'}, ('barred',))]))
+        self.check(
+            [is_settled_paper(paper, [bare], Store([("person", "ann")]), {"?x": "ann"}, complete=["age"]),
+             is_later(store, Store(), complete=["mayor"])],
+            [True, False])
 
 
 if __name__ == "__main__":

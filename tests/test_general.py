@@ -4,8 +4,10 @@ import copy
 import unittest
 
 from fullestrows import (
-    answers, containment, facts, forms, games, later as laters, matching, questions, rules, shown, thinning,
+    answers, complete, containment, desk, facts, forms, games, later as laters, matching, questions, reasons, rules, shown,
+    thinning, unknowns,
 )
+from fullestrows.desk import Desk
 from fullestrows.facts import Store
 from fullestrows.forms import Form
 from fullestrows.questions import Question
@@ -51,8 +53,18 @@ def others():
     return [Question([(None, [("n", "?x")])]), *wood(), Question([(None, [("n", "?x")]), (0, [("k", "?x", "?v")])])]
 
 
+def some_desk():
+    """A desk with woods and steps."""
+    held = Desk([*ROWS, ("n", "c")], rules=some_rules())
+    held.name("some", wood())
+    held.name("none", [])
+    held.put([("m", "b", "e")])
+    return held
+
+
 TOLD = {"?y": "b", "?x": "b"}
 QUESTION = Question(nodes())
+DESK = some_desk()
 FORM = form()
 PLAY = {"lot": [("n", "?b"), ("n", "?a"), ("n", "?b")], "wood": wood(), "known": {"?y": "?b", "?x": "?a"}}
 GOALS = {"goals": [[("f", "?x")], [("e", "?q", "?r")]], "rules": [Rule([("m", "?p", "?q")], ("e", "?q", "?q"))]}
@@ -159,6 +171,23 @@ WITH_RULES = [
     (laters.final_answers, {"wood": wood(), "store": kept()}),
     (laters.always_final, {"wood": wood()}),
     (laters.unsettled, {"wood": wood()}),
+    (unknowns.is_sure, {"known": {"?y": "b", "?x": "a"}, "wood": wood(), "lot": lot()}),
+    (unknowns.sure_maps, {"wood": wood(), "lot": [*lot(), ("n", "b"), ("e", "b", "?u")]}),
+    (unknowns.why_sure, {"known": {}, "wood": wood(), "lot": lot()}),
+    (unknowns.is_why, {"value": (1, (0,), {"?x": "?y"}), "known": {}, "wood": wood(), "lot": lot()}),
+    (unknowns.against, {"known": {"?y": "b", "?x": "a"}, "wood": wood(), "lot": lot()}),
+    (complete.is_later, {"later": kept(), "store": Store([("n", "c")])}),
+    (complete.is_settled, {"wood": wood(), "store": kept(), "known": TOLD}),
+    (complete.settled_paper, {"wood": [*wood(), Question([(None, [("n", "?x"), ("n", "?y")])])], "store": kept(),
+                              "known": TOLD}),
+    (complete.is_settled_paper, {"value": ("put", 0, (0,), [(1, {"?z": None}, ("barred",))]), "wood": wood(),
+                                 "store": kept(), "known": TOLD}),
+    (complete.unsettling, {"wood": wood(), "store": kept(), "known": TOLD}),
+    (complete.unsettles, {"facts": [("m", "b", "a"), ("n", "b")], "wood": wood(), "store": kept(), "known": TOLD}),
+    (complete.settled_answers, {"wood": wood(), "store": kept()}),
+    (complete.enough_tables, {"wood": wood(), "store": kept(), "known": TOLD}),
+    (Desk, {"facts": [("n", "b"), ("n", "a"), ("n", "b")]}),
+    (desk.read_desk, {"text": some_desk().text()}),
 ]
 CALLS += WITH_RULES
 CALLS += [
@@ -166,6 +195,22 @@ CALLS += [
     (thinning.struck, {"wood": wood(), "strike": ("pattern", 0, 0, ("n", "?y"))}),
     (shown.shown_answers, {"wood": wood(), "store": later(), "shown": SHOWN}),
     (shown.without_node, {"question": QUESTION, "node": 2}),
+    (reasons.support, {"wood": wood(), "store": kept(), "known": TOLD}),
+    (reasons.why_not, {"wood": wood(), "store": kept(), "known": {"?x": "b"}}),
+    (reasons.needed, {"wood": wood(), "store": kept(), "known": TOLD}),
+    (reasons.in_the_way, {"wood": wood(), "store": kept(), "known": {"?x": "b"}}),
+    (reasons.clearing, {"wood": wood(), "store": kept(), "known": {"?x": "b"}}),
+    (reasons.lacking, {"question": QUESTION, "store": kept(), "known": TOLD, "node": 1}),
+    (unknowns.is_possible, {"store": kept(), "lot": lot(), "rules": some_rules()}),
+    (unknowns.some_store, {"lot": lot(), "rules": some_rules()}),
+    (complete.tables_of, {"wood": wood()}),
+    (DESK.wood, {"name": "some"}),
+    (DESK.answers, {"name": "some"}),
+    (DESK.news, {"name": "some", "steps": 1}),
+    (DESK.supposed, {"gone": [("e", "b", "c"), ("n", "c")], "come": [("n", "a")], "name": "some"}),
+    (DESK.text, {}),
+    (desk.rehearsed, {"desk": DESK, "rows": [([], [("n", "a")]), [([("n", "c"), ("e", "b", "c")], []), ("some", [])],
+                                             ("none", wood())], "name": "some"}),
 ]
 
 # Calls with arguments behind a *, which are passed by name only.
@@ -173,6 +218,8 @@ FURTHER = [(function, arguments, {"rules": [Rule([("e", "?p", "?q")], ("n", "?q"
            for function, arguments in WITH_RULES]
 FURTHER += [(function, arguments, {"rules": some_rules()}) for function, arguments in WITH_RULES
             if function not in (laters.always_final, laters.unsettled)]
+FURTHER += [(function, arguments, {"complete": ["m", "n", "m"], "rules": some_rules()}) for function, arguments in WITH_RULES
+            if function.__module__ == complete.__name__ and function is not complete.enough_tables]
 FURTHER += [
     (games.spoil, PLAY, GOALS),
     (games.spoil, PLAY, {"rules": [Key("n", 1, [])], "goals": [[("e", "?q", "?r")]]}),
@@ -214,6 +261,8 @@ def plain(value):
         return "question", value.nodes
     if isinstance(value, Form):
         return "form", value.text()
+    if isinstance(value, Desk):
+        return "desk", value.text(), len(value), value.store.facts
     if isinstance(value, dict):
         return "dict", [(key, plain(item)) for key, item in value.items()]
     if isinstance(value, (list, tuple)):
@@ -234,7 +283,12 @@ class Calls(unittest.TestCase):
             containment: "contained papers are_papers parting parts_them never_answers always_alone shared",
             thinning: "alike unlike strikes struck needless thinned always_had tightened",
             shown: "shown_answers part_of ways are_ways unmet is_unmet needless_nodes without_node",
-            laters: "is_final final_paper is_final_paper undoing undoes final_answers always_final unsettled"}
+            laters: "is_final final_paper is_final_paper undoing undoes final_answers always_final unsettled",
+            reasons: "support why_not needed in_the_way clearing lacking",
+            unknowns: "is_possible some_store is_sure sure_maps why_sure is_why against",
+            desk: "Desk read_desk rehearsed",
+            complete: "is_later is_settled settled_paper is_settled_paper unsettling unsettles settled_answers tables_of"
+                      " enough_tables"}
         called = {function for function, _ in CALLS}
         for module, names in listed.items():
             for name in names.split():
@@ -269,7 +323,8 @@ class Calls(unittest.TestCase):
                 self.assertEqual(plain(arguments), before)
 
     def test_tuples_for_lists(self):
-        any_values = (facts.is_name, facts.is_variable, facts.is_pattern, facts.is_fact, QUESTION.is_part)
+        # In a row of a rehearsal a list is not the same as a tuple.
+        any_values = (facts.is_name, facts.is_variable, facts.is_pattern, facts.is_fact, QUESTION.is_part, desk.rehearsed)
         for function, arguments in CALLS:
             with self.subTest(function.__name__):
                 if function not in any_values:

@@ -19,6 +19,11 @@ LISTED = {
     "thinning.py": "alike unlike strikes struck needless thinned always_had tightened",
     "shown.py": "shown_answers part_of ways are_ways unmet is_unmet needless_nodes without_node",
     "later.py": "is_final final_paper is_final_paper undoing undoes final_answers always_final unsettled",
+    "reasons.py": "support why_not needed in_the_way clearing lacking",
+    "unknowns.py": "is_possible some_store is_sure sure_maps why_sure is_why against",
+    "desk.py": "Desk read_desk rehearsed",
+    "complete.py": "is_later is_settled settled_paper is_settled_paper unsettling unsettles settled_answers tables_of"
+                   " enough_tables",
 }
 METHODS = {
     "Store": "__len__ __iter__ __contains__ __eq__ __add__ __sub__ facts within constants only text read",
@@ -26,6 +31,7 @@ METHODS = {
     "Rule": "__eq__ body head",
     "Question": "__len__ __eq__ nodes new_variables is_part parts next_nodes variables patterns part_with text renamed"
                 " read",
+    "Desk": "__init__ exchange put strike name forget __len__ undo redo store names wood answers news trial supposed text",
     "Form": "__and__ __or__ __eq__ lot read sign halves wanted opt variables text",
 }
 
