@@ -12,12 +12,6 @@ def places_in(wood):
     return [(tree, part) for tree, question in enumerate(wood) for part in question.parts()]
 
 
-def is_place(value):
-    """Whether any value is a tuple of an integer and a tuple of integers; True and False are none."""
-    return (isinstance(value, tuple) and len(value) == 2 and is_whole(value[0])
-            and isinstance(value[1], tuple) and all([is_whole(node) for node in value[1]]))
-
-
 def has_just(value, names):
     """Whether any value is a dict with just some keys."""
     return isinstance(value, dict) and len(value) == len(names) and all([name in value for name in names])
@@ -26,7 +20,7 @@ def has_just(value, names):
 def has_places(value, places):
     """Whether any value is a dict whose keys are just some tuples (tree, part)."""
     # True equals 1, so a key with it would be found, too.
-    return has_just(value, places) and all([is_place(key) for key in value])
+    return has_just(value, places) and all([is_whole(number) for tree, part in value for number in (tree, *part)])
 
 
 def way_into(lot, wood, known):

@@ -70,10 +70,10 @@ def cleared(task, gone, stays, most):
         return gone
     if many_apart(ways) > most:
         return None
-    way = min(ways, key=len)
+    shortest = min(ways, key=len)
     # What has been tried in vain stays, so that nothing is tried twice.
-    for place, at in enumerate(way):
-        found = cleared(task, [*gone, at], [*stays, *way[:place]], most - 1)
+    for place, number in enumerate(shortest):
+        found = cleared(task, [*gone, number], [*stays, *shortest[:place]], most - 1)
         if found is not None:
             return found
     return None

@@ -34,7 +34,7 @@ def head_at(head, places):
     return [(term, places.get(term, -1)) for term in head]
 
 
-def lacking(head, fits, held):
+def rows_lacking(head, fits, held):
     """The places and rows (see rows.py) with which the body is there, but not the head, or None for too many."""
     small = joined_rows(fits, {}, FEW_ROWS)
     if small is None or not small[1]:
@@ -59,7 +59,7 @@ def tables_of_fits(fits):
 
 def first_breaking(head, fits, held):
     """The first map with which the body is there, but not the head, or None."""
-    small = lacking(head, fits, held)
+    small = rows_lacking(head, fits, held)
     if small is None:
         several = tables_of_fits(fits)
         tables = ready([*several, missing(head, several, held)])
@@ -81,7 +81,7 @@ def first_breach(rule, groups, held):
 
 def heads_from(head, fits, held):
     """The heads that follow from fits and are not there; some may come twice."""
-    small = lacking(head, fits, held)
+    small = rows_lacking(head, fits, held)
     if small is None:
         names, rows = missing(head, tables_of_fits(fits), held)
         return [filled(head, dict(zip(names, row))) for row in rows]

@@ -158,8 +158,8 @@ class Desk:
         wood = self.named(name)
         if not is_whole(steps) or not 0 <= steps <= len(self._done):
             raise NothingToUndo()
-        before = [*self._done, self._now][-1 - steps]
-        return changes(wood, before[0], self._now[0])
+        states = [*self._done, self._now]
+        return changes(wood, states[-1 - steps][0], self._now[0])
 
     def trial(self):
         """An object for a block behind which the desk is as it was ahead of it."""

@@ -195,11 +195,11 @@ class Question:
         return tuple(sorted(kept)) if seen == len(wanted) else None
 
     def way(self, node):
-        """The ascending tuple of the nodes on the way from the first node to a node, both included."""
+        """The list of the nodes on the way from a node up to the first one, both included."""
         nodes = [node]
         while nodes[-1] > 0:
             nodes.append(self._parents[nodes[-1]])
-        return tuple(sorted(nodes))
+        return nodes
 
     def without(self, node):
         """The question in which a node other than the first one and all that is beneath it are left out."""

@@ -66,8 +66,7 @@ def wood_after(wood, strike):
 def struck(wood, strike):
     """The wood after a strike, which may be any value."""
     # True and False equal 1 and 0, but are no integers here.
-    if (not isinstance(strike, tuple) or strike not in strikes(wood)
-            or not all([not isinstance(item, bool) for item in strike])):
+    if strike not in strikes(wood) or any([isinstance(item, bool) for item in strike]):
         raise BadStrike(strike)
     return wood_after(wood, strike)
 

@@ -50,7 +50,7 @@ def all_joined(several):
     return found
 
 
-def beneath(view, node, known):
+def left_beneath(view, node, known):
     """What is left of all ways to have a node and as much as can be beneath it, for a dict for its parent.
 
     Each one is an ascending tuple of pairs. There is none if the node cannot be had.
@@ -64,7 +64,7 @@ def beneath(view, node, known):
         for row in rows_at(lot, view.shapes, held, view.asked[node]):
             new = dict(zip(view.asked[node], row))
             mine = [(name, term) for name, term in new.items() if name in view.shown and not is_free(term)]
-            lower = [beneath(view, child, {**held, **new}) for child in question.children(node)]
+            lower = [left_beneath(view, child, {**held, **new}) for child in question.children(node)]
             for pairs in all_joined([more for more in lower if more]):
                 found[tuple(sorted([*mine, *pairs]))] = True
         view.seen[place] = list(found)
@@ -73,4 +73,4 @@ def beneath(view, node, known):
 
 def left_of_answers(question, shapes, shown):
     """What is left of the answers of a question: tuples of pairs, each once."""
-    return beneath(View(question, shapes, shown), 0, {})
+    return left_beneath(View(question, shapes, shown), 0, {})

@@ -161,13 +161,17 @@ class Settled(unittest.TestCase):
 
     def test_choices_that_a_key_makes_possible(self):
         # A fresh variable becomes a constant of the store, so the choice is not barred.
-        rules = [ONE_TOWN]
-        store = Store([("person", "ann"), ("town", "ann", "oslo"), ("age", "ann", "a1")])
-        wood = [Question.read("person(?x)\n mayor(?y) town(?x,?y)")]
-        self.assertIs(is_settled(wood, store, ANN, complete=["town"], rules=rules), False)
-        self.assertEqual(unsettling(wood, store, ANN, complete=["town"], rules=rules), [("mayor", "oslo")])
-        paper = play_of(wood, store, ANN, ["town"], rules)
-        self.assertIs(paper.is_lost(), False)
+        store = Store([("person", "ann"), ("town", "ann", "oslo")])
+        mayors = Question.read("person(?x)\n mayor(?y) town(?x,?y)")
+        self.assertIs(is_settled([mayors], store, ANN, complete=["town"], rules=[ONE_TOWN]), False)
+        self.assertEqual(unsettling([mayors], store, ANN, complete=["town"], rules=[ONE_TOWN]), [("mayor", "oslo")])
+        stuck = ("stuck", 1, (0,))
+        paper = settled_paper([mayors, PEOPLE], store, ANN, complete=["town"], rules=[ONE_TOWN])
+        self.assertEqual(paper, ("put", 0, (0,), [(1, {"?y": None}, stuck), (1, {"?y": "ann"}, ("barred",)),
+                                                  (1, {"?y": "oslo"}, stuck)]))
+        self.assertIs(is_settled_paper(paper, [mayors, PEOPLE], store, ANN, complete=["town"], rules=[ONE_TOWN]), True)
+        paper = settled_paper([mayors, PEOPLE], store, ANN, complete=["town"])
+        self.assertEqual([row[2] for row in paper[3]], [("barred",), ("barred",), stuck])
 
     def test_errors(self):
         two = Store([("person", "ann"), ("town", "ann", "oslo"), ("town", "ann", "rome")])
@@ -299,8 +303,21 @@ class Papers(unittest.TestCase):
             self.assertIs(is_settled_paper(paper, [BARE], ALONE, ANN, complete=["age"]), False)
             self.assertIs(is_settled_paper(paper, [BARE], ALONE, ANN), False)
         for paper, wanted in [(("stuck", 0, (0,)), True), (("stuck", False, (0,)), False), (("stuck", 0, (False,)), False),
-                              (("stuck", 0, [0]), False), (("stuck", 0, (0,), 0), False), (("put", 0, (0,), []), False)]:
+                              (("stuck", 0, [0]), False), (("stuck", 0, (0,), 0), False), (("put", 0, (0,), []), False),
+                              (("Stuck", 0, (0,)), False), (("put", 0, (0,)), False), ((None, 0, (0,)), False)]:
             self.assertIs(is_settled_paper(paper, [PEOPLE], ALONE, ANN), wanted)
+
+    def test_no_paper_where_the_spoiler_has_won(self):
+        for lower in [("stuck", 0, (0,)), ("put", 0, (0,), []), ("barred",), ("stuck", 0, (0, 1)), (), None]:
+            rows = [(1, {"?y": None}, lower), (1, {"?y": "ann"}, lower)]
+            self.assertIs(is_settled_paper(("put", 0, (0,), rows), [BARE], ALONE, ANN), False)
+
+    def test_rows_with_the_number_of_another_node(self):
+        both = [Question.read("person(?x)\n age(?x,?y)\n town(?x,?z)"), PEOPLE]
+        paper = settled_paper(both, ALONE, ANN)
+        self.assertIs(is_settled_paper(paper, both, ALONE, ANN), True)
+        rows = [(3 - node, chosen, lower) for node, chosen, lower in paper[3]]
+        self.assertIs(is_settled_paper((*paper[:3], rows), both, ALONE, ANN), False)
 
     def test_any_value(self):
         wood, complete = [BARE, Question.read("person(?x)\n town(?x,?z)")], ["town"]

@@ -414,7 +414,8 @@ class Texts(unittest.TestCase):
                 ("= a\na(?x)\n a(?x)\n.", 2), ("= a\na(?x)\n= b\n.", 2), ("= a\na(?x)\n= b", 2), ("= a\n-\n.\n=b", 4),
                 ("a()\n= a\na()\n.\n=", 5), (".", 1), ("-\n.", 1), ("a()\n.\n= a", 2), (" = a", 1), ("= a\n = b", 2),
                 ("= a\n-\n. ", 2), ("= a\n -\n.", 2), ("= a\n=", 2), ("= a\n==", 2), ("= a\n-\n.\n= a\n-", 4),
-                ("b()\na()\n=", 2), ("= a\n-\n.\n\n= b", 4), ("= abcdefghijklm", 1)]:
+                ("b()\na()\n=", 2), ("= a\n-\n.\n\n= b", 4), ("= abcdefghijklm", 1),
+                ("==a", 1), ("=xa", 1), ("= a\n=\nb", 2)]:
             self.check_bad(text, line)
 
     def test_bad_lines_come_ahead_of_broken_rules(self):

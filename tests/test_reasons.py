@@ -248,6 +248,30 @@ class Clearing(unittest.TestCase):
             lengths[None if found is None else len(found)] = 1
         self.assertLessEqual({None, 0, 1, 2}, set(lengths))
 
+    def test_facts_of_the_part_in_a_way(self):
+        # The pattern a(?x) is asked for again, but a(k) must stay.
+        again = Question.read("a(?x)\n a(?x) b(?x,?y)")
+        store = Store([("a", "k"), ("b", "k", "m"), ("b", "k", "n")])
+        self.assertEqual(clearing([again], store, {"?x": "k"}), [("b", "k", "m"), ("b", "k", "n")])
+
+    def test_many_ways(self):
+        numbers = dice(127)
+        lengths = {}
+        lots = [[("e", "?a", "?b"), ("e", "?b", "?c")], [("e", "?a", "?b"), ("e", "?b", "?c"), ("e", "?c", "?a")],
+                [("e", "?a", "?b"), ("e", "?b", "?c"), ("e", "?c", "?d")], [("e", "?a", "?b"), ("e", "?c", "?b"),
+                                                                             ("f", "?b", "?c")]]
+        for _ in range(150):
+            nodes = [(None, []), (0, numbers.choice(lots)), (0, [("e", "?x", "?x")])]
+            facts = sorted(set(shaped_lot(numbers, 14, list("kmno"), (("e", 2), ("e", 2), ("e", 2), ("f", 2)))))
+            ways = [{given(p, known) for p in lot} for _, lot in nodes[1:] for known in slow_maps(lot, facts)]
+            fit = next(fit for fit in ([set(gone) for gone in itertools.combinations(facts, size)
+                                        if all(way & set(gone) for way in ways)] for size in range(20)) if fit)
+            found = clearing([Question(nodes)], Store(facts), {})
+            self.assertIn(set(found), fit)
+            self.assertEqual(found, sorted(found))
+            lengths[len(found)] = 1
+        self.assertGreater(len(lengths), 4)
+
     def test_twenty_facts(self):
         facts = [("e", f"v{one}", f"v{other}") for one in range(5) for other in range(5) if one != other]
         lots = {8: [("e", "?a", "?b"), ("e", "?b", "?c"), ("e", "?c", "?a")],
@@ -256,6 +280,9 @@ class Clearing(unittest.TestCase):
         for many, lot in lots.items():
             found = clearing([Question([(None, []), (0, lot)])], Store(facts), {})
             self.assertEqual(len(found), many)
+        # One way needs no fact but such as must stay, and there are many other ways.
+        hopeless = Question([(None, [("e", "v0", "v1")]), (0, [("e", f"?a{at}", f"?b{at}") for at in range(5)])])
+        self.assertIsNone(clearing([hopeless], Store(facts), {}))
 
 
 def fewest(lot, store, known):
@@ -303,6 +330,7 @@ class Lacking(unittest.TestCase):
         self.check(two, Store([("halt",)]), {}, 1, 2)
         sizes = Question([(None, []), (0, [("b", "?u"), ("b", "?u", "?v"), ("b",), ("c", "?v", "?u")])])
         self.check(sizes, Store(), {}, 1, 4)
+        self.check(Question([(None, []), (0, [("b", "?u"), ("b", "?u", "?v"), ("b", "?u", "?w")])]), Store(), {}, 1, 2)
         self.check(sizes, Store([("b",), ("b", "k")]), {}, 1, 2)
 
     def test_a_store_without_constants(self):

@@ -79,6 +79,12 @@ class ShownAnswers(unittest.TestCase):
         self.assertEqual(shown_answers([MAYORS], STORE, ["?w", "?v"]), [{}])
         self.assertEqual(shown_answers([MAYORS], STORE, ["?x", "?w", "?x"]), [{"?x": "ann"}])
 
+    def test_keys_ascend(self):
+        question = Question.read("a(?x)\n b(?x,?c)\n  c(?c,?a)\n b(?x,?z)")
+        store = Store([("a", "k"), ("b", "k", "m"), ("c", "m", "n")])
+        self.assertEqual(told(shown_answers([question], store, ["?z", "?x", "?c", "?a"])),
+                         [[("?a", "n"), ("?c", "m"), ("?x", "k"), ("?z", "m")]])
+
     def test_a_node_that_is_not_shown_counts(self):
         # What is beneath a node is there only with the terms of what is not shown.
         question = Question.read("a(?x)\n b(?x,?y)\n  c(?y,?z)")

@@ -58,7 +58,8 @@ def some_question(dice, size, constants=("k",), root=True, shapes=SHAPES):
     names = []
     for at in range(size):
         parent = dice.randrange(at) if at else None
-        new = "?" + "pqrstuvwxyz"[at]
+        # What is new beneath a node may come ahead of its own variables.
+        new = "?" + "qprotsuvwxyz"[at]
         terms = [new, *(names[parent] if at else []), *constants]
         lot = shaped_lot(dice, dice.randint(0, 2) if at else dice.randint(0, 1), terms, shapes)
         if at or root:
