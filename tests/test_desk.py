@@ -198,6 +198,22 @@ class Naming(unittest.TestCase):
         desk.names.clear()
         self.assertEqual((desk.wood("a"), desk.names), ([PEOPLE], ["a"]))
 
+    def test_by_name_and_what_was_passed_stays(self):
+        desk = some_desk()
+        gone, come, wood = [ROME, ANN], [BOB, OSLO], [TOWNS, EMPTY]
+        rows = [(gone, come), [("towns", wood)], (come, gone)]
+        copies = [list(gone), list(come), list(wood), [(gone, come), [("towns", wood)], (come, gone)]]
+        rehearsed(desk=desk, rows=rows, name="towns")
+        desk.supposed(gone=gone, come=come, name="towns")
+        desk.exchange(gone=gone, come=come)
+        desk.strike(facts=come)
+        desk.put(facts=gone)
+        desk.name(name="a", wood=wood)
+        desk.forget(name="towns")
+        self.assertEqual([gone, come, wood, rows], copies)
+        self.assertEqual((desk.names, desk.wood(name="a"), desk.news(name="a", steps=0)), (["a"], [TOWNS, EMPTY], ([], [])))
+        self.assertEqual((desk.answers(name="a"), len(desk)), ([{}, FULL], 7))
+
     def test_bad_names(self):
         desk = some_desk()
         before = whole(desk)
