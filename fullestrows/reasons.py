@@ -86,17 +86,20 @@ def clearing(wood, store, known):
     return None
 
 
+def groups_with(groups, pattern):
+    """All ways to put a pattern to some groups: as one of its own, or to one with which it may become the same."""
+    alike = [at for at, group in enumerate(groups)
+             if group[0][0] == pattern[0] and len(group[0]) == len(pattern)]
+    return [[*groups, [pattern]], *[[*groups[:at], [*groups[at], pattern], *groups[at + 1:]] for at in alike]]
+
+
 def groupings(lot):
     """All tuples (aside, groups) of the patterns of a lot that are put aside and of the others in groups, few ahead."""
     found = [([], [])]
     for pattern in lot:
-        more = [([*aside, pattern], groups) for aside, groups in found]
-        for aside, groups in found:
-            more.append((aside, [*groups, [pattern]]))
-            for at, group in enumerate(groups):
-                if group[0][0] == pattern[0] and len(group[0]) == len(pattern):
-                    more.append((aside, [*groups[:at], [*group, pattern], *groups[at + 1:]]))
-        found = more
+        put_aside = [([*aside, pattern], groups) for aside, groups in found]
+        grouped = [(aside, more) for aside, groups in found for more in groups_with(groups, pattern)]
+        found = [*put_aside, *grouped]
     return sorted(found, key=lambda pair: len(pair[1]))
 
 

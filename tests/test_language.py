@@ -125,6 +125,67 @@ def reached_by_operators():
     return reached
 
 
+def held_by(value):
+    """The names, attributes and items, as they are written, that an expression may be."""
+    if isinstance(value, (ast.Name, ast.Attribute, ast.Subscript)):
+        return {ast.unparse(value)}
+    if isinstance(value, ast.IfExp):
+        return held_by(value.body) | held_by(value.orelse)
+    if isinstance(value, ast.BoolOp):
+        return {name for one in value.values for name in held_by(one)}
+    return set()
+
+
+def walked_by(value):
+    """What a loop over an expression goes through."""
+    if isinstance(value, ast.Call) and getattr(value.func, "id", None) in ("enumerate", "zip", "reversed"):
+        return {name for one in value.args for name in walked_by(one)}
+    if isinstance(value, ast.Call) and getattr(value.func, "attr", None) in ("items", "keys", "values"):
+        return held_by(value.func.value)
+    return held_by(value)
+
+
+def changed_in(rows):
+    """What the rows of a loop change, with the places where they do."""
+    for node in [node for row in rows for node in ast.walk(row)]:
+        if isinstance(node, ast.Call) and getattr(node.func, "attr", None) in MODIFYING:
+            yield node.lineno, held_by(node.func.value)
+        if isinstance(node, ast.Subscript) and not isinstance(node.ctx, ast.Load):
+            yield node.lineno, held_by(node.value)
+        if isinstance(node, ast.AugAssign):
+            yield node.lineno, held_by(node.target)
+
+
+def assigned_in(function):
+    """The pairs of what an assignment of a function may make the same."""
+    for node in ast.walk(function):
+        if isinstance(node, ast.Assign):
+            for target in node.targets:
+                several = [(target, node.value)]
+                if isinstance(target, ast.Tuple) and isinstance(node.value, ast.Tuple):
+                    several = zip(target.elts, node.value.elts)
+                for one, other in several:
+                    yield from [(mine, theirs) for mine in held_by(one) for theirs in held_by(other)]
+
+
+def same_as(names, pairs):
+    """All that some names may be the same as by assignments, these names included."""
+    found = set()
+    more = set(names)
+    while more:
+        found |= more
+        more = {end for pair in pairs for start, end in (pair, pair[::-1]) if start in found} - found
+    return found
+
+
+def changed_while_walked(function):
+    """The lines where a function changes in a loop what the loop may walk (L23), under whatever name."""
+    pairs = list(assigned_in(function))
+    return [line for node in ast.walk(function) if isinstance(node, ast.For)
+            for line, names in changed_in(node.body) if same_as(walked_by(node.iter), pairs) & names]
+
+
+
 class Language(unittest.TestCase):
     def test_only_python_files(self):
         held = {path.name for path in PACKAGE.iterdir() if path.name != "__pycache__"}
@@ -256,6 +317,23 @@ class Language(unittest.TestCase):
             with self.subTest(text):
                 tree = ast.parse(f"def f(self, x):\n {text}")
                 self.assertEqual(len(changes_of(tree.body[0])), wanted)
+
+    def test_no_loop_changes_what_is_walked(self):
+        for name, function in nodes_of(ast.FunctionDef):
+            self.assertEqual(changed_while_walked(function), [], (name, function.name))
+
+    def test_changes_of_what_is_walked_are_seen(self):
+        for text, wanted in [
+                ("for x in xs:\n  xs.append(x)", 1), ("for x in list(xs):\n  xs.append(x)", 0),
+                ("for k, x in enumerate(xs):\n  xs[k] = x", 1), ("for x in xs:\n  ys.append(x)", 0),
+                ("for x in xs:\n  ys.append(x)\n xs = ys", 1), ("ys = xs\n for x in xs:\n  ys.append(x)", 1),
+                ("for x in xs or ys:\n  ys.append(x)", 1), ("zs = ys\n xs = zs\n for x in xs:\n  ys += x", 1),
+                ("for k, x in d.items():\n  del d[k]", 1), ("for x in self.xs:\n  self.xs.clear()", 1),
+                ("ys = self.xs\n for x in zip(xs, ys):\n  self.xs.pop()", 1), ("ys = [*xs]\n for x in xs:\n  ys.pop()", 0),
+                ("xs, ys = ys, xs\n for x in xs:\n  if x:\n   ys.append(x)", 1)]:
+            with self.subTest(text):
+                tree = ast.parse(f"def f(self, xs, ys, d):\n {text}")
+                self.assertEqual(len(changed_while_walked(tree.body[0])), wanted)
 
     def test_strings(self):
         for name, node in nodes_of(ast.Constant):
