@@ -1,8 +1,10 @@
 """The answers of woods in stores: maps that are as full as can be."""
 
+from fullestrows.closing import Ground
 from fullestrows.errors import NoPart
 from fullestrows.facts import filled
-from fullestrows.matching import each_map, first_map, has_match, in_order, joined
+from fullestrows.leads import first_led
+from fullestrows.matching import each_map, has_match, in_order, joined
 
 
 def all_there(lot, store, known):
@@ -90,11 +92,17 @@ def part_fitted(question, store, known):
 
 def fullest(question, store, known):
     """An answer of a question above a map that fits one of its parts."""
-    waiting = question.beneath(part_fitted(question, store, known))
+    return filled_up(question, part_fitted(question, store, known), store, known)
+
+
+def filled_up(question, part, store, known):
+    """An answer of a question above a map that fits one of its parts."""
+    ground = Ground(store.held(), store.groups(), {})
+    waiting = question.beneath(part)
     found = joined(known, {})
     while waiting:
         node = waiting.pop()
-        more = first_map(question.lot_at(node), store, found)
+        more = first_led(question.lead_at(node), ground, found)
         if more is not None:
             found = more
             waiting.extend(question.children(node))

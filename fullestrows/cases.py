@@ -2,7 +2,7 @@
 
 from fullestrows.answers import is_answer
 from fullestrows.errors import Broken, NotAnAnswer
-from fullestrows.facts import by_shape, filled, is_free, is_whole
+from fullestrows.facts import by_shape, is_free, is_whole
 from fullestrows.matching import first_match
 from fullestrows.rules import Rule, broken, store_of
 
@@ -17,10 +17,16 @@ def has_just(value, names):
     return isinstance(value, dict) and len(value) == len(names) and all([name in value for name in names])
 
 
-def has_places(value, places):
-    """Whether any value is a dict whose keys are just some tuples (tree, part)."""
+def has_places(value, wood):
+    """Whether any value is a dict whose keys are just the tuples (tree, part) of a wood."""
+    if not isinstance(value, dict) or len(value) != sum([len(question.all_parts()) for question in wood]):
+        return False
+    for tree, question in enumerate(wood):
+        for part in question.all_parts():
+            if (tree, part) not in value:
+                return False
     # True equals 1, so a key with it would be found, too.
-    return has_just(value, places) and all([is_whole(number) for tree, part in value for number in (tree, *part)])
+    return not any([number is True or number is False for tree, part in value for number in (tree, *part)])
 
 
 def way_into(lot, wood, known):
@@ -37,25 +43,33 @@ def way_into(lot, wood, known):
     return None
 
 
-def is_way_into(value, lot, wood, known):
-    """Whether any tuple is one of a part of a wood and a dict above a given one that leads it to a lot."""
+def is_way_into(value, present, wood, known):
+    """Whether any tuple is one of a part of a wood and a dict above a given one that leads it to what is present."""
     if len(value) != 3 or not is_whole(value[0]) or not 0 <= value[0] < len(wood):
         return False
     tree, part, found = value
-    if not wood[tree].is_part(part) or not has_just(found, wood[tree].variables(part)):
+    if not wood[tree].is_part(part) or not isinstance(found, dict):
+        return False
+    place = wood[tree].place_of(part)
+    # Each variable of the part is in its patterns, so what is no string leads them nowhere.
+    if len(found) != len(place.owned) or not all([isinstance(found.get(name), str) for name in place.owned]):
         return False
     for name in known:
-        if name not in found or found[name] != known[name]:
+        if found.get(name) != known[name]:
             return False
-    # A value may be of any kind, and then it is not fit to be looked up among the keys of a dict.
-    return all([filled(pattern, found) in lot for pattern in wood[tree].lot_of(part)])
+    for pattern in place.asks:
+        if tuple([found.get(term, term) for term in pattern]) not in present:
+            return False
+    return True
 
 
 def constants_in(wood, rules):
-    """The constants of a wood and of rules, which must not be taken for unknown ones."""
-    lots = [question.patterns() for question in wood]
-    lots = [*lots, *[[*rule.body, rule.head] for rule in rules if isinstance(rule, Rule)]]
-    return sorted({term for lot in lots for pattern in lot for term in pattern[1:] if not is_free(term)})
+    """The constants of a wood and of rules, which must not be taken for unknown ones; some may come twice."""
+    found = [term for question in wood for term in question.constants()]
+    for rule in rules:
+        if isinstance(rule, Rule):
+            found.extend([term for pattern in (*rule.body, rule.head) for term in pattern[1:] if not is_free(term)])
+    return found
 
 
 def shown_store(patterns, known, taken):

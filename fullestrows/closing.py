@@ -1,15 +1,80 @@
 """Closing: what keys and implications ask of patterns, and what follows from a lot by them.
 
-Here an implication is looked at as a list of fits: its body with the facts or patterns to which each pattern
-of it may be led (see rows.py). So a part of the body can be held to what is fresh.
+Where the patterns are few, the body of an implication is looked at as a lead (see leads.py). Otherwise it is looked at
+as a list of fits: the body with the facts or patterns to which each pattern of it may be led (see rows.py). So a part
+of the body can be held to what is fresh.
 """
 
 from fullestrows.errors import Clash
 from fullestrows.facts import by_shape, filled, is_free, variables_of
 from fullestrows.joins import ways_to
+from fullestrows.leads import Lead, plain_there, rows_led
 from fullestrows.rows import FEW_ROWS, all_fitting, fitting, joined_rows
 from fullestrows.search import first_solution
 from fullestrows.tables import picked, ready, table_with
+
+
+class Body:
+    """The body of an implication, made ready for closing, and where its head takes its terms from."""
+
+    def __init__(self, lot, outcome):
+        self.asks = lot
+        self.outcome = outcome
+        self.kinds = [(pattern[0], len(pattern)) for pattern in lot]
+        self.told = (lot, outcome)
+        self.lead = Lead(lot, ())
+        self.spots = head_at(outcome, self.lead.spaces)
+
+
+class Book:
+    """Rules, made ready for closing: tuples (shape, spots) for what keys demand, and the bodies of implications.
+
+    What is told of the rules is a tuple that is the same for equal rules only.
+    """
+
+    def __init__(self, demands, bodies, told):
+        self.demands = demands
+        self.bodies = bodies
+        self.told = told
+
+
+class Ground:
+    """A lot with what follows from it: its patterns, these in groups by shape, and what has moved.
+
+    What has moved is a dict from the variables that are gone to the terms that stand in their places. The patterns
+    are no longer changed once the ground has been closed, and the lists of those of one shape never are.
+    """
+
+    def __init__(self, present, shapes, moved):
+        self.present = present
+        self._shapes = shapes
+        self.moved = moved
+
+    def groups(self):
+        """The patterns in groups by shape; they are made when they are first asked for."""
+        if self._shapes is None:
+            self._shapes = by_shape(self.present)
+        return self._shapes
+
+    def put(self, patterns):
+        """Puts patterns to a ground that is being closed, and returns those that were not there."""
+        shapes = self.groups()
+        fresh = []
+        for pattern in patterns:
+            if pattern not in self.present:
+                self.present[pattern] = True
+                shape = (pattern[0], len(pattern))
+                shapes[shape] = [*shapes.get(shape, ()), pattern]
+                fresh.append(pattern)
+        return fresh
+
+    def exchange(self, gone, kept):
+        """Puts one term in the place of another one in a ground that is being closed."""
+        change = {gone: kept}
+        self.present = {filled(pattern, change) if gone in pattern else pattern: True for pattern in self.present}
+        self._shapes = None
+        moved = {name: kept if term == gone else term for name, term in self.moved.items()}
+        self.moved = {**moved, gone: kept}
 
 
 def first_pair(groups, key):
@@ -32,6 +97,11 @@ def first_pair(groups, key):
 def head_at(head, places):
     """For each item of a head, a tuple of it and its place in the rows, or -1."""
     return [(term, places.get(term, -1)) for term in head]
+
+
+def heads_of_rows(spots, rows):
+    """The heads that rows tell; the spots are what head_at gives."""
+    return [tuple([term if at < 0 else row[at] for term, at in spots]) for row in rows]
 
 
 def rows_lacking(head, fits, held):
@@ -86,77 +156,128 @@ def heads_from(head, fits, held):
         names, rows = missing(head, tables_of_fits(fits), held)
         return [filled(head, dict(zip(names, row))) for row in rows]
     places, rows = small
-    spots = head_at(head, places)
-    return [tuple([term if at < 0 else row[at] for term, at in spots]) for row in rows]
+    return heads_of_rows(head_at(head, places), rows)
 
 
-def fresh_fits(rule, fits, fresh):
-    """All fits in which one pattern of the body is held to what is fresh, which is in groups by shape."""
+def fresh_fits(body, fits, fresh):
+    """All fits in which one pattern of a body is held to what is fresh, which is in groups by shape."""
     found = []
-    for at, pattern in enumerate(rule.body):
+    for at, pattern in enumerate(body):
         facts = fitting(pattern, fresh, {})
         if facts:
             found.append([*fits[:at], (pattern, facts), *fits[at + 1:]])
     return found
 
 
-def new_heads(implications, patterns, groups, fresh):
-    """The ascending list of the heads that follow by implications and are not there.
+def heads_of_many(body, ground, fresh):
+    """The heads that follow by an implication where many patterns may fit its body, and that are not there."""
+    fits = all_fitting(body.asks, ground.groups(), {})
+    if fits is None:
+        return []
+    # If much is fresh, it does not pay to go through the body for each pattern of it.
+    whole = 3 * len(fresh) >= len(ground.present)
+    several = [fits] if whole else fresh_fits(body.asks, fits, by_shape(fresh))
+    return [head for one in several for head in heads_from(body.outcome, one, ground.present)]
 
-    Of what follows without the fresh patterns, nothing is missing; if they are many, it is looked at all the same.
+
+def few_heads(body, ground):
+    """All heads that follow by an implication, whether they are there or not, or None if they may be many."""
+    shapes = ground.groups()
+    for kind in body.kinds:
+        if kind not in shapes:
+            return []
+    if not plain_there(body.lead, ground.present, {}):
+        return []
+    rows = rows_led(body.lead.steps, shapes, {})
+    return None if rows is None else heads_of_rows(body.spots, rows)
+
+
+def heads_by(body, ground, fresh):
+    """The heads that follow by an implication; some may be there already or come twice."""
+    heads = few_heads(body, ground)
+    return heads_of_many(body, ground, fresh) if heads is None else heads
+
+
+def new_heads(bodies, ground, fresh, opened):
+    """The heads that follow by implications, where all that follows without what is fresh is there.
+
+    If the ground has just been opened, even that is not there which follows from nothing.
     """
-    held = {pattern: True for pattern in patterns}
-    whole = 3 * len(fresh) >= len(patterns)
-    shapes = by_shape(fresh)
+    seen = {(pattern[0], len(pattern)): True for pattern in fresh}
     heads = []
-    for rule in implications:
-        fits = all_fitting(rule.body, groups, {})
-        if fits is not None:
-            several = [fits] if whole else fresh_fits(rule, fits, shapes)
-            for one in several:
-                heads.extend(heads_from(rule.head, one, held))
-    return sorted(set(heads))
+    for body in bodies:
+        if opened or any([kind in seen for kind in body.kinds]):
+            heads.extend(heads_by(body, ground, fresh))
+    return heads
+
+
+def pair_alike(patterns, spots):
+    """Two different patterns that have the same terms at some spots, or None; no pattern stands there twice."""
+    seen = {}
+    for pattern in patterns:
+        row = picked(pattern, spots)
+        if row in seen:
+            return seen[row], pattern
+        seen[row] = pattern
+    return None
 
 
 def exchange_for(one, other):
-    """The terms (gone, kept) of the first place at which a pattern and a greater one differ."""
-    low, high = [pair for pair in zip(one, other) if pair[0] != pair[1]][0]
-    # The lesser pattern has the lesser term there, and variables are less than constants.
+    """The terms (gone, kept) of the first place at which two patterns differ."""
+    low, high = [sorted(pair) for pair in zip(one, other) if pair[0] != pair[1]][0]
+    # Variables are less than constants.
     if not is_free(low):
         raise Clash()
     return (high, low) if is_free(high) else (low, high)
 
 
-def next_exchange(groups, keys):
+def next_exchange(shapes, demands):
     """The terms (gone, kept) that the first key asks for that does not hold, or None."""
-    for key in keys:
-        pair = first_pair(groups, key)
+    for shape, spots in demands:
+        pair = pair_alike(shapes.get(shape, ()), spots)
         if pair is not None:
             return exchange_for(pair[0], pair[1])
     return None
 
 
-def end_of(done, added, keys, implications):
-    """What closing makes of a lot: its ascending patterns, and what became of its variables.
+def exchanged(ground, fresh, gone, kept):
+    """Puts one term in the place of another one in a ground, and returns what is fresh then."""
+    # What is changed may be of use to an implication again.
+    changed = [*fresh, *[pattern for pattern in ground.present if gone in pattern]]
+    ground.exchange(gone, kept)
+    change = {gone: kept}
+    return list({filled(pattern, change): True for pattern in changed})
 
-    The lot has two parts; the first one is closed already, so what follows from it alone is in it.
-    """
-    patterns = sorted(set([*done, *added]))
-    terms = {name: name for name in variables_of(patterns)}
-    before = {pattern: True for pattern in done}
-    fresh = [pattern for pattern in patterns if pattern not in before]
-    while True:
-        groups = by_shape(patterns)
-        change = next_exchange(groups, keys)
+
+def follow(ground, added, book, opened):
+    """Closes a ground to which some patterns have been added; raises Clash."""
+    fresh = added
+    while fresh or opened:
+        change = next_exchange(ground.groups(), book.demands)
         if change is not None:
-            gone, kept = change
-            # What is changed may be of use to an implication again.
-            changed = [*fresh, *[pattern for pattern in patterns if gone in pattern]]
-            fresh = sorted({filled(pattern, {gone: kept}) for pattern in changed})
-            patterns = sorted({filled(pattern, {gone: kept}) for pattern in patterns})
-            terms = {name: kept if term == gone else term for name, term in terms.items()}
-            continue
-        fresh = new_heads(implications, patterns, groups, fresh)
-        if not fresh:
-            return patterns, terms
-        patterns = sorted([*patterns, *fresh])
+            fresh = exchanged(ground, fresh, change[0], change[1])
+        else:
+            fresh = ground.put(new_heads(book.bodies, ground, fresh, opened))
+            opened = False
+
+
+def ground_with(lot):
+    """The ground of a lot as it is, from which nothing follows yet."""
+    return Ground({pattern: True for pattern in lot}, None, {})
+
+
+def closed_ground(lot, book):
+    """The ground of a lot that is closed by rules; raises Clash."""
+    ground = ground_with(lot)
+    if book.told:
+        follow(ground, list(ground.present), book, True)
+    return ground
+
+
+def grown(base, lot, book):
+    """The ground of a lot and of what a closed ground has; raises Clash."""
+    moved = base.moved
+    shapes = base.groups()
+    ground = Ground({pattern: True for pattern in base.present}, {shape: shapes[shape] for shape in shapes}, moved)
+    follow(ground, ground.put([filled(pattern, moved) for pattern in lot] if moved else lot), book, False)
+    return ground

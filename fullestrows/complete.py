@@ -4,7 +4,7 @@ from fullestrows.answers import answers, is_answer
 from fullestrows.cases import constants_in, has_just, must_fit, must_keep, shown_store
 from fullestrows.errors import Clash
 from fullestrows.facts import Store, is_whole, variables_of
-from fullestrows.games import Play, at_rest, is_seat, put_in, waiting_seat, waiting_seats
+from fullestrows.games import is_seat, play_of, put_in, store_position, waiting_seat, waiting_seats, with_added
 from fullestrows.matching import maps
 from fullestrows.questions import is_list
 from fullestrows.rules import Key, Rule, keeps
@@ -15,17 +15,12 @@ class Setting:
     """What stays the same in a play of complete tables."""
 
     def __init__(self, wood, store, known, complete, rules):
-        self.play = Play(wood, known, (), rules)
+        self.play = play_of(wood, known, (), rules)
         self.base = store
         self.options = [None, *store.constants()]
         self.complete = {table: True for table in complete}
         self.has_keys = any([isinstance(rule, Key) for rule in rules])
         self.adds = any([isinstance(rule, Rule) and rule.head[0] in self.complete for rule in rules])
-
-
-def opening(setting, known):
-    """The position at the beginning; the store keeps the rules, so it is closed already."""
-    return at_rest(setting.play, list(setting.base.facts), [], known)
 
 
 def new_in(lot, known):
@@ -53,15 +48,15 @@ def oversteps(setting, patterns):
 def after_choice(setting, position, lot, chosen):
     """The position after a choice, or None if it is barred."""
     terms = {name: chosen[name] for name in chosen if chosen[name] is not None}
-    added = put_in(setting.play, position.present, {**terms, **position.known}, lot)
+    added = put_in(setting.play, position.ground.present, {**terms, **position.known}, lot)
     # What only a key can change is looked at ahead, as most choices are barred by it.
     if oversteps(setting, [pattern for pattern in added if not setting.has_keys or not variables_of([pattern])]):
         return None
     try:
-        after = at_rest(setting.play, position.present, added, position.known)
+        after = with_added(position, added, setting.play.book)
     except Clash:
         return None
-    return None if oversteps(setting, after.present) else after
+    return None if oversteps(setting, after.ground.present) else after
 
 
 def useful_choices(setting, position, lot):
@@ -80,9 +75,9 @@ def useful_choices(setting, position, lot):
 
 def is_blocked(setting, position, seat):
     """Whether each choice for a candidate is barred."""
-    for _, lot in seat.next_lots:
-        for chosen in useful_choices(setting, position, lot):
-            if after_choice(setting, position, lot, chosen) is not None:
+    for _, lead in seat.nexts:
+        for chosen in useful_choices(setting, position, lead.asks):
+            if after_choice(setting, position, lead.asks, chosen) is not None:
                 return False
     return True
 
@@ -98,9 +93,9 @@ def won_from(setting, position):
             return None
     if not waiting:
         return position
-    for _, lot in waiting[0].next_lots:
-        for chosen in useful_choices(setting, position, lot):
-            after = after_choice(setting, position, lot, chosen)
+    for _, lead in waiting[0].nexts:
+        for chosen in useful_choices(setting, position, lead.asks):
+            after = after_choice(setting, position, lead.asks, chosen)
             won = None if after is None else won_from(setting, after)
             if won is not None:
                 return won
@@ -110,18 +105,18 @@ def won_from(setting, position):
 def win_against(wood, store, known, complete, rules):
     """The position in which the spoiler has won the play of an answer, or None if the answer is settled."""
     setting = Setting(wood, store, known, complete, rules)
-    return won_from(setting, opening(setting, known))
+    return won_from(setting, store_position(store, known))
 
 
 def paper_from(setting, position):
     """A paper for a play that goes on from a position and that the spoiler loses."""
     seat = waiting_seat(setting.play, position)
-    if not seat.next_lots:
+    if not seat.nexts:
         return "stuck", seat.tree, seat.part
     rows = []
-    for node, lot in seat.next_lots:
-        for chosen in all_chosen(new_in(lot, position.known), setting.options):
-            after = after_choice(setting, position, lot, chosen)
+    for node, lead in seat.nexts:
+        for chosen in all_chosen(new_in(lead.asks, position.known), setting.options):
+            after = after_choice(setting, position, lead.asks, chosen)
             rows.append((node, chosen, ("barred",) if after is None else paper_from(setting, after)))
     return "put", seat.tree, seat.part, rows
 
@@ -130,8 +125,8 @@ def choice_told(row, setting, position, seat):
     """The node and the tuple of what is chosen that a row of a paper, which may be any value, tells, or None."""
     if not isinstance(row, tuple) or len(row) != 3 or not is_whole(row[0]):
         return None
-    for node, lot in seat.next_lots:
-        names = new_in(lot, position.known)
+    for node, lead in seat.nexts:
+        names = new_in(lead.asks, position.known)
         if row[0] == node and has_just(row[1], names):
             values = [row[1][name] for name in names]
             return (node, tuple(values)) if all([value in setting.options for value in values]) else None
@@ -148,11 +143,11 @@ def shows_rows(rows, setting, position, seat):
         if choice is None or choice in told:
             return False
         told[choice] = row[2]
-    for node, lot in seat.next_lots:
-        for chosen in all_chosen(new_in(lot, position.known), setting.options):
+    for node, lead in seat.nexts:
+        for chosen in all_chosen(new_in(lead.asks, position.known), setting.options):
             choice = (node, tuple(chosen.values()))
             if choice not in told or not is_paper_from(told[choice], setting,
-                                                       after_choice(setting, position, lot, chosen)):
+                                                       after_choice(setting, position, lead.asks, chosen)):
                 return False
     return True
 
@@ -164,7 +159,7 @@ def is_paper_from(paper, setting, position):
     seat = waiting_seat(setting.play, position)
     if seat is None or not isinstance(paper, tuple) or not is_seat(paper[1:3], seat):
         return False
-    if not seat.next_lots:
+    if not seat.nexts:
         return paper[0] == "stuck" and len(paper) == 3
     return paper[0] == "put" and len(paper) == 4 and shows_rows(paper[3], setting, position, seat)
 
@@ -184,7 +179,7 @@ def settled_paper(wood, store, known, *, complete=(), rules=()):
     """A paper that shows that an answer is settled, or None."""
     must_fit(wood, store, known, rules)
     setting = Setting(wood, store, known, complete, rules)
-    position = opening(setting, known)
+    position = store_position(store, known)
     return paper_from(setting, position) if won_from(setting, position) is None else None
 
 
@@ -192,7 +187,7 @@ def is_settled_paper(value, wood, store, known, *, complete=(), rules=()):
     """Whether any value is a paper that shows that an answer is settled."""
     must_fit(wood, store, known, rules)
     setting = Setting(wood, store, known, complete, rules)
-    return is_paper_from(value, setting, opening(setting, known))
+    return is_paper_from(value, setting, store_position(store, known))
 
 
 def unsettling(wood, store, known, *, complete=(), rules=()):
@@ -201,7 +196,7 @@ def unsettling(wood, store, known, *, complete=(), rules=()):
     won = win_against(wood, store, known, complete, rules)
     if won is None:
         return None
-    later, _ = shown_store(list(won.present), {}, constants_in(wood, rules))
+    later, _ = shown_store(won.ground.present, {}, constants_in(wood, rules))
     return [fact for fact in later.facts if fact not in store]
 
 

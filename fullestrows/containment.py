@@ -2,8 +2,10 @@
 
 from fullestrows.answers import is_answer
 from fullestrows.cases import constants_in, has_places, places_in, shown_store
-from fullestrows.games import is_lost, spoil, win_of
-from fullestrows.rules import keeps
+from fullestrows.errors import Clash
+from fullestrows.games import Play, Position, is_lost, opening, play_of, seats, spoil, win_from
+from fullestrows.grounds import course_of, ground_of, terms_at
+from fullestrows.rules import book_of, keeps
 
 
 def same_terms(question, part):
@@ -16,18 +18,23 @@ def lots_beneath(question, part):
     return [question.lot_at(node) for node in question.beneath(part)]
 
 
-def win_at(question, part, others, rules):
+def win_at(question, part, others, book):
     """The position in which the spoiler has won the play of a part against a wood, or None."""
-    return win_of(question.lot_of(part), others, same_terms(question, part), lots_beneath(question, part), rules)
+    ground = ground_of(course_of(question, book), part)
+    if ground is None:
+        return None
+    names = question.place_of(part).owned
+    goals = [lead for _, lead in question.leads_beneath(part)]
+    return win_from(Play(others, seats(others, names), goals, book), Position(ground, terms_at(ground, names)))
 
 
-def first_win(wood, others, rules):
+def first_win(wood, others, book):
     """The first position in which the spoiler has won the play of some part of a wood against another one, or None."""
     for question in wood:
         # A question that both woods have is contained without any play.
         if question not in others:
-            for part in question.parts():
-                won = win_at(question, part, others, rules)
+            for part in question.all_parts():
+                won = win_at(question, part, others, book)
                 if won is not None:
                     return won
     return None
@@ -35,7 +42,7 @@ def first_win(wood, others, rules):
 
 def contained(wood, others, *, rules=()):
     """Whether a wood is contained in another one for some rules."""
-    return first_win(wood, others, rules) is None
+    return first_win(wood, others, book_of(rules)) is None
 
 
 def papers(wood, others, *, rules=()):
@@ -53,10 +60,9 @@ def papers(wood, others, *, rules=()):
 
 def are_papers(value, wood, others, *, rules=()):
     """Whether any value is a dict of papers that show that a wood is contained in another one."""
-    places = places_in(wood)
-    if not has_places(value, places):
+    if not has_places(value, wood):
         return False
-    for tree, part in places:
+    for tree, part in places_in(wood):
         question = wood[tree]
         if not is_lost(value[(tree, part)], question.lot_of(part), others, same_terms(question, part),
                        goals=lots_beneath(question, part), rules=rules):
@@ -66,10 +72,10 @@ def are_papers(value, wood, others, *, rules=()):
 
 def parting(wood, others, *, rules=()):
     """A store that keeps the rules and an answer of a wood in it that is none of another wood, or None."""
-    won = first_win(wood, others, rules)
+    won = first_win(wood, others, book_of(rules))
     if won is None:
         return None
-    return shown_store(list(won.present), won.known, constants_in([*wood, *others], rules))
+    return shown_store(won.ground.present, won.known, constants_in([*wood, *others], rules))
 
 
 def parts_them(store, answer, wood, others, *, rules=()):
@@ -79,7 +85,17 @@ def parts_them(store, answer, wood, others, *, rules=()):
 
 def never_answers(wood, *, rules=()):
     """The list of the tuples (tree, part) of a wood by which no answer is told in any store that keeps the rules."""
-    return [(tree, part) for tree, part in places_in(wood) if win_at(wood[tree], part, [], rules) is None]
+    book = book_of(rules)
+    return [(tree, part) for tree, part in places_in(wood) if win_at(wood[tree], part, [], book) is None]
+
+
+def win_alone(lot, known, goals, rules):
+    """The position in which the spoiler has won the play of a lot against the wood without questions, or None."""
+    play = play_of([], known, goals, rules)
+    try:
+        return win_from(play, opening(lot, known, play.book))
+    except Clash:
+        return None
 
 
 def win_for_both(one, other, rules):
@@ -89,7 +105,7 @@ def win_for_both(one, other, rules):
         if more is not None:
             lot = [*one.lot_of(part), *other.lot_of(more)]
             goals = [*lots_beneath(one, part), *lots_beneath(other, more)]
-            won = win_of(lot, [], same_terms(one, part), goals, rules)
+            won = win_alone(lot, same_terms(one, part), goals, rules)
             if won is not None:
                 return won
     return None
@@ -101,7 +117,7 @@ def shared(wood, *, rules=()):
         for second, other in enumerate(wood):
             won = win_for_both(one, other, rules) if first < second else None
             if won is not None:
-                store, answer = shown_store(list(won.present), won.known, constants_in(wood, rules))
+                store, answer = shown_store(won.ground.present, won.known, constants_in(wood, rules))
                 return store, answer, first, second
     return None
 

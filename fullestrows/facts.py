@@ -99,6 +99,14 @@ def facts_told(lines):
     return facts
 
 
+def store_with(facts):
+    """The store with some facts, which need not be looked at as they are known to be facts."""
+    store = Store()
+    store._facts = tuple(sorted(set(facts)))
+    store._held = {fact: True for fact in store._facts}
+    return store
+
+
 class Store:
     """A set of facts that never changes."""
 

@@ -1,57 +1,78 @@
 """The spoiler's play: can each candidate of a wood be made to go on while no goal comes true."""
 
 from fullestrows.cases import has_just
+from fullestrows.closing import Ground, closed_ground, ground_with, grown
 from fullestrows.errors import Clash
-from fullestrows.facts import by_shape, filled, is_whole, variables_of
-from fullestrows.matching import first_match, has_match
+from fullestrows.facts import filled, is_whole, variables_of
+from fullestrows.leads import Lead, first_led, is_led
 from fullestrows.questions import is_list
-from fullestrows.rules import closed_on
+from fullestrows.rules import book_of
 
 
 class Seat:
     """A part of a question of a wood that has just the keys of a dict as its variables."""
 
-    def __init__(self, tree, part, question):
+    def __init__(self, tree, part, needs, nexts):
         self.tree = tree
         self.part = part
-        self.needs = question.lot_of(part)
-        self.next_lots = [(node, question.lot_at(node)) for node in question.beneath(part)]
+        self.needs = needs
+        self.nexts = nexts
 
 
 class Position:
-    """A lot and a dict to its terms, between two choices of the spoiler."""
+    """A ground and a dict to its terms, between two choices of the spoiler."""
 
-    def __init__(self, lot, known):
+    def __init__(self, ground, known):
+        self.ground = ground
         self.known = known
-        self.present = {pattern: True for pattern in lot}
-        self.shapes = by_shape(self.present)
 
 
 class Play:
-    """What stays the same in a play."""
+    """What stays the same in a play: the seats and the wood they are of, the leads of the goals, and the rules.
 
-    def __init__(self, wood, known, goals, rules):
+    The variables of the wood are told when they are first asked for.
+    """
+
+    def __init__(self, wood, taken, goals, book):
+        self.trees = wood
+        self.seats = taken
         self.goals = goals
-        self.rules = rules
-        self.seats = seats(wood, known)
-        self.used = [name for question in wood for name in question.variables()]
+        self.book = book
+        self.used = None
 
 
-def seats(wood, known):
-    """The seats of a wood for the keys of a dict, in ascending order; there is one for a question at most."""
-    parts = [(tree, question.part_with(list(known)), question) for tree, question in enumerate(wood)]
-    return [Seat(tree, part, question) for tree, part, question in parts if part is not None]
+def seat_at(tree, question, part):
+    """The seat of a part of a question, which has an index in its wood."""
+    return Seat(tree, part, question.place_of(part).asks, question.leads_beneath(part))
+
+
+def seats(wood, names):
+    """The seats of a wood for an ascending tuple of variables, in ascending order; a question has one at most."""
+    found = []
+    for tree, question in enumerate(wood):
+        place = question.place_having(names)
+        if place is not None:
+            found.append(seat_at(tree, question, place.part))
+    return found
+
+
+def play_of(wood, known, goals, rules):
+    """The play of a dict against a wood, with some lots as goals and some rules."""
+    return Play(wood, seats(wood, tuple(sorted(known))), [Lead(goal, known) for goal in goals], book_of(rules))
 
 
 def is_candidate(seat, position):
     """Whether all patterns of a seat, filled by the dict, are in the lot."""
-    return all([filled(pattern, position.known) in position.present for pattern in seat.needs])
+    for pattern in seat.needs:
+        if filled(pattern, position.known) not in position.ground.present:
+            return False
+    return True
 
 
 def moves_on(seat, position):
     """Whether the patterns of some next node of a seat can be led to the lot above the dict."""
-    for _, lot in seat.next_lots:
-        if has_match(lot, position.shapes, position.known):
+    for _, lead in seat.nexts:
+        if is_led(lead, position.ground, position.known):
             return True
     return False
 
@@ -63,22 +84,37 @@ def waits(seat, position):
 
 def candidates(lot, wood, known):
     """The ascending list of the tuples (tree, part) whose patterns, filled by a dict, are all in a lot."""
-    position = Position(lot, known)
-    return [(seat.tree, seat.part) for seat in seats(wood, known) if is_candidate(seat, position)]
+    position = Position(ground_with(lot), known)
+    return [(seat.tree, seat.part) for seat in seats(wood, tuple(sorted(known))) if is_candidate(seat, position)]
 
 
 def goes_on(lot, wood, known, tree, part):
     """Whether a candidate goes on: the patterns of some next node of its part can be led to the lot."""
-    return moves_on(Seat(tree, part, wood[tree]), Position(lot, known))
+    return moves_on(seat_at(tree, wood[tree], part), Position(ground_with(lot), known))
 
 
-def at_rest(play, done, added, known):
-    """The position after a lot has been closed; it raises Clash as closing does.
+def moved_terms(known, ground):
+    """A dict, with its keys in ascending order, to the terms that stand in a ground in the places of its values."""
+    return {name: ground.moved.get(known[name], known[name]) for name in sorted(known)}
 
-    The lot has two parts, the first of which is closed already.
-    """
-    patterns, terms = closed_on(done, added, play.rules)
-    return Position(patterns, {name: terms.get(known[name], known[name]) for name in sorted(known)})
+
+def opening(lot, known, book):
+    """The position at the beginning, when the lot has been closed; it raises Clash as closing does."""
+    ground = closed_ground(lot, book)
+    return Position(ground, moved_terms(known, ground))
+
+
+def store_position(store, known):
+    """The position at the beginning of a play with a store that keeps the rules, so it is closed already."""
+    return Position(Ground(store.held(), store.groups(), {}), known)
+
+
+def with_added(position, added, book):
+    """The position after patterns have been added and closed; it raises Clash as closing does."""
+    # Nothing has moved that is added now: a fresh variable may have the name of one that is gone.
+    base = Ground(position.ground.present, position.ground.groups(), {})
+    ground = grown(base, added, book)
+    return Position(ground, moved_terms(position.known, ground))
 
 
 def waiting_seat(play, position):
@@ -91,7 +127,7 @@ def waiting_seat(play, position):
 
 def waiting_seats(play, position):
     """The seats of all candidates that do not go on, those with the fewest next nodes ahead."""
-    return sorted([seat for seat in play.seats if waits(seat, position)], key=lambda seat: len(seat.next_lots))
+    return sorted([seat for seat in play.seats if waits(seat, position)], key=lambda seat: len(seat.nexts))
 
 
 def fresh_for(names, taken):
@@ -108,16 +144,23 @@ def fresh_for(names, taken):
 
 def put_in(play, present, known, wanted):
     """The patterns of a node as they are put into a lot, with fresh variables for those that no term is known for."""
+    free = [name for name in variables_of(wanted) if name not in known]
+    if play.used is None:
+        play.used = [name for question in play.trees for name in question.variables()]
     taken = {name: True for name in [*variables_of(present), *play.used]}
-    names = fresh_for([name for name in variables_of(wanted) if name not in known], taken)
-    whole = {**names, **known}
+    whole = {**fresh_for(free, taken), **known}
     return [filled(pattern, whole) for pattern in wanted]
+
+
+def after_choice_of(play, position, lead):
+    """The position after a node has been chosen, which its lead tells; it raises Clash as closing does."""
+    return with_added(position, put_in(play, position.ground.present, position.known, lead.asks), play.book)
 
 
 def first_had(play, position):
     """The paper for the first goal that is had, or None."""
     for index, goal in enumerate(play.goals):
-        found = first_match(goal, position.shapes, position.known)
+        found = first_led(goal, position.ground, position.known)
         if found is not None:
             return "had", index, found
     return None
@@ -125,72 +168,80 @@ def first_had(play, position):
 
 def after_choices(play, position, seat):
     """How a play ends in which a seat is waiting, after whatever the spoiler chooses."""
-    if not seat.next_lots:
+    if not seat.nexts:
         return "lost", ("stuck", seat.tree, seat.part)
     rows = []
-    for node, lot in seat.next_lots:
-        added = put_in(play, position.present, position.known, lot)
-        end = ending(play, position.present, added, position.known)
+    for node, lead in seat.nexts:
+        end = ending_with(play, position, lead)
         if end[0] == "won":
             return end
         rows.append((node, end[1]))
     return "lost", ("put", seat.tree, seat.part, rows)
 
 
-def ending(play, done, added, known):
-    """How a play ends that goes on with a lot of two parts and a dict: what spoil returns."""
+def ending_with(play, position, lead):
+    """How a play ends after a node has been chosen."""
     try:
-        position = at_rest(play, done, added, known)
+        after = after_choice_of(play, position, lead)
     except Clash:
         return "lost", ("clash",)
+    return ending(play, after)
+
+
+def ending(play, position):
+    """How a play ends that goes on from a position: what spoil returns."""
     had = first_had(play, position)
     if had is not None:
         return "lost", had
     seat = waiting_seat(play, position)
     if seat is None:
-        return "won", list(position.present), position.known
+        return "won", sorted(position.ground.present), position.known
     return after_choices(play, position, seat)
 
 
 def spoil(lot, wood, known, *, goals=(), rules=()):
     """Whether the spoiler can win: a tuple won with the lot and the dict at the end, or lost with a paper."""
-    return ending(Play(wood, known, goals, rules), [], lot, known)
+    play = play_of(wood, known, goals, rules)
+    try:
+        position = opening(lot, known, play.book)
+    except Clash:
+        return "lost", ("clash",)
+    return ending(play, position)
 
 
 def is_had(play, position):
     """Whether a goal is had."""
     for goal in play.goals:
-        if has_match(goal, position.shapes, position.known):
+        if is_led(goal, position.ground, position.known):
             return True
     return False
 
 
-def win_from(play, done, added, known):
-    """The position in which the spoiler has won a play that goes on with a lot of two parts and a dict, or None.
+def win_with(play, position, lead):
+    """The position in which the spoiler has won a play after a node has been chosen, or None."""
+    try:
+        after = after_choice_of(play, position, lead)
+    except Clash:
+        return None
+    return win_from(play, after)
+
+
+def win_from(play, position):
+    """The position in which the spoiler has won a play that goes on from a position, or None.
 
     All candidates must be made to go on at last, so it does not matter which one is taken first; it is the
     one with the fewest choices, for one without any shows at once that the play is lost.
     """
-    try:
-        position = at_rest(play, done, added, known)
-    except Clash:
-        return None
     if is_had(play, position):
         return None
     waiting = waiting_seats(play, position)
     if not waiting:
         return position
-    for _, lot in waiting[0].next_lots:
-        more = put_in(play, position.present, position.known, lot)
-        won = win_from(play, position.present, more, position.known)
+    for _, lead in waiting[0].nexts:
+        won = win_with(play, position, lead)
         if won is not None:
             return won
     return None
-
-
-def win_of(lot, wood, known, goals, rules):
-    """The position in which the spoiler has won a play, or None if the spoiler loses it."""
-    return win_from(Play(wood, known, goals, rules), [], lot, known)
 
 
 def shows_goal(paper, play, position):
@@ -200,14 +251,14 @@ def shows_goal(paper, play, position):
     _, index, found = paper
     if not is_whole(index) or not 0 <= index < len(play.goals):
         return False
-    goal = play.goals[index]
+    goal = play.goals[index].asks
     known = position.known
     if not has_just(found, sorted(set([*known, *variables_of(goal)]))):
         return False
-    # A value may be of any kind, and then it is not fit to be looked up among the keys of a dict.
-    lot = list(position.present)
-    return (all([found[name] == known[name] for name in known])
-            and all([filled(pattern, found) in lot for pattern in goal]))
+    # What is no term leads the goal nowhere, and it need not be fit to be looked up among the keys of a dict.
+    return (all([isinstance(term, str) for term in found.values()])
+            and all([found[name] == known[name] for name in known])
+            and all([filled(pattern, found) in position.ground.present for pattern in goal]))
 
 
 def is_seat(value, seat):
@@ -220,35 +271,44 @@ def is_seat(value, seat):
 
 def shows_choices(rows, play, position, seat):
     """Whether the rows of a paper tell a paper for each choice."""
-    if not is_list(rows) or len(rows) != len(seat.next_lots):
+    if not is_list(rows) or len(rows) != len(seat.nexts):
         return False
-    for row, (node, lot) in zip(rows, seat.next_lots):
+    for row, (node, lead) in zip(rows, seat.nexts):
         if not isinstance(row, tuple) or len(row) != 2 or not is_whole(row[0]) or row[0] != node:
             return False
-        added = put_in(play, position.present, position.known, lot)
-        if not is_paper(row[1], play, position.present, added, position.known):
+        if not is_paper_with(row[1], play, position, lead):
             return False
     return True
 
 
-def is_paper(paper, play, done, added, known):
-    """Whether any value is a paper for a play that goes on with a lot of two parts and a dict."""
-    if not isinstance(paper, tuple):
-        return False
+def is_paper_with(paper, play, position, lead):
+    """Whether any value is a paper for a play that goes on after a node has been chosen."""
     try:
-        position = at_rest(play, done, added, known)
+        after = after_choice_of(play, position, lead)
     except Clash:
         return paper == ("clash",)
+    return is_paper(paper, play, after)
+
+
+def is_paper(paper, play, position):
+    """Whether any value is a paper for a play that goes on from a position."""
+    if not isinstance(paper, tuple):
+        return False
     if paper[:1] == ("had",):
         return shows_goal(paper, play, position)
     seat = waiting_seat(play, position)
     if seat is None or not is_seat(paper[1:3], seat):
         return False
-    if not seat.next_lots:
+    if not seat.nexts:
         return paper[0] == "stuck" and len(paper) == 3
     return paper[0] == "put" and len(paper) == 4 and shows_choices(paper[3], play, position, seat)
 
 
 def is_lost(paper, lot, wood, known, *, goals=(), rules=()):
     """Whether any value is a paper that shows that the spoiler loses a play."""
-    return is_paper(paper, Play(wood, known, goals, rules), [], lot, known)
+    play = play_of(wood, known, goals, rules)
+    try:
+        position = opening(lot, known, play.book)
+    except Clash:
+        return paper == ("clash",)
+    return is_paper(paper, play, position)

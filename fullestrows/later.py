@@ -4,16 +4,13 @@ from fullestrows.answers import answers, is_answer
 from fullestrows.cases import constants_in, must_fit, must_keep, places_in, shown_store
 from fullestrows.containment import win_at
 from fullestrows.facts import Store
-from fullestrows.games import Play, is_lost, spoil, win_from
-from fullestrows.rules import keeps
+from fullestrows.games import is_lost, play_of, spoil, store_position, win_from
+from fullestrows.rules import book_of, keeps
 
 
 def undoing_win(wood, store, known, rules):
-    """The position in which the spoiler has won the play of an answer, or None if the answer is final.
-
-    The store keeps the rules, so it is closed already.
-    """
-    return win_from(Play(wood, known, (), rules), list(store.facts), [], known)
+    """The position in which the spoiler has won the play of an answer, or None if the answer is final."""
+    return win_from(play_of(wood, known, (), rules), store_position(store, known))
 
 
 def is_final(wood, store, known, *, rules=()):
@@ -41,7 +38,7 @@ def undoing(wood, store, known, *, rules=()):
     won = undoing_win(wood, store, known, rules)
     if won is None:
         return None
-    later, _ = shown_store(list(won.present), {}, constants_in(wood, rules))
+    later, _ = shown_store(won.ground.present, {}, constants_in(wood, rules))
     return [fact for fact in later.facts if fact not in store]
 
 
@@ -60,11 +57,12 @@ def final_answers(wood, store, *, rules=()):
 
 def unsettled(wood, *, rules=()):
     """A store that keeps some implications, an answer in it that is not final, and facts that undo it, or None."""
+    book = book_of(rules)
     for tree, part in places_in(wood):
-        won = win_at(wood[tree], part, [], rules)
+        won = win_at(wood[tree], part, [], book)
         if won is not None:
             # Without keys nothing is made equal, so new constants are as good as variables for the play that follows.
-            store, known = shown_store(list(won.present), won.known, constants_in(wood, rules))
+            store, known = shown_store(won.ground.present, won.known, constants_in(wood, rules))
             facts = undoing(wood, store, known, rules=rules)
             if facts is not None:
                 return store, known, facts

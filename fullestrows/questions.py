@@ -2,6 +2,11 @@
 
 from fullestrows.errors import BadNames, BadNode, BadNodes, BadPart, BadPattern, BadText, Loose, NothingNew
 from fullestrows.facts import filled, is_pattern, is_variable, is_whole, pattern_text, read_pattern, variables_of
+from fullestrows.leads import Lead
+
+# So much is kept at most of what has been found out about a question for some variables and for some rules.
+MOST_KEPT = 200
+MOST_RULES_KEPT = 8
 
 
 def is_list(value):
@@ -23,9 +28,8 @@ def are_nodes(value):
     return is_list(value) and len(value) > 0 and all([is_node(node, at) for at, node in enumerate(value)])
 
 
-def new_names(parents, lots):
-    """For each node the ascending tuple of the variables that do not occur in its parent."""
-    names = [variables_of(lot) for lot in lots]
+def new_names(parents, names):
+    """For each node the ascending tuple of the variables, out of those of each node, that are not in its parent."""
     found = [tuple(names[0])]
     for parent, mine in list(zip(parents, names))[1:]:
         found.append(tuple([name for name in mine if name not in names[parent]]))
@@ -48,10 +52,9 @@ def renumbered(nodes, kept):
 
 
 def first_twice(names):
-    """The first of some names that stands among them twice, or None."""
+    """The first of some names, of which not all differ, that stands among them twice."""
     ordered = sorted(names)
-    twice = [name for name, other in zip(ordered, ordered[1:]) if name == other]
-    return twice[0] if twice else None
+    return [name for name, other in zip(ordered, ordered[1:]) if name == other][0]
 
 
 def lot_text(lot):
@@ -75,8 +78,29 @@ def nodes_told(text):
     return nodes
 
 
+class Place:
+    """A part of a question with its variables and its patterns, both ascending, and its next nodes once asked for."""
+
+    def __init__(self, part, owned, lot):
+        self.part = part
+        self.owned = owned
+        self.asks = lot
+        self.nexts = None
+
+
+class Aim:
+    """The least part of a question that has some variables, and its lead for dicts that know them."""
+
+    def __init__(self, part, lead):
+        self.part = part
+        self.lead = lead
+
+
 class Question:
-    """A question with a list of nodes (parent, patterns); it never changes."""
+    """A question with a list of nodes (parent, patterns); it never changes.
+
+    What has been found out about its parts is kept, as the decisions for all stores ask for it again and again.
+    """
 
     def __init__(self, nodes):
         if not are_nodes(nodes):
@@ -87,15 +111,23 @@ class Question:
                     raise BadPattern(value)
         self._parents = tuple([parent for parent, _ in nodes])
         self._lots = tuple([tuple(sorted(set(patterns))) for _, patterns in nodes])
-        self._new = tuple(new_names(self._parents, self._lots))
+        self._names = tuple([variables_of(lot) for lot in self._lots])
+        self._new = tuple(new_names(self._parents, self._names))
         self._children = tuple(children_of(self._parents))
+        self._home = {name: node for node, names in enumerate(self._new) for name in names}
         # A variable that is new in two nodes does not hang together.
-        twice = first_twice([name for names in self._new for name in names])
-        if twice is not None:
-            raise Loose(twice)
+        if len(self._home) < sum([len(names) for names in self._new]):
+            raise Loose(first_twice([name for names in self._new for name in names]))
         for index, names in enumerate(self._new):
             if index > 0 and not names:
                 raise NothingNew(index)
+        self._parts = None
+        self._constants = None
+        self._places = {}
+        self._having = {}
+        self._leads = {}
+        self._aims = {}
+        self._courses = {}
 
     @property
     def nodes(self):
@@ -118,6 +150,25 @@ class Question:
             raise BadNode(index)
         return list(self._new[index])
 
+    def constants(self):
+        """The list of the constants in the patterns, each once; the package itself only looks at it."""
+        if self._constants is None:
+            terms = [term for lot in self._lots for pattern in lot for term in pattern[1:] if term[0] != "?"]
+            self._constants = list({term: True for term in terms})
+        return self._constants
+
+    def names_at(self, node):
+        """The ascending list of the variables of a node; the package itself only looks at it."""
+        return self._names[node]
+
+    def new_at(self, node):
+        """The ascending tuple of the new variables of a node."""
+        return self._new[node]
+
+    def all_lots(self):
+        """The tuple of the ascending tuples of the patterns of the nodes."""
+        return self._lots
+
     def lot_at(self, node):
         """The ascending tuple of the patterns of a node."""
         return self._lots[node]
@@ -126,23 +177,40 @@ class Question:
         """The parent of a node, which is None for the first one."""
         return self._parents[node]
 
+    def around(self, node):
+        """The nodes right beneath a node and its parent, if it has one."""
+        return self._children[node] if node == 0 else (self._parents[node], *self._children[node])
+
     def children(self, node):
         """The ascending tuple of the nodes whose parent a node is."""
         return self._children[node]
 
-    def is_part(self, value):
-        """Whether any value is a part: with each node but the first one, its parent, in an ascending tuple."""
-        if not isinstance(value, tuple) or not all([self.is_number(node) for node in value]):
-            return False
-        return (value[:1] == (0,) and value == tuple(sorted(set(value)))
-                and all([self._parents[node] in value for node in value[1:]]))
-
-    def parts(self):
-        """The ascending list of all parts."""
+    def all_parts(self):
+        """A dict whose keys are all parts, in ascending order; the package itself only looks at it."""
+        if self._parts is not None:
+            return self._parts
         found = [(0,)]
         for node, parent in enumerate(self._parents):
             found = [*found, *[(*part, node) for part in found if parent in part]]
-        return sorted(found)
+        parts = {part: True for part in sorted(found)}
+        self._parts = parts if len(parts) <= MOST_KEPT else None
+        return parts
+
+    def is_part(self, value):
+        """Whether any value is a part: with each node but the first one, its parent, in an ascending tuple."""
+        if not isinstance(value, tuple) or value[:1] != (0,):
+            return False
+        # True and False equal 1 and 0, but are no integers here.
+        if [node for node in value if not isinstance(node, int) or node is True or node is False]:
+            return False
+        for node, other in zip(value, value[1:]):
+            if not node < other < len(self._parents) or self._parents[other] not in value:
+                return False
+        return True
+
+    def parts(self):
+        """The ascending list of all parts."""
+        return list(self.all_parts())
 
     def checked(self, part):
         """A part as it is; what is no part raises BadPart."""
@@ -183,16 +251,67 @@ class Question:
 
     def least_part(self, variables):
         """The least part in which all variables of a list occur, or None if some occur nowhere."""
-        wanted = set(variables)
         kept = {0: True}
-        seen = 0
-        for node, parent in reversed(list(enumerate(self._parents))):
-            many = len([name for name in self._new[node] if name in wanted])
-            seen += many
-            if node > 0 and (many > 0 or node in kept):
+        for name in variables:
+            if name not in self._home:
+                return None
+            node = self._home[name]
+            while node not in kept:
                 kept[node] = True
-                kept[parent] = True
-        return tuple(sorted(kept)) if seen == len(wanted) else None
+                node = self._parents[node]
+        return tuple(sorted(kept))
+
+    def lead_at(self, node):
+        """The lead of a node, for dicts that know its variables but the new ones."""
+        if node not in self._leads:
+            known = [name for name in self._names[node] if name not in self._new[node]]
+            self._leads[node] = Lead(self._lots[node], known)
+        return self._leads[node]
+
+    def place_of(self, part):
+        """The place of a part."""
+        if part not in self._places:
+            names = tuple(sorted([name for node in part for name in self._new[node]]))
+            self._places[part] = Place(part, names, tuple(self.lot_of(part)))
+        return self._places[part]
+
+    def leads_beneath(self, part):
+        """A tuple (node, lead) for each of the next nodes of a part; the package itself only looks at their list."""
+        place = self.place_of(part)
+        if place.nexts is None:
+            place.nexts = [(node, self.lead_at(node)) for node in self.beneath(part)]
+        return place.nexts
+
+    def place_having(self, names):
+        """The place whose variables are just those of an ascending tuple, or None if there is none."""
+        if names not in self._having:
+            part = self.part_with(names)
+            self._having = {} if len(self._having) >= MOST_KEPT else self._having
+            self._having[names] = None if part is None else self.place_of(part)
+        return self._having[names]
+
+    def aim_at(self, names):
+        """The aim for the variables of a tuple, or None if some occur nowhere."""
+        if names not in self._aims:
+            part = self.least_part(names)
+            self._aims = {} if len(self._aims) >= MOST_KEPT else self._aims
+            self._aims[names] = None if part is None else Aim(part, self.lead_to(part, names))
+        return self._aims[names]
+
+    def lead_to(self, part, names):
+        """The lead of a part for dicts that know some of its variables."""
+        lot = list({pattern: True for node in part for pattern in self._lots[node]})
+        whole = len(names) == len([name for node in part for name in self._new[node]])
+        return Lead(lot, None if whole else names)
+
+    def course_by(self, told):
+        """The course (see grounds.py) that is kept for the rules that a tuple tells, or None."""
+        return self._courses.get(told)
+
+    def keep_course(self, told, course):
+        """Keeps a course for the rules that a tuple tells."""
+        self._courses = {} if len(self._courses) >= MOST_RULES_KEPT else self._courses
+        self._courses[told] = course
 
     def way(self, node):
         """The list of the nodes on the way from a node up to the first one, both included."""

@@ -1,8 +1,8 @@
 """Keys and implications: which stores keep them, and what follows from a lot by them."""
 
-from fullestrows.closing import end_of, first_breach, first_pair
+from fullestrows.closing import Body, Book, closed_ground, first_breach, first_pair
 from fullestrows.errors import BadKey, BadPattern, BadRule
-from fullestrows.facts import MOST_TERMS, Store, filled, is_name, is_pattern, is_whole, variables_of
+from fullestrows.facts import MOST_TERMS, filled, is_name, is_pattern, is_whole, store_with, variables_of
 
 
 def are_places(places, size):
@@ -23,6 +23,7 @@ class Key:
         self._table = table
         self._size = size
         self._places = tuple(sorted(places))
+        self._spots = tuple([1 + place for place in self._places])
 
     @property
     def table(self):
@@ -38,6 +39,10 @@ class Key:
     def places(self):
         """The ascending tuple of the places that settle the others."""
         return self._places
+
+    def demand(self):
+        """The shape (table, length) of the facts that the key is for, and their items that settle the others."""
+        return (self._table, 1 + self._size), self._spots
 
     def __eq__(self, other):
         return (isinstance(other, Key) and self._table == other._table
@@ -56,6 +61,7 @@ class Rule:
             raise BadRule()
         self._body = tuple(body)
         self._head = head
+        self._ready = None
 
     @property
     def body(self):
@@ -66,6 +72,12 @@ class Rule:
     def head(self):
         """The head, which is a pattern."""
         return self._head
+
+    def ready_body(self):
+        """The body made ready for closing, when it is first asked for."""
+        if self._ready is None:
+            self._ready = Body(self._body, self._head)
+        return self._ready
 
     def __eq__(self, other):
         return isinstance(other, Rule) and self._body == other._body and self._head == other._head
@@ -94,16 +106,17 @@ def keeps(store, rules):
     return broken(store, rules) is None
 
 
-def closed_on(done, added, rules):
-    """What closed returns for a lot of two parts, the first of which is closed by the rules already."""
-    keys = [rule for rule in rules if isinstance(rule, Key)]
-    implications = [rule for rule in rules if isinstance(rule, Rule)]
-    return end_of(done, added, keys, implications)
+def book_of(rules):
+    """The rules of a list, made ready for closing."""
+    demands = [rule.demand() for rule in rules if isinstance(rule, Key)]
+    bodies = [rule.ready_body() for rule in rules if isinstance(rule, Rule)]
+    return Book(demands, bodies, (*demands, *[body.told for body in bodies]))
 
 
 def closed(lot, rules):
     """The ascending patterns of a lot with all that follows by rules, and what became of its variables."""
-    return closed_on([], lot, rules)
+    ground = closed_ground(lot, book_of(rules))
+    return sorted(ground.present), {name: ground.moved.get(name, name) for name in variables_of(lot)}
 
 
 def store_of(lot, taken=()):
@@ -116,4 +129,4 @@ def store_of(lot, taken=()):
         while f"new{number}" in used or f"new{number}" in taken:
             number += 1
         names[name] = f"new{number}"
-    return Store([filled(pattern, names) for pattern in lot]), names
+    return store_with([filled(pattern, names) for pattern in lot]), names

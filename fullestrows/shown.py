@@ -1,10 +1,12 @@
 """Whether each answer of one wood is part of an answer of another one, if only some variables are shown."""
 
-from fullestrows.answers import fullest, has_above, is_answer
-from fullestrows.cases import constants_in, has_places, is_way_into, places_in, shown_store, way_into
-from fullestrows.errors import BadNode, Clash
+from fullestrows.answers import filled_up, has_above, is_answer
+from fullestrows.cases import constants_in, has_places, is_way_into, shown_store
+from fullestrows.errors import BadNode
+from fullestrows.grounds import course_of, ground_of, terms_at
+from fullestrows.leads import first_free_led, first_led, is_free_led, is_led, plain_held
 from fullestrows.matching import only_keys
-from fullestrows.rules import closed, keeps
+from fullestrows.rules import book_of, keeps
 from fullestrows.views import left_of_answers
 
 
@@ -14,83 +16,127 @@ def shown_answers(wood, store, shown):
     return [dict(pairs) for pairs in left]
 
 
-class Ground:
-    """A part of a question after closing: its lot and the terms of its shown variables; clash tells of a Clash."""
+class Show:
+    """A question of which only some variables are shown: those that are new in each node, and its grounds."""
 
-    def __init__(self, question, part, shown, rules):
-        self.clash = False
-        self.present = []
-        self.terms = {}
-        try:
-            self.present, self.terms = closed(question.lot_of(part), rules)
-        except Clash:
-            self.clash = True
-        self.visible = only_keys(self.terms, shown)
+    def __init__(self, question, shown, book):
+        self.course = course_of(question, book)
+        self.asked = [[name for name in question.new_at(node) if name in shown] for node in range(len(question))]
 
 
-def way_in(ground, others):
+def names_shown(show, part):
+    """The tuple of the variables of a part that are shown."""
+    return tuple([name for node in part for name in show.asked[node]])
+
+
+def first_way(aim, ground, known):
+    """The first dict above known by which an aim is met in a ground, or None."""
+    if ground.moved:
+        return first_led(aim.lead, ground, known)
+    # The terms of all variables are these variables themselves.
+    return first_free_led(aim.lead, ground, known) if plain_held(aim.lead, ground.present) else None
+
+
+def way_in(show, part, others):
     """A way for a part of a question into another wood, or None."""
-    if ground.clash:
+    ground = ground_of(show.course, part)
+    if ground is None:
         return ("clash",)
-    found = way_into(ground.present, others, ground.visible)
-    return None if found is None else ("way", *found)
+    names = names_shown(show, part)
+    known = terms_at(ground, names)
+    for tree, other in enumerate(others):
+        aim = other.aim_at(names)
+        found = None if aim is None else first_way(aim, ground, known)
+        if found is not None:
+            return "way", tree, aim.part, found
+    return None
 
 
-def first_unmet(wood, others, shown, rules):
-    """The first tuple (question, ground) of a part for which there is no way, or None."""
+def is_met(aim, ground, names):
+    """Whether some dict to the terms of some variables and more meets an aim in a ground."""
+    if ground.moved:
+        return is_led(aim.lead, ground, terms_at(ground, names))
+    return plain_held(aim.lead, ground.present) and is_free_led(aim.lead, ground, terms_at(ground, names))
+
+
+def has_way(show, part, others):
+    """Whether there is a way for a part of a question into another wood."""
+    ground = ground_of(show.course, part)
+    if ground is None:
+        return True
+    names = names_shown(show, part)
+    for other in others:
+        aim = other.aim_at(names)
+        if aim is not None and is_met(aim, ground, names):
+            return True
+    return False
+
+
+def first_unmet(wood, others, shown, book):
+    """The first tuple (question, part) for which there is no way, or None."""
     for question in wood:
         # A question that both woods have is part of itself.
         if question not in others:
-            for part in question.parts():
-                ground = Ground(question, part, shown, rules)
-                if way_in(ground, others) is None:
-                    return question, ground
+            show = Show(question, shown, book)
+            for part in question.all_parts():
+                # If nothing new is shown in the last node, there is the way of the part without it.
+                if (part[-1] == 0 or show.asked[part[-1]]) and not has_way(show, part, others):
+                    return question, part
     return None
 
 
 def part_of(wood, others, shown, *, rules=()):
     """Whether a wood is part of another one for some rules and shown variables."""
-    return first_unmet(wood, others, shown, rules) is None
+    return first_unmet(wood, others, shown, book_of(rules)) is None
 
 
 def ways(wood, others, shown, *, rules=()):
     """For each tuple (tree, part) of a wood a way into another one, or None if the wood is not part of it."""
+    book = book_of(rules)
     found = {}
-    for tree, part in places_in(wood):
-        way = way_in(Ground(wood[tree], part, shown, rules), others)
-        if way is None:
-            return None
-        found[(tree, part)] = way
+    for tree, question in enumerate(wood):
+        show = Show(question, shown, book)
+        for part in question.all_parts():
+            way = way_in(show, part, others)
+            if way is None:
+                return None
+            found[(tree, part)] = way
     return found
 
 
-def is_way(value, ground, others):
+def is_way(value, show, part, others):
     """Whether any value is a way for a part of a question into another wood."""
-    if ground.clash:
+    ground = ground_of(show.course, part)
+    if ground is None:
         return value == ("clash",)
     return (isinstance(value, tuple) and value[:1] == ("way",)
-            and is_way_into(value[1:], ground.present, others, ground.visible))
+            and is_way_into(value[1:], ground.present, others, terms_at(ground, names_shown(show, part))))
 
 
 def are_ways(value, wood, others, shown, *, rules=()):
     """Whether any value is a dict of ways that show that a wood is part of another one."""
-    places = places_in(wood)
-    if not has_places(value, places):
+    if not has_places(value, wood):
         return False
-    for tree, part in places:
-        if not is_way(value[(tree, part)], Ground(wood[tree], part, shown, rules), others):
-            return False
+    book = book_of(rules)
+    for tree, question in enumerate(wood):
+        show = Show(question, shown, book)
+        for part in question.all_parts():
+            if not is_way(value[(tree, part)], show, part, others):
+                return False
     return True
 
 
 def unmet(wood, others, shown, *, rules=()):
     """A store that keeps the rules and an answer of a wood whose shown part is in none of another one, or None."""
-    found = first_unmet(wood, others, shown, rules)
+    book = book_of(rules)
+    found = first_unmet(wood, others, shown, book)
     if found is None:
         return None
-    question, ground = found
-    store, known = shown_store(ground.present, ground.terms, constants_in([*wood, *others], rules))
-    return store, fullest(question, store, known)
+    question, part = found
+    ground = ground_of(course_of(question, book), part)
+    terms = terms_at(ground, question.place_of(part).owned)
+    store, known = shown_store(ground.present, terms, constants_in([*wood, *others], rules))
+    return store, filled_up(question, part, store, known)
 
 
 def is_unmet(store, answer, wood, others, shown, *, rules=()):

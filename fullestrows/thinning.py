@@ -1,11 +1,12 @@
 """What can be left out of a wood, and what can be put together in a question, without any change of the answers."""
 
 from fullestrows.containment import contained, parting
-from fullestrows.errors import BadStrike, Clash, Loose, NothingNew
+from fullestrows.errors import BadStrike, Clash
 from fullestrows.facts import by_shape, variables_of
 from fullestrows.matching import has_match
 from fullestrows.questions import Question, renumbered
-from fullestrows.rules import closed
+from fullestrows.rules import book_of, closed
+from fullestrows.sifting import Sieve, is_left, is_needless
 
 
 def alike(wood, others, *, rules=()):
@@ -23,14 +24,11 @@ def unlike(wood, others, *, rules=()):
 
 
 def without_pattern(question, node, pattern):
-    """The question in which a pattern is left out of a node, or None if what is left is no question."""
+    """The question in which a pattern is left out of a node."""
     nodes = question.nodes
     parent, lot = nodes[node]
     nodes[node] = (parent, [other for other in lot if other != pattern])
-    try:
-        return Question(nodes)
-    except (Loose, NothingNew):
-        return None
+    return Question(nodes)
 
 
 def strikes_in(tree, question):
@@ -39,7 +37,7 @@ def strikes_in(tree, question):
     found.extend([("node", tree, node) for node in range(1, len(question))])
     for node in range(len(question)):
         found.extend([("pattern", tree, node, pattern) for pattern in question.lot_at(node)
-                      if without_pattern(question, node, pattern) is not None])
+                      if is_left(question, node, pattern)])
     return found
 
 
@@ -71,36 +69,57 @@ def struck(wood, strike):
     return wood_after(wood, strike)
 
 
-def is_needless(wood, strike, rules):
-    """Whether a wood and the wood after a strike are alike."""
-    return alike(wood, wood_after(wood, strike), rules=rules)
-
-
 def needless(wood, *, rules=()):
     """The list of the strikes after which a wood has the same answers in all stores that keep the rules."""
-    return [strike for strike in strikes(wood) if is_needless(wood, strike, rules)]
+    sieve = Sieve(wood, book_of(rules))
+    return [strike for strike in strikes(wood) if is_needless(sieve, strike)]
 
 
-def next_needless(wood, start, rules):
-    """The index of a needless strike and the strike, or None; those from a start on are looked at first."""
+def renumbered_strike(strike, tree):
+    """A strike of another question, when the question with an index has been left out."""
+    return (strike[0], strike[1] - 1, *strike[2:]) if strike[1] > tree else strike
+
+
+def still_in_vain(vain, strike):
+    """Which strikes are known not to be needless, of those that were not, when another strike has been made.
+
+    If a question has been left out, no strike of the others is needless that was not: with this question, which
+    tells nothing that the others do not tell, it would have been needless before.
+    """
+    if strike[0] != "tree":
+        return {}
+    return {renumbered_strike(other, strike[1]): True for other in vain if other[1] != strike[1]}
+
+
+def next_needless(wood, start, vain, book):
+    """The index of a needless strike and the strike, or None; those from a start on are looked at first.
+
+    Those that are known to be in vain are left out; what is found to be in vain is put to them.
+    """
+    sieve = Sieve(wood, book)
     several = strikes(wood)
     for strike in [*several[start:], *several[:start]]:
-        if is_needless(wood, strike, rules):
-            return several.index(strike), strike
+        if strike not in vain:
+            if is_needless(sieve, strike):
+                return several.index(strike), strike
+            vain[strike] = True
     return None
 
 
 def thinned(wood, *, rules=()):
     """A wood no strike of which is needless, and the list of the needless strikes that lead to it."""
+    book = book_of(rules)
     thin = list(wood)
     made = []
-    found = next_needless(thin, 0, rules)
+    vain = {}
+    found = next_needless(thin, 0, vain, book)
     while found is not None:
         start, strike = found
         made.append(strike)
         thin = wood_after(thin, strike)
+        vain = still_in_vain(vain, strike)
         # What stood behind the strike has not been looked at yet, so it comes first now.
-        found = next_needless(thin, start, rules)
+        found = next_needless(thin, start, vain, book)
     return thin, made
 
 

@@ -64,7 +64,9 @@ def why_sure(known, wood, lot, *, rules=()):
 def is_why(value, known, wood, lot, *, rules=()):
     """Whether any value is a tuple that shows that a map is sure; there is none without a possible store."""
     patterns = end_of_lot(lot, rules)
-    return patterns is not None and isinstance(value, tuple) and is_way_into(value, patterns, wood, known)
+    if patterns is None or not isinstance(value, tuple):
+        return False
+    return is_way_into(value, {pattern: True for pattern in patterns}, wood, known)
 
 
 def against(known, wood, lot, *, rules=()):

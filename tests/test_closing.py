@@ -1,9 +1,10 @@
 import unittest
 
+from fullestrows.closing import closed_ground, grown
 from fullestrows.errors import Clash
 from fullestrows.facts import Store, filled, variables_of
 from fullestrows.matching import is_above, maps
-from fullestrows.rules import Key, Rule, closed, closed_on, keeps, store_of
+from fullestrows.rules import Key, Rule, book_of, closed, keeps, store_of
 from values import dice, names_in, shaped_lot, slow_closed, some_lot
 
 WAY = Rule([("e", "?x", "?y"), ("e", "?y", "?z")], ("e", "?x", "?z"))
@@ -127,6 +128,13 @@ class Closing(unittest.TestCase):
         self.assertEqual(len(closed(lot, [WAY])[0]), 19 * 18 // 2)
 
 
+def closed_on(done, added, rules):
+    """What closed returns for a lot of two parts, the first of which is closed first."""
+    book = book_of(rules)
+    ground = grown(closed_ground(done, book), added, book)
+    return sorted(ground.present), {name: ground.moved.get(name, name) for name in variables_of([*done, *added])}
+
+
 class GoingOn(unittest.TestCase):
     """Point 32 for a lot, most of which is closed already, as it is in a play."""
 
@@ -139,6 +147,25 @@ class GoingOn(unittest.TestCase):
         patterns, terms = closed_on(done, added, rules)
         self.assertEqual(patterns, wanted[0])
         self.assertEqual(list(terms.items()), sorted(wanted[1].items()))
+
+    def test_what_has_moved_is_gone_in_what_is_added(self):
+        # The variable ?z is gone from the lot when it comes again.
+        done = [("h", "k", "?z"), ("h", "k", "?y")]
+        self.check(done, [("g", "?z", "?x")], [Key("h", 2, [0])])
+        self.assertEqual(closed_on(done, [("g", "?z", "?x")], [Key("h", 2, [0])])[0], [("g", "?y", "?x"), ("h", "k", "?y")])
+        self.check(done, [("h", "?z", "?x"), ("h", "?y", "l")], [Key("h", 2, [0])])
+        self.check(done, [("h", "k", "l"), ("g", "?z", "?y")], [Key("h", 2, [0])])
+
+    def test_the_ground_grown_out_of_stays_as_it_is(self):
+        book = book_of([Key("h", 2, [0]), WAY])
+        base = closed_ground([("e", "?a", "?b"), ("e", "?b", "?c"), ("h", "k", "?c"), ("h", "k", "?d")], book)
+        before = (dict(base.present), {shape: list(rows) for shape, rows in base.groups().items()}, dict(base.moved))
+        self.assertEqual(before[2], {"?d": "?c"})
+        for lot in [[("e", "?c", "?a")], [("h", "k", "l")], [("h", "?a", "l"), ("h", "?b", "m"), ("h", "k", "?a")], []]:
+            grown(base, lot, book)
+            self.assertEqual((base.present, base.groups(), base.moved), before)
+        self.assertRaises(Clash, grown, base, [("h", "k", "l"), ("h", "k", "m")], book)
+        self.assertEqual((base.present, base.groups(), base.moved), before)
 
     def test_nothing_added(self):
         done = closed([("e", "?a", "?b"), ("e", "?b", "c")], [WAY])[0]
@@ -183,7 +210,9 @@ class GoingOn(unittest.TestCase):
                 continue
             ended += 1
             with self.subTest(seed):
-                self.check(done, shaped_lot(numbers, numbers.randint(1, 2), [*terms, "?new1"]), rules)
+                more = shaped_lot(numbers, numbers.randint(1, 2), [*terms, "?new1"])
+                self.check(done, more, rules)
+                self.check(lot, more, rules)
         self.assertGreater(ended, 200)
 
 

@@ -1,13 +1,16 @@
-"""The quick way behind points 20, 21, 31 and 32: it finds what the slow ways find, and ends where there is too much."""
+"""The quick ways behind many points: they find what the slow ways find, and end where there is too much."""
 
 import unittest
 from unittest import mock
 
 import test_closing
 import test_games
+import test_leads
 import test_matching
 import test_rules
-from fullestrows import closing, matching, rows
+import test_shown
+import test_thinning
+from fullestrows import closing, leads, matching, rows
 from fullestrows.facts import by_shape
 from fullestrows.rows import fitting, small_rows
 from values import dice, names_in, slow_maps, some_lot, told
@@ -93,7 +96,7 @@ class WithoutRows:
     """The tests of the quick way again, so that the slow one must do."""
 
     def setUp(self):
-        for module, name in [(matching, "small_rows"), (closing, "joined_rows")]:
+        for module, name in [(matching, "small_rows"), (closing, "joined_rows"), (closing, "rows_led"), (leads, "rows_led")]:
             without = mock.patch.object(module, name, lambda *_: None)
             without.start()
             self.addCleanup(without.stop)
@@ -120,6 +123,22 @@ class GoingOnWithoutRows(WithoutRows, test_closing.GoingOn):
 
 
 class PlaysWithoutRows(WithoutRows, test_games.Plays):
+    pass
+
+
+class LeadsWithoutRows(WithoutRows, test_leads.Leads):
+    pass
+
+
+class WaysWithoutRows(WithoutRows, test_shown.Ways):
+    pass
+
+
+class UnmetWithoutRows(WithoutRows, test_shown.Unmet):
+    pass
+
+
+class NeedlessWithoutRows(WithoutRows, test_thinning.Needless):
     pass
 
 

@@ -114,6 +114,68 @@ class ShownAnswers(unittest.TestCase):
                 self.assertGreater(many, 200)
 
 
+FAR = "?o8rxdxswtz5q"
+# The nodes of questions that have much in common.
+TOP = (None, [("nefiml", "?m", "?m"), ("nefiml", "?m", "sj3h")])
+FIRST, SECOND = (0, [("n", "?pl"), ("n", "sj3h")]), (0, [("nefiml", "?m", "?o"), ("nefiml", "?o", "?m")])
+THIRD, LAST = (0, [("n", FAR), ("nefiml", FAR, "?m")]), (3, [("n", "?u87vnc")])
+THIRD_TWICE, THIRD_SELF = [(0, [*THIRD[1], ("nefiml", "?m", term)]) for term in (FAR, "?m")]
+MUCH = [Question([TOP, FIRST, SECOND, THIRD, LAST]), Question([TOP, FIRST, SECOND, THIRD]),
+        Question([TOP, FIRST, SECOND, THIRD_TWICE])]
+MORE = [Question([TOP, FIRST, (0, [("nefiml", "?m", "bng"), ("nefiml", "?o", "?m")]), THIRD_TWICE]),
+        Question([TOP, FIRST, SECOND]), Question([TOP, FIRST, SECOND, THIRD_SELF, LAST])]
+MUCH_SHOWN = ["?u87vnc", "?pl", "?m", "?y80", "?qhiull", "?q1ifclrogsid", "?o", FAR, "?l22r7o"]
+MUCH_RULES = [Rule([("nefiml", "l", "?t"), ("n", "l")], ("nefiml", "?t", "?t"))]
+
+
+class Much(unittest.TestCase):
+    """Points 101 to 104 for woods with many parts that are nearly the same."""
+
+    def test_ways(self):
+        found = ways(MUCH, MORE, MUCH_SHOWN, rules=MUCH_RULES)
+        right = right_ways(MUCH, MORE, MUCH_SHOWN, MUCH_RULES)
+        self.assertEqual((len(found), list(found)), (28, sorted(right)))
+        for place, way in found.items():
+            self.assertIn(way, right[place])
+        self.assertEqual(found[0, (0,)], ("way", 0, (0,), {"?m": "?m"}))
+        self.assertEqual(found[2, (0, 3)], ("way", 0, (0, 3), {"?m": "?m", FAR: FAR}))
+        self.assertIs(are_ways(found, MUCH, MORE, MUCH_SHOWN, rules=MUCH_RULES), True)
+        self.assertIs(part_of(MUCH, MORE, MUCH_SHOWN, rules=MUCH_RULES), True)
+        self.assertIsNone(unmet(MUCH, MORE, MUCH_SHOWN, rules=MUCH_RULES))
+
+    def test_each_place_counts(self):
+        found = ways(MUCH, MORE, MUCH_SHOWN, rules=MUCH_RULES)
+        for place, (_, tree, part, known) in found.items():
+            for way in [("clash",), ("way", tree, part[:-1], known), ("way", tree, part, {**known, "?m": "?o"}),
+                        ("way", True, part, known), ("way", tree, (False, *part[1:]), known), found[0, (0, 1, 2)],
+                        ("way", tree, part, {name: [term] for name, term in known.items()}), ("way", tree, part)]:
+                if way != found[place] or way[1] is True or way[2][0] is False:
+                    value = {**found, place: way}
+                    self.assertIs(are_ways(value, MUCH, MORE, MUCH_SHOWN, rules=MUCH_RULES), False, (place, way))
+            less = {other: way for other, way in found.items() if other != place}
+            self.assertIs(are_ways(less, MUCH, MORE, MUCH_SHOWN, rules=MUCH_RULES), False)
+            number, part = place
+            self.assertIs(are_ways({**less, (number, (False, *part[1:])): found[place]}, MUCH, MORE, MUCH_SHOWN,
+                                   rules=MUCH_RULES), False)
+
+    def test_less_shown_and_other_orders(self):
+        for shown in [[], ["?m"], [FAR, "?pl"], ["?u87vnc"]]:
+            for wood, others in [(MUCH, MORE), (MORE, MUCH), (MUCH, MUCH[::-1]), (MORE[::-1], MUCH), (MUCH, MORE[:2])]:
+                for rules in [[], MUCH_RULES, [Rule([("nefiml", "?p", "?q")], ("nefiml", "?q", "?p"))]]:
+                    right = right_ways(wood, others, shown, rules)
+                    found = ways(wood, others, shown, rules=rules)
+                    self.assertIs(part_of(wood, others, shown, rules=rules), all(right.values()))
+                    if all(right.values()):
+                        self.assertEqual(list(found), sorted(right))
+                        self.assertTrue(all(found[place] in right[place] for place in right))
+                        self.assertIsNone(unmet(wood, others, shown, rules=rules))
+                        self.assertIs(are_ways(found, wood, others, shown, rules=rules), True)
+                    else:
+                        self.assertIsNone(found)
+                        store, answer = unmet(wood, others, shown, rules=rules)
+                        self.assertIs(is_unmet(store, answer, wood, others, shown, rules=rules), True)
+
+
 class Ways(unittest.TestCase):
     """Points 101 to 103."""
 
@@ -191,6 +253,15 @@ class Ways(unittest.TestCase):
         for value in [["clash"], "clash", ("clash", 0), (), ("way", 0, (0,), {"?x": "?x"}), {"clash": 0}, None]:
             self.assertIs(are_ways({(0, (0,)): value}, [PEOPLE], [PEOPLE], [], rules=CLASH), False)
         self.assertIs(are_ways({(0, (0,)): ("clash",)}, [PEOPLE], [PEOPLE], []), False)
+
+    def test_terms_of_hidden_variables_may_be_any_values(self):
+        for value in [*ANY_VALUES, ["?y"], {"?y": "?y"}, ("?y", []), "?x", "?z"]:
+            way = {(0, (0,)): ("way", 0, (0,), {"?w": value, "?x": "?x"}),
+                   (0, (0, 1)): ("way", 0, (0,), {"?w": "?y", "?x": "?x"})}
+            self.assertIs(are_ways(way, [MAYORS], [PLACES], ["?x"]), value == "?y")
+        # The way has as many keys as the part has variables, and what it leads nowhere is there as it is.
+        for known in [{"?x": "?x", "?q": "?w"}, {"?x": "?x"}, {"?x": "?x", "?w": "?w", "?q": "?w"}, {"?x": "?x", 0: "?w"}]:
+            self.assertIs(are_ways({(0, (0,)): ("way", 0, (0,), known)}, [PLACES], [PLACES], ["?x"]), False)
 
     def test_any_value(self):
         for shown in [["?x"], ["?x", "?y"]]:

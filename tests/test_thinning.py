@@ -8,7 +8,7 @@ from fullestrows.facts import Store
 from fullestrows.questions import Question
 from fullestrows.rules import Key, Rule
 from fullestrows.thinning import (
-    alike, always_had, needless, strikes, struck, thinned, tightened, unlike,
+    alike, always_had, needless, still_in_vain, strikes, struck, thinned, tightened, unlike,
 )
 from small import (
     STORES, Answered, canonical, changed_wood, odd_values, slow_keeps, some_rules, some_wood,
@@ -16,6 +16,8 @@ from small import (
 from test_containment import CLASH, EMPTY, HOMELESS, PEOPLE, TOWNS, plays, star
 from values import ANY_VALUES, dice, names_in, slow_answers, slow_closed, slow_maps, some_question
 
+# By these rules there is no a.
+CLASH_A = [Rule([("a", "?p")], ("f", "k")), Rule([("a", "?p")], ("f", "m")), Key("f", 1, [])]
 DOUBLE = Question.read("person(?x)\n person(?x) town(?x,?y)")
 WIDE = Question.read("a(?x)\n b(?x,?y)\n  c(?y,?z)\n   d(?z,?u)\n b(?x,?v)")
 SHAPES = (("a", 1), ("b", 2), ("b", 2))
@@ -69,6 +71,16 @@ def slow_always_had(nodes, node, rules):
         return True
     known = {name: terms[name] for name in names_in(nodes[nodes[node][0]][1])}
     return slow_maps(nodes[node][1], lot, known) != []
+
+
+def moved_by(question, strike):
+    """Whether a pattern strike takes new variables away from a node altogether, and whether children have them then."""
+    _, _, node, pattern = strike
+    nodes = question.nodes
+    rest = names_in([other for other in nodes[node][1] if other != pattern])
+    gone = [name for name in question.new_variables(node) if name not in rest]
+    below = names_in([other for parent, lot in nodes if parent == node for other in lot])
+    return tuple(sorted({name in below for name in gone}))
 
 
 class Alike(unittest.TestCase):
@@ -232,6 +244,56 @@ class Needless(unittest.TestCase):
         self.assertEqual(needless([two]), [])
         self.assertEqual(needless([two], rules=[HOMELESS]), [("pattern", 0, 1, ("town", "?x", "rome"))])
 
+    def test_two_questions_that_have_much_in_common(self):
+        nodes = [(None, [("t", "?egpwoqnua17f", "?s7tp8axmr5vq"), ("v", "?s7tp8axmr5vq", "?s7tp8axmr5vq")]),
+                 (0, [("v", "?d", "l")]), (1, [("p38i", "exg", "?rqejghiey9s8", "?rqejghiey9s8"),
+                                               ("v", "?rqejghiey9s8", "?rqejghiey9s8")]),
+                 (2, [("v", "?rqejghiey9s8", "?h")])]
+        rules = [Rule([("p38i", "?s", "?r", "?t")], ("v", "?t", "?r")),
+                 Rule([("v", "?t", "?t"), ("t", "?t", "?s")], ("v", "?t", "l"))]
+        wood = [Question(nodes), Question(nodes[:3])]
+        wanted = [("pattern", 0, 2, ("v", "?rqejghiey9s8", "?rqejghiey9s8")),
+                  ("pattern", 1, 2, ("v", "?rqejghiey9s8", "?rqejghiey9s8"))]
+        self.assertEqual(needless(wood, rules=rules), wanted)
+        thin, made = thinned(wood, rules=rules)
+        self.assertEqual(made, wanted)
+        nodes[2] = (1, nodes[2][1][:1])
+        self.assertEqual(thin, [Question(nodes), Question(nodes[:3])])
+        self.assertEqual([needless(wood), thinned(wood)], [[], (wood, [])])
+        self.assertEqual(needless(wood, rules=rules[1:]), [])
+
+    def test_a_variable_that_is_new_further_down_then(self):
+        # With the pattern b(?x,?y) left out, ?y is new in the next node.
+        wood = [Question.read("a(?x) b(?x,?y)\n c(?y,?z)")]
+        strike = ("pattern", 0, 0, ("b", "?x", "?y"))
+        self.assertEqual(struck(wood, strike), [Question.read("a(?x)\n c(?y,?z)")])
+        self.assertEqual(needless(wood), [])
+        # What is left is another question of the wood, and what is gone is told by a third one.
+        more = [*wood, Question.read("a(?x)\n c(?y,?z)"), *wood]
+        self.assertEqual(needless(more), [("tree", 0), strike, ("tree", 2), ("pattern", 2, 0, ("b", "?x", "?y"))])
+        self.assertEqual(thinned(more), (more[1:], [("tree", 0)]))
+        # By these rules nothing has an a, so all that is left must not tell anything, either.
+        self.assertEqual(needless(wood, rules=CLASH_A), [("tree", 0), ("node", 0, 1), strike])
+
+    def test_pattern_strikes_of_each_sort_by_definition(self):
+        numbers = dice(99)
+        seen = {}
+        for _ in range(900):
+            wood, rules = [], numbers.choice([CLASH_A, some_rules(numbers), some_rules(numbers, 3)])
+            while not wood or numbers.random() < 0.3:
+                wood.append(some_question(numbers, numbers.randint(1, 3), ("k",), numbers.random() < 0.8, SHAPES))
+            wood = [*wood, *changed_wood(numbers, wood)] if numbers.random() < 0.4 else wood
+            found = needless(wood, rules=rules)
+            for strike, left in slow_strikes(wood):
+                if strike[0] == "pattern" and (strike in found or numbers.random() < 0.1):
+                    sort = moved_by(wood[strike[1]], strike), strike in found
+                    if seen.get(sort, 0) < 60 or sort[0]:
+                        self.assertIs(slow_alike(wood, left, rules), strike in found)
+                        seen[sort] = seen.get(sort, 0) + 1
+        for moved in [(), (False,), (True,)]:
+            for wanted in [True, False]:
+                self.assertGreater(seen.get((moved, wanted), 0), 9, (moved, wanted))
+
     def test_thinned(self):
         self.assertEqual(thinned([DOUBLE]), ([TOWNS], [("pattern", 0, 1, ("person", "?x"))]))
         self.assertEqual(thinned([]), ([], []))
@@ -259,6 +321,53 @@ class Needless(unittest.TestCase):
             self.assertEqual(needless(wood, rules=rules), wanted)
             many += len(wanted)
         self.assertGreater(many, 100)
+
+    def test_a_strike_that_is_needless_after_another_one(self):
+        # Only when the second question does without m(?x), it tells with the third one all that the first one tells.
+        wood = [Question.read("p(?x)"), Question.read("m(?x) p(?x)\n m(?x) n(?e,?x)"), Question.read("m(?x)")]
+        strike = ("pattern", 1, 0, ("m", "?x"))
+        self.assertEqual(needless(wood), [strike, ("pattern", 1, 1, ("m", "?x"))])
+        thin = [Question.read("p(?x)\n m(?x) n(?e,?x)"), wood[2]]
+        self.assertEqual(needless([wood[0], *thin]), [("tree", 0)])
+        self.assertEqual(thinned(wood), (thin, [strike, ("tree", 0)]))
+        self.assertEqual(thinned([wood[2], wood[0], wood[1]])[1], [("pattern", 2, 0, ("m", "?x")), ("tree", 1)])
+        same = [*wood, Question.read("a(?x)"), wood[1]]
+        self.assertEqual(thinned(same)[1], [("tree", 1), ("pattern", 3, 0, ("m", "?x")), ("tree", 0)])
+
+    def test_strikes_in_vain(self):
+        vain = {("tree", 0): True, ("node", 2, 1): True, ("pattern", 1, 0, ("a", "?x")): True, ("tree", 1): True,
+                ("pattern", 3, 0, ("a", "?x")): True}
+        self.assertEqual(still_in_vain(vain, ("tree", 1)),
+                         {("tree", 0): True, ("node", 1, 1): True, ("pattern", 2, 0, ("a", "?x")): True})
+        self.assertEqual(still_in_vain(vain, ("tree", 4)), vain)
+        for strike in [("node", 4, 1), ("pattern", 4, 0, ("a", "?x"))]:
+            self.assertEqual(still_in_vain(vain, strike), {})
+
+    def test_what_is_left_out_of_the_first_node_and_follows_further_down(self):
+        rules = [Rule([("c", "?p", "?q")], ("b", "?p"))]
+        wood = [Question.read("a(?x) b(?x)\n c(?x,?y)"), Question.read("a(?x)\n c(?x,?y) d(?y)")]
+        strike = ("pattern", 0, 0, ("b", "?x"))
+        self.assertIn(strike, needless(wood, rules=rules))
+        self.assertNotIn(strike, needless(wood))
+        self.assertNotIn(strike, needless(wood[:1], rules=rules))
+        self.assertIs(slow_alike(wood, struck(wood, strike), rules), True)
+
+    def test_several_questions_left_out_by_definition(self):
+        numbers = dice(94)
+        several = 0
+        for _ in range(60):
+            wood, rules = some_wood(numbers, nodes=3, least=1), some_rules(numbers)
+            wood = [*wood, *changed_wood(numbers, wood), numbers.choice(wood)]
+            numbers.shuffle(wood)
+            thin, made = thinned(wood[:4], rules=rules)
+            left = wood[:4]
+            for strike in made:
+                self.assertIn(strike, needless(left, rules=rules))
+                left = struck(left, strike)
+            self.assertEqual(thin, left)
+            self.assertFalse([strike for strike, after in slow_strikes(thin) if slow_alike(thin, after, rules)])
+            several += len([strike for strike in made if strike[0] == "tree"]) > 1
+        self.assertGreater(several, 10)
 
     def test_thinned_by_definition(self):
         numbers = dice(93)
