@@ -69,12 +69,19 @@ class Ground:
         return fresh
 
     def exchange(self, gone, kept):
-        """Puts one term in the place of another one in a ground that is being closed."""
+        """Puts one term in the place of another one in a ground that is being closed, and returns what is changed."""
+        shapes = self.groups()
+        old = [pattern for pattern in self.present if gone in pattern]
+        for pattern in old:
+            del self.present[pattern]
+        for shape in list({(pattern[0], len(pattern)): True for pattern in old}):
+            shapes[shape] = [pattern for pattern in shapes[shape] if gone not in pattern]
         change = {gone: kept}
-        self.present = {filled(pattern, change) if gone in pattern else pattern: True for pattern in self.present}
-        self._shapes = None
+        changed = [filled(pattern, change) for pattern in old]
+        self.put(changed)
         moved = {name: kept if term == gone else term for name, term in self.moved.items()}
         self.moved = {**moved, gone: kept}
+        return changed
 
 
 def first_pair(groups, key):
@@ -180,9 +187,11 @@ def heads_of_many(body, ground, fresh):
     return [head for one in several for head in heads_from(body.outcome, one, ground.present)]
 
 
-def few_heads(body, ground):
-    """All heads that follow by an implication, whether they are there or not, or None if they may be many."""
-    shapes = ground.groups()
+def few_heads(body, ground, shapes):
+    """The heads that follow by an implication of patterns in groups by shape, or None if they may be many.
+
+    They are told whether they are there or not; patterns of the body without variables may be anywhere in the ground.
+    """
     for kind in body.kinds:
         if kind not in shapes:
             return []
@@ -192,30 +201,32 @@ def few_heads(body, ground):
     return None if rows is None else heads_of_rows(body.spots, rows)
 
 
-def heads_by(body, ground, fresh):
+def heads_by(body, ground, fresh, seen):
     """The heads that follow by an implication; some may be there already or come twice."""
-    heads = few_heads(body, ground)
+    heads = few_heads(body, ground, seen if len(body.kinds) == 1 else ground.groups())
     return heads_of_many(body, ground, fresh) if heads is None else heads
 
 
-def new_heads(bodies, ground, fresh, opened):
+def new_heads(bodies, ground, fresh, opened, seen):
     """The heads that follow by implications, where all that follows without what is fresh is there.
 
-    If the ground has just been opened, even that is not there which follows from nothing.
+    What is fresh is seen in groups by shape, too. If the ground has just been opened, all of it is fresh, and even that
+    is not there which follows from nothing.
     """
-    seen = {(pattern[0], len(pattern)): True for pattern in fresh}
     heads = []
     for body in bodies:
         if opened or any([kind in seen for kind in body.kinds]):
-            heads.extend(heads_by(body, ground, fresh))
+            heads.extend(heads_by(body, ground, fresh, seen))
     return heads
 
 
 def pair_alike(patterns, spots):
     """Two different patterns that have the same terms at some spots, or None; no pattern stands there twice."""
+    if len(patterns) < 2:
+        return None
     seen = {}
     for pattern in patterns:
-        row = picked(pattern, spots)
+        row = tuple([pattern[at] for at in spots])
         if row in seen:
             return seen[row], pattern
         seen[row] = pattern
@@ -224,40 +235,43 @@ def pair_alike(patterns, spots):
 
 def exchange_for(one, other):
     """The terms (gone, kept) of the first place at which two patterns differ."""
-    low, high = [sorted(pair) for pair in zip(one, other) if pair[0] != pair[1]][0]
+    at = 1
+    while one[at] == other[at]:
+        at += 1
+    low, high = sorted([one[at], other[at]])
     # Variables are less than constants.
     if not is_free(low):
         raise Clash()
     return (high, low) if is_free(high) else (low, high)
 
 
-def next_exchange(shapes, demands):
-    """The terms (gone, kept) that the first key asks for that does not hold, or None."""
+def next_exchange(shapes, demands, seen):
+    """The terms (gone, kept) that the first key asks for that does not hold, or None; what is fresh has been seen."""
     for shape, spots in demands:
-        pair = pair_alike(shapes.get(shape, ()), spots)
-        if pair is not None:
-            return exchange_for(pair[0], pair[1])
+        if shape in seen:
+            pair = pair_alike(shapes[shape], spots)
+            if pair is not None:
+                return exchange_for(pair[0], pair[1])
     return None
 
 
 def exchanged(ground, fresh, gone, kept):
     """Puts one term in the place of another one in a ground, and returns what is fresh then."""
+    same = [pattern for pattern in fresh if gone not in pattern]
     # What is changed may be of use to an implication again.
-    changed = [*fresh, *[pattern for pattern in ground.present if gone in pattern]]
-    ground.exchange(gone, kept)
-    change = {gone: kept}
-    return list({filled(pattern, change): True for pattern in changed})
+    return list({pattern: True for pattern in [*same, *ground.exchange(gone, kept)]})
 
 
 def follow(ground, added, book, opened):
     """Closes a ground to which some patterns have been added; raises Clash."""
     fresh = added
     while fresh or opened:
-        change = next_exchange(ground.groups(), book.demands)
+        seen = by_shape(fresh)
+        change = next_exchange(ground.groups(), book.demands, seen) if book.demands else None
         if change is not None:
             fresh = exchanged(ground, fresh, change[0], change[1])
         else:
-            fresh = ground.put(new_heads(book.bodies, ground, fresh, opened))
+            fresh = ground.put(new_heads(book.bodies, ground, fresh, opened, seen)) if book.bodies else []
             opened = False
 
 

@@ -39,7 +39,7 @@ def is_quiet(lots, book):
         if pair_alike(ground.groups().get(shape, ()), spots) is not None:
             return False
     for body in book.bodies:
-        heads = few_heads(body, ground)
+        heads = few_heads(body, ground, ground.groups())
         if heads is None or not all([head in lots[0] for head in heads]):
             return False
     return True

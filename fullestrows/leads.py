@@ -18,25 +18,34 @@ class Lead:
 
     def __init__(self, lot, names):
         self.asks = lot
+        self.plain = lot
         self.spaces = {}
-        free = [] if names is None else [pattern for pattern in lot if many_free(pattern, names) > 0]
-        self.plain = [pattern for pattern in lot if pattern not in free] if free else lot
-        self.steps = steps_for(free, names, self.spaces)
+        self.steps = []
+        free = [] if names is None else free_in(lot, names)
+        if free:
+            self.plain = [pattern for pattern in lot if pattern not in free]
+            self.steps = steps_for(free, names, self.spaces)
         self.free_names = sorted(self.spaces)
         self.free_places = [self.spaces[name] for name in self.free_names]
 
 
-def many_free(pattern, names):
-    """How many terms of a pattern are variables that are not among some names."""
-    return len([term for term in pattern[1:] if term[0] == "?" and term not in names])
+def free_in(lot, names):
+    """The patterns of a lot that have variables that are not among some names, those with the fewest of them ahead."""
+    several = []
+    for pattern in lot:
+        many = len([term for term in pattern[1:] if term[0] == "?" and term not in names])
+        if many > 0:
+            several.append((many, pattern))
+    return [pattern for _, pattern in sorted(several)]
 
 
-def next_free(free, names, places):
-    """The index of the pattern to be taken next: it has the fewest variables that have neither a term nor a place."""
-    if len(free) == 1:
-        return 0
-    known = [*names, *places]
-    return min([(many_free(pattern, known), index) for index, pattern in enumerate(free)])[1]
+def next_free(free, places):
+    """The index of the pattern to be taken next: the first one with a variable that has a place already, or 0."""
+    for index, pattern in enumerate(free):
+        for term in pattern:
+            if term in places:
+                return index
+    return 0
 
 
 def step_for(pattern, names, places, width):
@@ -67,7 +76,7 @@ def steps_for(free, names, places):
     left = list(free)
     width = 0
     while left:
-        pattern = left.pop(next_free(left, names, places))
+        pattern = left.pop(next_free(left, places) if steps else 0)
         steps.append(step_for(pattern, names, places, width))
         width += len(pattern)
     return steps
