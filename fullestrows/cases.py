@@ -43,21 +43,27 @@ def way_into(lot, wood, known):
     return None
 
 
-def is_way_into(value, present, wood, known):
-    """Whether any tuple is one of a part of a wood and a dict above a given one that leads it to what is present."""
+def looks_like_way(value, wood):
+    """Whether any tuple is one of a part of a wood and a dict from its variables to strings.
+
+    Each variable of a part is in its patterns, so a dict to what is no string leads them nowhere.
+    """
     if len(value) != 3 or not is_whole(value[0]) or not 0 <= value[0] < len(wood):
         return False
     tree, part, found = value
     if not wood[tree].is_part(part) or not isinstance(found, dict):
         return False
-    place = wood[tree].place_of(part)
-    # Each variable of the part is in its patterns, so what is no string leads them nowhere.
-    if len(found) != len(place.owned) or not all([isinstance(found.get(name), str) for name in place.owned]):
-        return False
+    names = wood[tree].place_of(part).owned
+    return len(found) == len(names) and all([isinstance(found.get(name), str) for name in names])
+
+
+def leads_into(value, present, wood, known):
+    """Whether a tuple that looks like a way has a dict above a given one that leads its part to what is present."""
+    tree, part, found = value
     for name in known:
         if found.get(name) != known[name]:
             return False
-    for pattern in place.asks:
+    for pattern in wood[tree].place_of(part).asks:
         if tuple([found.get(term, term) for term in pattern]) not in present:
             return False
     return True

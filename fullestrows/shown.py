@@ -1,7 +1,7 @@
 """Whether each answer of one wood is part of an answer of another one, if only some variables are shown."""
 
 from fullestrows.answers import filled_up, has_above, is_answer
-from fullestrows.cases import constants_in, has_places, is_way_into, shown_store
+from fullestrows.cases import constants_in, has_places, leads_into, looks_like_way, shown_store
 from fullestrows.errors import BadNode
 from fullestrows.grounds import course_of, ground_of, terms_at
 from fullestrows.leads import first_free_led, first_led, is_free_led, is_led, plain_held
@@ -104,19 +104,29 @@ def ways(wood, others, shown, *, rules=()):
     return found
 
 
+def has_form(value, others):
+    """Whether any value has the form of a way into another wood."""
+    if not isinstance(value, tuple):
+        return False
+    return value == ("clash",) or (value[:1] == ("way",) and looks_like_way(value[1:], others))
+
+
 def is_way(value, show, part, others):
-    """Whether any value is a way for a part of a question into another wood."""
+    """Whether a value that has the form of a way is one for a part of a question into another wood."""
     ground = ground_of(show.course, part)
-    if ground is None:
-        return value == ("clash",)
-    return (isinstance(value, tuple) and value[:1] == ("way",)
-            and is_way_into(value[1:], ground.present, others, terms_at(ground, names_shown(show, part))))
+    if ground is None or value[0] == "clash":
+        return ground is None and value[0] == "clash"
+    return leads_into(value[1:], ground.present, others, terms_at(ground, names_shown(show, part)))
 
 
 def are_ways(value, wood, others, shown, *, rules=()):
     """Whether any value is a dict of ways that show that a wood is part of another one."""
     if not has_places(value, wood):
         return False
+    # What has not even the form of a way is told before anything is closed.
+    for place in value:
+        if not has_form(value[place], others):
+            return False
     book = book_of(rules)
     for tree, question in enumerate(wood):
         show = Show(question, shown, book)

@@ -1,6 +1,6 @@
 """What is sure if not everything is known of a store: its lot has variables, and other facts may be in it, too."""
 
-from fullestrows.cases import constants_in, is_way_into, way_into
+from fullestrows.cases import constants_in, leads_into, looks_like_way, way_into
 from fullestrows.errors import Clash
 from fullestrows.facts import by_shape
 from fullestrows.forms import add_rows, as_maps, below_some
@@ -66,7 +66,7 @@ def is_why(value, known, wood, lot, *, rules=()):
     patterns = end_of_lot(lot, rules)
     if patterns is None or not isinstance(value, tuple):
         return False
-    return is_way_into(value, {pattern: True for pattern in patterns}, wood, known)
+    return looks_like_way(value, wood) and leads_into(value, {pattern: True for pattern in patterns}, wood, known)
 
 
 def against(known, wood, lot, *, rules=()):
